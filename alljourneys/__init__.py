@@ -1,0 +1,1 @@
+"""Alljourneys: least prices between all places of an endless map."""

@@ -1,0 +1,120 @@
+"""How trees are made: piece by piece, each node chosen by what is known of its piece.
+
+A number is a tuple as told by forms.reading: its value at the base of a piece, and
+its changes by the two directions.
+"""
+
+from math import gcd
+
+from alljourneys.nodes import is_parting, parted
+
+DIAGONAL = ("diagonal",)
+TURN = ("turn",)
+
+# How many diagonals one behind the other are looked at.
+BENDS = 100
+
+
+class Choice:
+    """A node that may be next, and about how many pieces are needed if it is."""
+
+    def __init__(self, toil, node):
+        self.toil = toil
+        self.node = node
+
+
+def grown(piece, known, judge):
+    """A tuple of a tree over the piece, and of None.
+
+    judge(piece, known) gives the node of a piece, and what is known of the pieces
+    into which this node parts it. Where it gives None for a node, there is no tree:
+    the result is None, and what judge told beside it.
+    """
+    nodes = []
+    waiting = [(piece, known)]
+    while waiting:
+        here, before = waiting.pop()
+        node, behind = judge(here, before)
+        if node is None:
+            return None, behind
+        nodes.append(node)
+        if is_parting(here, node):
+            waiting.extend([(part, behind) for part in parted(here, node)[::-1]])
+    return tuple(nodes), None
+
+
+def is_mixed(number):
+    """Whether one direction changes the number upwards and the other one downwards."""
+    return number[1] * number[2] < 0
+
+
+def climbs(number):
+    """How often each direction is to be taken until a number below 0 is not below 0; None where it never is."""
+    low, first, second = number
+    return (-(low // first) if first > 0 else None, -(low // second) if second > 0 else None)
+
+
+def sinks(number):
+    """How often each direction is to be taken until a number is below 0; None where it never is."""
+    low, first, second = number
+    return (low // -first + 1 if first < 0 else None, low // -second + 1 if second < 0 else None)
+
+
+def leaves(number):
+    """How often each direction is to be taken until a number that is 0, or comes nearer to it, is beyond it."""
+    low, first, second = number
+    return (abs(low) // abs(first) + 1 if first != 0 else None, abs(low) // abs(second) + 1 if second != 0 else None)
+
+
+def fewest(many):
+    """The lesser one of two numbers, either of which may be None."""
+    return min([number for number in many if number is not None])
+
+
+def peeling(many):
+    """The node that begins to peel by the direction that needs fewer pieces; a turn if this is the second one."""
+    first, second = many
+    if first is None or (second is not None and second < first):
+        return TURN
+    return ("peel", first)
+
+
+def parts_needed(tops, many):
+    """Into how many parts each direction is to go until it changes all tops by multiples of many."""
+    first, second = many, many
+    for top in tops:
+        first, second = gcd(first, top[1]), gcd(second, top[2])
+    return many // first, many // second
+
+
+def parting(needed):
+    """The node that begins to part by the directions that need it."""
+    return ("parts", needed[0]) if needed[0] > 1 else TURN
+
+
+def bend(number):
+    """The choice for a number that goes upwards by one direction and downwards by the other one.
+
+    Diagonals alone lead to its line, but past pieces on which it settles only far
+    away; parts of the right size need just one diagonal more, but are many. So as
+    many diagonals are counted as make the parts behind them cheapest.
+    """
+    low, first, second = number
+    step = gcd(first, second)
+    up, down = max(first, second) // step, -min(first, second) // step
+    far = abs(low) // step
+    best = 2 * up * down
+    spent, turns, wanted = 0, 0, 0
+    while up != down and turns < BENDS:
+        turns += 1
+        if up > down:
+            spent += far * far // (2 * up * (up - down)) if low < 0 else 0
+            up = up - down
+        else:
+            spent += far * far // (2 * down * (down - up)) if low >= 0 else 0
+            down = down - up
+        if spent + turns + 2 * up * down < best:
+            best, wanted = spent + turns + 2 * up * down, turns
+    if wanted > 0 or first == -second:
+        return Choice(best + 2 * far, DIAGONAL)
+    return Choice(best + 2 * far, parting((abs(second) // step, abs(first) // step)))

@@ -1,0 +1,88 @@
+"""Which of several sheets each cell belongs to, and trees that show it."""
+
+from alljourneys.forms import gauges_of, reading, whole
+from alljourneys.growing import grown
+from alljourneys.nodes import ends_of, is_end, is_index, trees_hold
+from alljourneys.pieced import sheet_of
+from alljourneys.settling import Claim, settling
+
+OWN = ("own",)
+
+
+class Part:
+    """The cells of a piece, with their least prices, and the index of the sheet that they belong to."""
+
+    def __init__(self, index, sheet):
+        self.index = index
+        self.sheet = sheet
+
+
+class Rival:
+    """Another sheet than the one that is parted; cells are rather its own where it is cheaper by at least the bar."""
+
+    def __init__(self, index, gauge, owner):
+        self.index = index
+        self.gauge = gauge
+        self.bar = 1 if index > owner else 0
+
+
+    def claim(self, piece):
+        """What must be true where cells of a piece belong rather to the rival than to the owner."""
+        gauge = self.gauge
+        tops = [reading(form, piece) for form in gauge.tops]
+        low, first, second = reading(gauge.spare, piece)
+        offsets = [reading(form, piece) for form in gauge.offsets]
+        return Claim(self, tops + [(low - self.bar, first, second)], offsets, [(tops, gauge.many)])
+
+
+def _judged(piece, rivals):
+    """The node of a piece, and the rivals that are left behind it."""
+    claims = [rival.claim(piece) for rival in rivals]
+    for claim in claims:
+        if claim.is_held():
+            return ("end", claim.key.index), []
+    claims = [claim for claim in claims if not claim.is_out()]
+    if not claims:
+        return OWN, []
+    return settling(claims), [claim.key for claim in claims]
+
+
+def owned(sheets):
+    """A tuple of one tree for each sheet, which tells what cells of it belong to it, and to whom the others do not."""
+    gauges = gauges_of(sheets)
+    trees = []
+    for owner, sheet in enumerate(sheets):
+        rivals = [Rival(index, gauge, owner) for index, gauge in enumerate(gauges) if index != owner]
+        trees.append(grown(whole(sheet), rivals, _judged)[0])
+    return tuple(trees)
+
+
+def owners_hold(sheets, trees):
+    """Whether any value is a tuple of one tree for each sheet whose ends tell to whom its cells belong."""
+    gauges = gauges_of(sheets)
+
+    def fits(owner, piece, node):
+        if is_end(node, "own", 1):
+            rivals = [Rival(index, gauge, owner) for index, gauge in enumerate(gauges) if index != owner]
+            return all([rival.claim(piece).is_out() for rival in rivals])
+        if not is_end(node, "end", 2) or not is_index(node[1], gauges) or node[1] == owner:
+            return False
+        return Rival(node[1], gauges[node[1]], owner).claim(piece).is_held()
+
+    return trees_hold([whole(sheet) for sheet in sheets], trees, fits)
+
+
+def parts_of(sheets):
+    """A tuple of Parts; each cell that one of the sheets has is in exactly one of them, for the least price."""
+    parts = []
+    for index, tree in enumerate(owned(sheets)):
+        for piece, node in ends_of(whole(sheets[index]), tree):
+            if node == OWN:
+                parts.append(Part(index, sheet_of(piece)))
+    return tuple(parts)
+
+
+def least_at(sheets, cell):
+    """A tuple of the least price of the cell and the index of the sheet that it belongs to; None if no sheet has it."""
+    prices = [sheet.price_at(cell) for sheet in sheets]
+    return min([(price, index) for index, price in enumerate(prices) if price is not None], default=None)

@@ -1,0 +1,252 @@
+"""The search for a tree that shows that sheets have all cells of a sheet."""
+
+from math import gcd, lcm
+
+from alljourneys.forms import is_divided, is_naught, reading, stays_low, stays_up
+from alljourneys.growing import bend, climbs, fewest, grown, is_mixed, parting, parts_needed, peeling
+from alljourneys.nodes import parted
+
+# How prices are looked at: as they are; as if the sheet were dearer by any number; or not at all.
+EXACT = 0
+SLACK = 1
+FREE = 2
+
+# How many times more pieces a taker that only goes on may need than one that a diagonal helps, and yet come first.
+BENDING_AHEAD = 8
+
+
+class Taker:
+    """A sheet of the list, by its index and its gauge, as one that may take pieces."""
+
+    def __init__(self, index, gauge):
+        self.index = index
+        self.gauge = gauge
+
+
+class View:
+    """What a taker is on a piece: the tops of its counts, its offsets, and all numbers that must not be below 0."""
+
+    def __init__(self, taker, piece, mode):
+        gauge = taker.gauge
+        self.taker = taker
+        self.many = gauge.many
+        self.tops = [reading(form, piece) for form in gauge.tops]
+        self.offsets = [reading(form, piece) for form in gauge.offsets]
+        self.spare = reading(gauge.spare, piece)
+        self.numbers = list(self.tops)
+        if mode == EXACT:
+            self.numbers.append(self.spare)
+        elif mode == SLACK:
+            self.numbers.append((0, self.spare[1], self.spare[2]))
+
+    def may_have(self):
+        """False only if the taker has no cell of the piece."""
+        for number in self.numbers:
+            if stays_low(number):
+                return False
+        for low, first, second in self.offsets:
+            if stays_low((low, first, second)) or stays_low((-low, -first, -second)):
+                return False
+        return self.sparseness() is not None
+
+    def sparseness(self):
+        """Of how many counts of the piece one makes the taker's counts integers; None if none does."""
+        many = self.many
+        if not self.tops:
+            return 1
+        if len(self.tops) == 1:
+            low, first, second = self.tops[0]
+            common = gcd(many, first, second)
+            return many // common if low % common == 0 else None
+        (low, first, second), (low2, first2, second2) = self.tops
+        # The tops are divisible somewhere if their values are in the lattice of the changes and of many: if adding
+        # them to what spans it makes no finer lattice, so no lesser common divisor of the crosses.
+        common = gcd(first * second2 - second * first2, many * gcd(many, first, second, first2, second2))
+        finer = gcd(low * first2 - low2 * first, low * second2 - low2 * second, many * low, many * low2)
+        return many * many // common if finer % common == 0 else None
+
+    def has_base(self):
+        """Whether the taker has the base of the piece."""
+        for low, _, _ in self.numbers:
+            if low < 0:
+                return False
+        for low, _, _ in self.offsets:
+            if low != 0:
+                return False
+        for low, _, _ in self.tops:
+            if low % self.many != 0:
+                return False
+        return True
+
+    def grows(self):
+        """Whether nothing that must not be below 0 sinks, and the offsets are and stay 0."""
+        for number in self.numbers:
+            if number[1] < 0 or number[2] < 0:
+                return False
+        for number in self.offsets:
+            if not is_naught(number):
+                return False
+        return True
+
+    def takes(self):
+        """Whether the taker has each cell of the piece."""
+        for number in self.numbers:
+            if not stays_up(number):
+                return False
+        for number in self.tops:
+            if not is_divided(number, self.many):
+                return False
+        return all([is_naught(number) for number in self.offsets])
+
+    def bends(self):
+        """Whether a diagonal may help: what sinks by one direction rises by the other one."""
+        if self.offsets or not any([is_mixed(number) for number in self.numbers]):
+            return False
+        return all([is_mixed(number) or (number[1] >= 0 and number[2] >= 0) for number in self.numbers])
+
+    def parts(self):
+        """Into how many parts the piece is to go until the changes of the taker's counts are integers."""
+        first, second = parts_needed(self.tops, self.many)
+        return first * second
+
+    def cost(self):
+        """What the taker of a piece costs more than the sheet at the base."""
+        return -(self.spare[0] // self.many)
+
+    def strain(self):
+        """About how many pieces are needed until a growing taker takes one."""
+        strips = sum([fewest(climbs(number)) for number in self.numbers if number[0] < 0])
+        return self.parts() * (1 + strips)
+
+    def bent(self):
+        """The node by which a bending taker comes nearer to a line beyond which it goes on."""
+        found = [bend(number) for number in self.numbers if is_mixed(number)]
+        return min(found, key=lambda choice: choice.toil).node
+
+    def nearer(self):
+        """The node by which a growing taker comes nearer to taking a piece."""
+        needed = parts_needed(self.tops, self.many)
+        if needed != (1, 1):
+            return parting(needed)
+        lows = [number for number in self.numbers if number[0] < 0]
+        return peeling(climbs(lows[0]))
+
+
+class Hole:
+    """Where a search ended: what the takers left are on a piece, and the way on which they fail.
+
+    The way is the first direction and so many times the second one; it is None if
+    they fail at the base.
+    """
+
+    def __init__(self, piece, views, times):
+        self.piece = piece
+        self.views = views
+        self.times = times
+
+    def along(self):
+        """The shift of the way."""
+        directions = self.piece[1]
+        x, y, _ = directions[0]
+        if len(directions) == 1:
+            return (x, y)
+        return (x + self.times * directions[1][0], y + self.times * directions[1][1])
+
+    def cell_after(self, steps):
+        """The cell to which the way, gone so often, leads."""
+        x, y, _ = self.piece[0]
+        if self.times is None:
+            return (x, y)
+        shift = self.along()
+        return (x + steps * shift[0], y + steps * shift[1])
+
+    def missed_cell(self):
+        """A cell that no taker has."""
+        if self.times is None:
+            return self.cell_after(0)
+        ends = [left_behind(view.numbers, view.offsets, self.times) for view in self.views]
+        return self.cell_after(max(ends, default=0))
+
+
+def left_behind(numbers, offsets, times):
+    """How often a way is to be gone until these numbers tell of no cell any more; None if they never do."""
+    for low, first, second in offsets:
+        if first + times * second != 0:
+            return abs(low) + 1
+    for low, first, second in numbers:
+        fall = -(first + times * second)
+        if fall > 0:
+            return max(0, low // fall + 1)
+    return None
+
+
+def _far_times(piece, views):
+    """How many times the second direction is to be taken beside the first one, so that no line of steps is met."""
+    if len(piece[1]) == 1:
+        return 0
+    times = 1
+    while any([first + times * second == 0 for view in views for _, first, second in view.offsets]):
+        times += 1
+    return times
+
+
+def _views(piece, takers, mode):
+    """The views of the takers that may have cells of the piece."""
+    return [view for view in [View(taker, piece, mode) for taker in takers] if view.may_have()]
+
+
+def _is_thin(views):
+    """Whether those that go on without end have, even together, less than all cells far away in the piece."""
+    top, bottom = 0, 1
+    for view in views:
+        if view.grows() or view.bends():
+            many = view.sparseness()
+            wider = lcm(bottom, many)
+            top, bottom = top * (wider // bottom) + wider // many, wider
+    return top < bottom
+
+
+def _hole_in(piece, views, mode):
+    """The Hole in a piece in which the views are thin."""
+    while True:
+        node, left = _node_of(piece, views)
+        if node is None:
+            return left
+        # How thin the pieces are is, in the middle, how thin the whole was; so one of them is thin, too.
+        for part in parted(piece, node)[::-1]:
+            inside = _views(part, left, mode)
+            if _is_thin(inside):
+                piece, views = part, inside
+                break
+
+
+def _judged(piece, takers, mode):
+    """The node of a piece, and the takers that are left behind it; None and a Hole if there is none."""
+    views = _views(piece, takers, mode)
+    if _is_thin(views):
+        return None, _hole_in(piece, views, mode)
+    return _node_of(piece, views)
+
+
+def _node_of(piece, views):
+    """The node of a piece with these views, and their takers; None and a Hole if there is none."""
+    left = [view.taker for view in views]
+    taking = [view for view in views if view.takes()]
+    if taking:
+        return ("end", min(taking, key=lambda view: view.cost()).taker.index), left
+    if not any([view.has_base() for view in views]):
+        return None, Hole(piece, views, None)
+    growing = min([view for view in views if view.grows()], key=lambda view: view.strain(), default=None)
+    bending = min([view for view in views if view.bends()], key=lambda view: view.parts(), default=None)
+    if growing is None and bending is None:
+        return None, Hole(piece, views, _far_times(piece, views))
+    # A sheet that goes on everywhere may do so on few cells only; cutting it first would make needlessly many pieces.
+    if growing is None or (bending is not None and growing.strain() > BENDING_AHEAD * bending.parts()):
+        return bending.bent(), left
+    return growing.nearer(), left
+
+
+def searched(piece, gauges, mode):
+    """A tree over the piece whose ends hold over the gauges, looked at so, beside None; or None beside a Hole."""
+    takers = [Taker(index, gauge) for index, gauge in enumerate(gauges)]
+    return grown(piece, takers, lambda here, left: _judged(here, left, mode))
