@@ -1,8 +1,11 @@
 """Whether each cell of a sheet is had by other sheets for at most its price, and by how much they are dearer."""
 
 from alljourneys.forms import gauges_of, whole
-from alljourneys.nodes import ends_of
-from alljourneys.searching import EXACT, FREE, SLACK, left_behind, searched
+from alljourneys.nodes import ends_of, is_parting, parted
+from alljourneys.searching import EXACT, FREE, SLACK, judged, left_behind, searched, takers_of
+
+# Counts of cells at which the greatest difference is looked for first.
+SAMPLES = (0, 1, 2, 3, 5, 8, 13, 34, 89, 233, 610)
 
 
 class Cover:
@@ -33,7 +36,7 @@ class Rise:
 def covered(sheet, sheets):
     """A Cover if each cell of the sheet is had by one of the sheets for at most its price, otherwise a Gap."""
     tree, hole = searched(whole(sheet), gauges_of(sheets), EXACT)
-    return Gap(hole.missed_cell()) if tree is None else Cover(tree)
+    return Gap(hole.missed_cells()[0]) if tree is None else Cover(tree)
 
 
 def rise(sheet, sheets):
@@ -48,8 +51,8 @@ def rise(sheet, sheets):
         missing = searched(piece, gauges, FREE)[1]
         if missing is None:
             return _endless(hole)
-        return Rise("cut", None, missing.missed_cell(), None, None)
-    return Rise("cut", None, hole.missed_cell(), None, None)
+        return Rise("cut", None, missing.missed_cells()[0], None, None)
+    return Rise("cut", None, hole.missed_cells()[0], None, None)
 
 
 def _endless(hole):
@@ -75,23 +78,35 @@ def _difference(sheet, sheets, cell):
 
 def _bounded(sheet, sheets, tree):
     """The Rise if there is a greatest difference; the tree holds for the sheet with a price that is great enough."""
-    gauges = gauges_of(sheets)
-    low, high, cell = None, None, None
-    for piece, node in ends_of(whole(sheet), tree):
-        base = (piece[0][0], piece[0][1])
-        price = sheets[node[1]].price_at(base) - piece[0][2]
-        high = price if high is None else max(high, price)
-        least = _difference(sheet, sheets, base)
-        if low is None or least > low:
-            low, cell = least, base
-    # Between the greatest difference known and the bound by the tree, the first guess is that it is known already.
-    guess = low
-    while low < high:
-        better, hole = searched(whole(sheet.moved((0, 0), guess)), gauges, EXACT)
-        if better is None:
-            cell = hole.missed_cell()
-            low = _difference(sheet, sheets, cell)
-        else:
-            tree, high = better, guess
-        guess = (low + high) // 2
-    return Rise("bounded", low, cell, None, tree)
+    cells = [(piece[0][0], piece[0][1]) for piece, _ in ends_of(whole(sheet), tree)]
+    # The more is known of the greatest difference ahead, the less is told apart that need not be.
+    samples = [()]
+    for _ in sheet.steps:
+        samples = [(*counts, number) for counts in samples for number in SAMPLES]
+    cells.extend([sheet.cell_of(counts) for counts in samples])
+    most, cell = max([(_difference(sheet, sheets, base), base) for base in cells])
+    return _raised(sheet, sheets, most, cell)
+
+
+def _raised(sheet, sheets, most, cell):
+    """The Rise if there is a greatest difference, which is at least most, that of the cell.
+
+    The sheet is made dearer whenever a piece has a greater difference. What is done
+    by then holds all the more, so the search can go on from there.
+    """
+    takers = takers_of(gauges_of(sheets))
+    nodes = []
+    waiting = [(whole(sheet), takers)]
+    while waiting:
+        piece, left = waiting.pop()
+        (x, y, price), directions = piece
+        node, behind = judged(((x, y, price + most), directions), left, EXACT)
+        if node is None:
+            # Sheets that were left out for a lesser price may have cells now, so all are looked at once more.
+            waiting.append((piece, takers))
+            most, cell = max([(most, cell)] + [(_difference(sheet, sheets, far), far) for far in behind.missed_cells()])
+            continue
+        nodes.append(node)
+        if is_parting(piece, node):
+            waiting.extend([(part, behind) for part in parted(piece, node)[::-1]])
+    return Rise("bounded", most, cell, None, tuple(nodes))

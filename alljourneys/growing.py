@@ -71,12 +71,11 @@ def fewest(many):
     return min([number for number in many if number is not None])
 
 
-def peeling(many):
-    """The node that begins to peel by the direction that needs fewer pieces; a turn if this is the second one."""
-    first, second = many
-    if first is None or (second is not None and second < first):
-        return TURN
-    return ("peel", first)
+def on_strip(number, times, side):
+    """The number on a strip: one direction, told by side, taken so many times, and only the other one left."""
+    if side == 0:
+        return (number[0] + times * number[1], number[2], 0)
+    return (number[0] + times * number[2], number[1], 0)
 
 
 def parts_needed(tops, many):

@@ -3,7 +3,7 @@
 from math import gcd, lcm
 
 from alljourneys.forms import is_divided, is_naught, reading, stays_low, stays_up
-from alljourneys.growing import bend, climbs, fewest, grown, is_mixed, parting, parts_needed, peeling
+from alljourneys.growing import TURN, Choice, bend, climbs, fewest, grown, is_mixed, on_strip, parting, parts_needed
 from alljourneys.nodes import parted
 
 # How prices are looked at: as they are; as if the sheet were dearer by any number; or not at all.
@@ -11,8 +11,8 @@ EXACT = 0
 SLACK = 1
 FREE = 2
 
-# How many times more pieces a taker that only goes on may need than one that a diagonal helps, and yet come first.
-BENDING_AHEAD = 8
+# How many times farther than needed the second cell is that a hole tells.
+FAR = 1000000
 
 
 class Taker:
@@ -119,17 +119,44 @@ class View:
         return self.parts() * (1 + strips)
 
     def bent(self):
-        """The node by which a bending taker comes nearer to a line beyond which it goes on."""
+        """The choice by which a bending taker comes nearer to a line beyond which it goes on."""
         found = [bend(number) for number in self.numbers if is_mixed(number)]
-        return min(found, key=lambda choice: choice.toil).node
+        best = min(found, key=lambda choice: choice.toil)
+        return Choice(self.parts() * best.toil, best.node)
 
-    def nearer(self):
-        """The node by which a growing taker comes nearer to taking a piece."""
+    def strip_strain(self, times, side):
+        """About how many pieces are needed until the taker takes a strip; None if it takes none of it without end."""
+        numbers = [on_strip(number, times, side) for number in self.numbers]
+        offsets = [on_strip(number, times, side) for number in self.offsets]
+        if not all([is_naught(number) for number in offsets]) or any([number[1] < 0 for number in numbers]):
+            return None
+        if any([stays_low(number) for number in numbers]):
+            return None
+        parts = parts_needed([on_strip(number, times, side) for number in self.tops], self.many)[0]
+        return parts * (1 + max([climbs(number)[0] for number in numbers if number[0] < 0], default=0))
+
+    def nearer(self, views):
+        """The choice by which a growing taker comes nearer to taking a piece, beside these views of all takers."""
         needed = parts_needed(self.tops, self.many)
         if needed != (1, 1):
-            return parting(needed)
-        lows = [number for number in self.numbers if number[0] < 0]
-        return peeling(climbs(lows[0]))
+            return Choice(self.strain(), parting(needed))
+        choices = []
+        for number in self.numbers:
+            many = climbs(number) if number[0] < 0 else (None, None)
+            if many[0] is not None:
+                choices.append(Choice(_strips_strain(views, many[0], 0), ("peel", many[0])))
+            if many[1] is not None:
+                choices.append(Choice(_strips_strain(views, many[1], 1), TURN))
+        return min(choices, key=lambda choice: choice.toil)
+
+
+def _strips_strain(views, many, side):
+    """About how many pieces are needed for so many strips, judged by the first and the last one of them."""
+    strains = [1]
+    for times in (0, many - 1):
+        found = [view.strip_strain(times, side) for view in views]
+        strains.append(min([strain for strain in found if strain is not None], default=1))
+    return many * max(strains)
 
 
 class Hole:
@@ -160,12 +187,12 @@ class Hole:
         shift = self.along()
         return (x + steps * shift[0], y + steps * shift[1])
 
-    def missed_cell(self):
-        """A cell that no taker has."""
+    def missed_cells(self):
+        """Cells that no taker has: the first one on the way that is surely so, and one far behind it."""
         if self.times is None:
-            return self.cell_after(0)
+            return [self.cell_after(0)]
         ends = [left_behind(view.numbers, view.offsets, self.times) for view in self.views]
-        return self.cell_after(max(ends, default=0))
+        return [self.cell_after(max(ends, default=0)), self.cell_after(FAR * (max(ends, default=0) + 1))]
 
 
 def left_behind(numbers, offsets, times):
@@ -220,7 +247,7 @@ def _hole_in(piece, views, mode):
                 break
 
 
-def _judged(piece, takers, mode):
+def judged(piece, takers, mode):
     """The node of a piece, and the takers that are left behind it; None and a Hole if there is none."""
     views = _views(piece, takers, mode)
     if _is_thin(views):
@@ -236,17 +263,20 @@ def _node_of(piece, views):
         return ("end", min(taking, key=lambda view: view.cost()).taker.index), left
     if not any([view.has_base() for view in views]):
         return None, Hole(piece, views, None)
+    choices = [view.bent() for view in views if view.bends()]
     growing = min([view for view in views if view.grows()], key=lambda view: view.strain(), default=None)
-    bending = min([view for view in views if view.bends()], key=lambda view: view.parts(), default=None)
-    if growing is None and bending is None:
+    if growing is not None:
+        choices.append(growing.nearer(views))
+    if not choices:
         return None, Hole(piece, views, _far_times(piece, views))
-    # A sheet that goes on everywhere may do so on few cells only; cutting it first would make needlessly many pieces.
-    if growing is None or (bending is not None and growing.strain() > BENDING_AHEAD * bending.parts()):
-        return bending.bent(), left
-    return growing.nearer(), left
+    return min(choices, key=lambda choice: choice.toil).node, left
+
+
+def takers_of(gauges):
+    """The list of the gauges as takers."""
+    return [Taker(index, gauge) for index, gauge in enumerate(gauges)]
 
 
 def searched(piece, gauges, mode):
     """A tree over the piece whose ends hold over the gauges, looked at so, beside None; or None beside a Hole."""
-    takers = [Taker(index, gauge) for index, gauge in enumerate(gauges)]
-    return grown(piece, takers, lambda here, left: _judged(here, left, mode))
+    return grown(piece, takers_of(gauges), lambda here, left: judged(here, left, mode))

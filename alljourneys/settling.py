@@ -7,7 +7,7 @@ way would need only keep them small. A number is a tuple as told by forms.readin
 from math import gcd, lcm
 
 from alljourneys.forms import is_broken, is_divided, is_naught, stays_low, stays_up
-from alljourneys.growing import TURN, Choice, bend, climbs, is_mixed, leaves, parting, parts_needed, sinks
+from alljourneys.growing import TURN, Choice, bend, climbs, is_mixed, leaves, on_strip, parting, parts_needed, sinks
 
 
 class Claim:
@@ -53,18 +53,11 @@ def _is_open(number):
     return not stays_up(number) and not stays_low(number)
 
 
-def _along(number, times, side):
-    """The number on a strip: one direction, told by side, taken so many times, and only the other one left."""
-    if side == 0:
-        return (number[0] + times * number[1], number[2], 0)
-    return (number[0] + times * number[2], number[1], 0)
-
-
 def _strip_toil(claim, times, side):
     """About how many pieces are needed on a strip until it is told apart for a claim."""
-    strip = Claim(claim.key, [_along(number, times, side) for number in claim.numbers],
-                  [_along(offset, times, side) for offset in claim.offsets],
-                  [([_along(top, times, side) for top in tops], many) for tops, many in claim.groups])
+    strip = Claim(claim.key, [on_strip(number, times, side) for number in claim.numbers],
+                  [on_strip(offset, times, side) for offset in claim.offsets],
+                  [([on_strip(top, times, side) for top in tops], many) for tops, many in claim.groups])
     if strip.is_out():
         return 0
     lengths = [_climb(number)[0] for number in strip.numbers if _is_open(number)]
