@@ -1,4 +1,4 @@
-"""Run all files test_*.py of the project and of ../shared/tests; exit with 1 if a test fails or none is found."""
+"""Run all files test_*.py under the folder that is named; exit with 1 if a test fails or none is found."""
 
 import sys
 import unittest
@@ -19,11 +19,7 @@ def suite_of(folder):
 
 def main():
     sys.path.insert(0, str(ROOT))
-    suite = suite_of(ROOT / "tests")
-    shared = ROOT.parent / "shared" / "tests"
-    if shared.is_dir():
-        suite.addTests(suite_of(shared))
-    result = unittest.TextTestRunner(stream=sys.stdout, verbosity=1).run(suite)
+    result = unittest.TextTestRunner(stream=sys.stdout, verbosity=1).run(suite_of(Path(sys.argv[1]).resolve()))
     bad = len(result.failures) + len(result.errors) + len(result.unexpectedSuccesses)
     print(f"{result.testsRun - bad} passed, {bad} failed", flush=True)
     sys.exit(0 if result.wasSuccessful() and result.testsRun > 0 else 1)

@@ -252,7 +252,16 @@ def judged(piece, takers, mode):
     views = _views(piece, takers, mode)
     if _is_thin(views):
         return None, _hole_in(piece, views, mode)
-    return _node_of(piece, views)
+    node, left = _node_of(piece, views)
+    if node is None or node[0] == "end" or len(piece[1]) < 2:
+        return node, left
+    # A hole on a side of the piece would be found at last, but perhaps behind very many pieces.
+    for direction in piece[1]:
+        side = (piece[0], (direction,))
+        inside = _views(side, left, mode)
+        if _is_thin(inside):
+            return None, _hole_in(side, inside, mode)
+    return node, left
 
 
 def _node_of(piece, views):
