@@ -1,9 +1,9 @@
 """Maps that are put together of pieces, by plans."""
 
 from alljourneys.checks import is_name
-from alljourneys.errors import BadName, BadText
+from alljourneys.errors import BadName
 from alljourneys.maps import Road, ends_rule, map_of, require_few, require_near, road_of
-from alljourneys.words import SHIFTS, new_name, numbers, one_of, raise_too_short, read_line
+from alljourneys.words import SHIFTS, new_name, numbers, one_of, raise_too_short, read_text
 
 ROAD_WORDS = ("road", "street")
 WORD_COUNTS = {"piece": (2,), "spot": (2,), "road": (7, 8), "street": (7, 8), "use": (4, 5, 6, 7), "same": (5,)}
@@ -131,11 +131,10 @@ class PlanLines:
         return len(words) in WORD_COUNTS[words[0]]
 
     def take(self, words):
-        """Do what a line tells."""
+        """Do what a line tells; the error of a piece that is too large behind it."""
         if words[0] == "piece":
             self.last = Piece()
             self.pieces[words[1]] = self.last
-            return
         here = self.last
         if words[0] == "spot":
             here.spots.append(words[1])
@@ -145,21 +144,16 @@ class PlanLines:
             here.given[words[3]] = True
             turns = int(words[-1]) if "turned" in words[4:] else 0
             here.add_piece(self.pieces[words[1]], words[3], "mirrored" in words[4:], turns)
-        else:
+        elif words[0] in ROAD_WORDS:
             here.given[words[1]] = True
             here.add_roads(words)
+        here.require_map()
 
 
 def built(plan):
     """The Map of the last piece of a plan."""
     lines = PlanLines()
-    for number, line in enumerate(plan.split("\n")):
-        words, wrong = read_line(line, lines)
-        if wrong is not None:
-            raise BadText(number + 1, wrong + 1)
-        if words:
-            lines.take(words)
-            lines.last.require_map()
+    read_text(plan, lines)
     if lines.last is None or not lines.last.spots:
         raise_too_short(plan)
     return map_of(lines.last.spots, lines.last.roads)
