@@ -108,7 +108,8 @@ class PlanTest(unittest.TestCase):
                             ("piece a\nspot b\npiece c", (3, 8)), ("piece a\nspot b\npiece c\n", (4, 1)),
                             ("piece a\npiece b\nuse a as x", (3, 11)),
                             ("piece a\npiece b\nuse a as x\nspot c", None),
-                            ("piece a\nspot b\nspot b", (3, 7)), ("piece a\nspot b.c", (2, 7)), ("piece a b", (1, 9))):
+                            ("piece a\nspot b\nspot b", (3, 7)),
+                            ("piece a\nspot b b", (2, 8)), ("piece a\nspot b.c", (2, 7)), ("piece a b", (1, 9))):
             self.assertEqual(error_of(built, plan), None if place is None else (BadText,) + place, plan)
 
     def test_cut_off(self):
@@ -143,6 +144,8 @@ class PlanTest(unittest.TestCase):
         self.assertEqual(error_of(built, used), (BadText, 2, 1))
         used = f"piece p\nspot a\nspot bc\nroad d a a 0 0 1\npiece q\nuse p as {name}"
         self.assertEqual(error_of(built, used), (BadName, name + ".bc"))
+        self.assertEqual(error_of(built, used + "\nwrong"), (BadName, name + ".bc"))
+        self.assertEqual(error_of(built, used + "\npiece r\nspot a"), (BadName, name + ".bc"))
         used = used.replace("spot bc\n", "").replace("road d", "road def")
         self.assertEqual(error_of(built, used), (BadName, name + ".def"))
         far = "piece p\nspot a\nspot b\nroad r a b 5 -9 1\nroad s a b 5 5 1\nsame a b 4 -1"

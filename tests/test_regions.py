@@ -137,6 +137,16 @@ class RegionTest(unittest.TestCase):
         self.assertIsNone(region_gap(nowhere, point))
         self.assertIsNone(region_gap(point, everywhere))
 
+    def test_gaps(self):
+        """[15] Gaps that are not at the base of a sheet, by one direction or the other one."""
+        for row in (("rest", 1, 0, 0, 2), ("rest", 0, 1, 0, 2), ("rest", 0, 1, 0, 7), ("rest", 2, 3, 0, 6),
+                    ("least", 0, -1, 5), ("least", -1, 0, 5), ("least", 1, -3, 10 ** 60), ("least", -3, 1, 10 ** 60)):
+            region = Region([("least", 1, 0, 0), ("least", 0, 1, 0)])
+            cell = region_gap(region, Region([row]))
+            self.assertTrue(cell in region and not fits(row, cell), row)
+            if row[3] < 100:
+                self.assertIsNone(region_gap(region & Region([row]), Region([row])))
+
     def test_random(self):
         """[15] Random regions, changed trees, gaps."""
         chance = random.Random(15)

@@ -105,8 +105,8 @@ def random_rules(chance, land, tank=True):
         rows.append(f"tank {chance.randint(1, 2)}")
     rows += [f"burn {road.name} {chance.randint(0, 2)}" for road in land.roads if chance.random() < 0.4]
     rows += [f"well {spot}" for spot in land.spots if chance.random() < 0.3]
-    first = chance.choice(land.roads).name
-    rows += [f"bar {first} {road.name}" for road in land.roads if chance.random() < 0.2]
+    for first in chance.sample(land.roads, 2):
+        rows += [f"bar {first.name} {road.name}" for road in land.roads if chance.random() < 0.2]
     chance.shuffle(rows)
     return "\n".join(rows)
 
@@ -152,6 +152,9 @@ class TravellerTest(unittest.TestCase):
     def test_too_large(self):
         """[33] Too many standings, too many roads, long names."""
         self.assertEqual(len(Traveller(LAND, "tank 11").expanded.spots), 24)
+        full = map_of([f"s{k}" for k in range(24)], [])
+        self.assertTrue(Traveller(full, "").expanded == full)
+        self.assertEqual(error_of(Traveller, full, "state x\nstate y"), (TooMany, "spots", 48, 24))
         self.assertEqual(error_of(Traveller, LAND, "tank 12"), (TooMany, "spots", 26, 24))
         states = "\n".join(f"state s{k}" for k in range(5000))
         many = (TooMany, "spots", 5000 * 24 * 3, 24)
