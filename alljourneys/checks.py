@@ -20,6 +20,16 @@ def is_place(value):
     return isinstance(value, tuple) and len(value) == 3 and isinstance(value[0], str) and is_cell(value[1:])
 
 
+def is_pair(value):
+    """Whether the value is a tuple of two items."""
+    return isinstance(value, tuple) and len(value) == 2
+
+
+def is_spot(land, value):
+    """Whether the value is the name of a spot of the map."""
+    return isinstance(value, str) and value in land.spots
+
+
 def is_letter(sign):
     """Whether the character is one from a to z."""
     return "a" <= sign <= "z"

@@ -20,6 +20,41 @@ def place_behind(place, road):
     return (road.end, place[1] + road.shift[0], place[2] + road.shift[1])
 
 
+def roads_along(land, spot, journey):
+    """The list of the Roads of a journey from the spot; None if the value is no tuple of names that is one."""
+    if not isinstance(journey, tuple):
+        return None
+    roads = []
+    for name in journey:
+        try:
+            road = land.road_named(name)
+        except NoRoad:
+            return None
+        if road.start != spot:
+            return None
+        roads.append(road)
+        spot = road.end
+    return roads
+
+
+def round_along(land, spot, journey):
+    """The list of the Roads of a round from the spot; None if the value is no tuple of names that is one."""
+    roads = roads_along(land, spot, journey)
+    if not roads or roads[-1].end != spot:
+        return None
+    return roads
+
+
+def shift_of(roads):
+    """The sum of the shifts of these Roads."""
+    return (sum([road.shift[0] for road in roads]), sum([road.shift[1] for road in roads]))
+
+
+def price_of(roads):
+    """The sum of the prices of these Roads."""
+    return sum([road.price for road in roads])
+
+
 def ended(land, start, journey):
     """A tuple of the place where a journey from start ends, and of its price."""
     require_place(land, start, "start")

@@ -26,13 +26,12 @@ class Taker:
 class View:
     """What a taker is on a piece: the tops of its counts, its offsets, and all numbers that must not be below 0."""
 
-    def __init__(self, taker, piece, mode):
-        gauge = taker.gauge
+    def __init__(self, taker, tops, offsets, spare, mode):
         self.taker = taker
-        self.many = gauge.many
-        self.tops = [reading(form, piece) for form in gauge.tops]
-        self.offsets = [reading(form, piece) for form in gauge.offsets]
-        self.spare = reading(gauge.spare, piece)
+        self.many = taker.gauge.many
+        self.tops = tops
+        self.offsets = offsets
+        self.spare = spare
         self.numbers = list(self.tops)
         if mode == EXACT:
             self.numbers.append(self.spare)
@@ -40,14 +39,9 @@ class View:
             self.numbers.append((0, self.spare[1], self.spare[2]))
 
     def may_have(self):
-        """False only if the taker has no cell of the piece."""
-        for number in self.numbers:
-            if stays_low(number):
-                return False
-        for low, first, second in self.offsets:
-            if stays_low((low, first, second)) or stays_low((-low, -first, -second)):
-                return False
-        return self.sparseness() is not None
+        """False only if the taker is too dear for all cells of the piece, or has none of its counts."""
+        is_dear = any([stays_low(number) for number in self.numbers[len(self.tops):]])
+        return not is_dear and self.sparseness() is not None
 
     def sparseness(self):
         """Of how many counts of the piece one makes the taker's counts integers; None if none does."""
@@ -104,7 +98,7 @@ class View:
             return False
         return all([is_mixed(number) or (number[1] >= 0 and number[2] >= 0) for number in self.numbers])
 
-    def parts(self):
+    def width(self):
         """Into how many parts the piece is to go until the changes of the taker's counts are integers."""
         first, second = parts_needed(self.tops, self.many)
         return first * second
@@ -116,13 +110,13 @@ class View:
     def strain(self):
         """About how many pieces are needed until a growing taker takes one."""
         strips = sum([fewest(climbs(number)) for number in self.numbers if number[0] < 0])
-        return self.parts() * (1 + strips)
+        return self.width() * (1 + strips)
 
     def bent(self):
         """The choice by which a bending taker comes nearer to a line beyond which it goes on."""
         found = [bend(number) for number in self.numbers if is_mixed(number)]
         best = min(found, key=lambda choice: choice.toil)
-        return Choice(self.parts() * best.toil, best.node)
+        return Choice(self.width() * best.toil, best.node)
 
     def strip_strain(self, times, side):
         """About how many pieces are needed until the taker takes a strip; None if it takes none of it without end."""
@@ -217,9 +211,40 @@ def _far_times(piece, views):
     return times
 
 
+def _open_tops(gauge, piece):
+    """The tops of a gauge on a piece; None if one stays low, so that no cell is had."""
+    tops = []
+    for form in gauge.tops:
+        top = reading(form, piece)
+        if stays_low(top):
+            return None
+        tops.append(top)
+    return tops
+
+
+def _open_offsets(gauge, piece):
+    """The offsets of a gauge on a piece; None if one stays on one side, so that no cell is had."""
+    offsets = []
+    for form in gauge.offsets:
+        low, first, second = reading(form, piece)
+        if stays_low((low, first, second)) or stays_low((-low, -first, -second)):
+            return None
+        offsets.append((low, first, second))
+    return offsets
+
+
 def _views(piece, takers, mode):
     """The views of the takers that may have cells of the piece."""
-    return [view for view in [View(taker, piece, mode) for taker in takers] if view.may_have()]
+    views = []
+    for taker in takers:
+        # Most takers are out by a number or two, so no more is read of them.
+        tops = _open_tops(taker.gauge, piece)
+        offsets = None if tops is None else _open_offsets(taker.gauge, piece)
+        if offsets is not None:
+            view = View(taker, tops, offsets, reading(taker.gauge.spare, piece), mode)
+            if view.may_have():
+                views.append(view)
+    return views
 
 
 def _is_thin(views):
@@ -286,6 +311,11 @@ def takers_of(gauges):
     return [Taker(index, gauge) for index, gauge in enumerate(gauges)]
 
 
+def searched_by(piece, takers, mode):
+    """A tree over the piece whose ends hold over the takers, looked at so, beside None; or None beside a Hole."""
+    return grown(piece, takers, lambda here, left: judged(here, left, mode))
+
+
 def searched(piece, gauges, mode):
     """A tree over the piece whose ends hold over the gauges, looked at so, beside None; or None beside a Hole."""
-    return grown(piece, takers_of(gauges), lambda here, left: judged(here, left, mode))
+    return searched_by(piece, takers_of(gauges), mode)

@@ -12,7 +12,7 @@ def _named(name, standing):
     return ".".join([name] + [str(part) for part in standing if part is not None])
 
 
-def _require_short(names):
+def require_short(names):
     """Raise TooLarge for the first name that is too long."""
     for name in names:
         if len(name) > NAME_LIMIT:
@@ -42,8 +42,8 @@ class Traveller:
         require_few(many, len(rows))
         spots = [_named(spot, standing) for spot in land.spots for standing in self._standings(spot)]
         self._plain = {_named(road.name, standing): road.name for road, standing in rows}
-        _require_short(spots)
-        _require_short(list(self._plain))
+        require_short(spots)
+        require_short(list(self._plain))
         self.expanded = map_of(spots, [self._expanded_road(road, standing) for road, standing in rows])
 
     def _standing_count(self, spot):

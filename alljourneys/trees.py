@@ -16,11 +16,15 @@ def has_piece(gauge, piece, spare):
     return stays_up(reading(gauge.spare, piece), spare)
 
 
-def tree_holds(sheet, sheets, tree):
-    """Whether any value is a tree over the sheet whose ends hold over the sheets."""
-    gauges = gauges_of(sheets)
+def tree_over(sheet, gauges, tree):
+    """Whether any value is a tree over the sheet whose ends hold over the sheets of the gauges."""
 
     def fits(_, piece, node):
         return is_end(node, "end", 2) and is_index(node[1], gauges) and has_piece(gauges[node[1]], piece, 0)
 
     return trees_hold((whole(sheet),), (tree,), fits)
+
+
+def tree_holds(sheet, sheets, tree):
+    """Whether any value is a tree over the sheet whose ends hold over the sheets."""
+    return tree_over(sheet, gauges_of(sheets), tree)

@@ -1,0 +1,99 @@
+"""The trees of a paper: what each road makes of each stem is had by stems; where it is not, stems are added."""
+
+from alljourneys.forms import whole
+from alljourneys.groves import FAR
+from alljourneys.searching import EXACT, searched_by
+from alljourneys.trails import Trail
+
+# Counts at which gaps are looked for first: that is quicker than to find them by a tree.
+SAMPLES = (0, 1, 2, 3, 5, 8, 13)
+
+
+class Shoot:
+    """A stem with one more link: a trail from the start with loops, whose sheet is to be had by stems."""
+
+    def __init__(self, grove, stem, link):
+        self.grove = grove
+        self.stem = stem
+        self.link = link
+        self.sheet = stem.sheet.moved(link.shift, link.price)
+
+    def is_gap(self, counts):
+        """Whether no stem has the cell to which the counts lead for its price."""
+        cell = self.sheet.cell_of(counts)
+        return not self.grove.has(self.link.end, cell, self.sheet.price_at(cell))
+
+    def trail_with(self, counts):
+        """The Trail with each loop put in as often as counts say."""
+        links = self.stem.trail.links_with(self.stem.loops, counts)
+        return Trail(self.grove.start, (*links, self.link))
+
+    def sampled_gap(self):
+        """The counts of a gap near the base; None if none is seen."""
+        samples = [()]
+        for _ in self.stem.loops:
+            samples = [(*counts, number) for counts in samples for number in SAMPLES]
+        for counts in sorted(samples, key=sum):
+            if self.is_gap(counts):
+                return counts
+        return None
+
+    def lessened(self, counts):
+        """Counts of a gap, none of which can be made less by itself in an easy way."""
+        best = tuple(counts)
+        is_changed = True
+        while is_changed:
+            is_changed = False
+            for at, count in enumerate(best):
+                tries = [(*best[:at], less, *best[at + 1:]) for less in (0, count // 2, count - 1) if 0 <= less < count]
+                gaps = [less for less in tries if self.is_gap(less)]
+                if gaps:
+                    best = gaps[0]
+                    is_changed = True
+                    break
+        return best
+
+    def fill(self, counts):
+        """Add stems that have, at least, the gap with these counts."""
+        base = self.trail_with([0 for _ in counts])
+        if not any(counts):
+            self.grove.plant(base)
+            return
+        if len(counts) == 2 and self.is_gap([count + FAR for count in counts]):
+            self.grove.put(base, self.stem.loops)
+            return
+        trail = self.trail_with(counts)
+        for times in (FAR, 1):
+            for at, loop in enumerate(self.stem.loops):
+                if self.grove.is_new(trail, (loop,), times):
+                    self.grove.put(self.trail_with([*counts[:at], 0, *counts[at + 1:]]), (loop,))
+                    return
+            for ray in self.grove.ground.fronts(trail.mask).rays:
+                if self.grove.is_new(trail, (ray,), times):
+                    self.grove.put(trail, (ray,))
+                    return
+        self.grove.put(trail, ())
+
+    def cover(self):
+        """A tree by which stems have the whole sheet; stems are added where they have not."""
+        while True:
+            index = self.grove.holder(self.link.end, self.sheet)
+            if index is not None:
+                return (("end", index),)
+            counts = self.sampled_gap()
+            if counts is None:
+                tree, hole = searched_by(whole(self.sheet), self.grove.takers_at(self.link.end), EXACT)
+                if tree is not None:
+                    return tree
+                counts = self.sheet.counts(hole.missed_cells()[0])
+            self.fill(self.lessened(counts))
+
+
+def covers_of(grove):
+    """A tuple with a tuple of trees for each stem: one for each link from its spot. The grove may grow by it."""
+    covers = []
+    while len(covers) < len(grove.stems):
+        stem = grove.stems[len(covers)]
+        links = grove.ground.net.links_from[stem.trail.end]
+        covers.append(tuple([Shoot(grove, stem, link).cover() for link in links]))
+    return tuple(covers)

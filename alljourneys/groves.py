@@ -1,0 +1,116 @@
+"""Groves: the growing fans from one start, so that the cheapest of them are found quickly."""
+
+from alljourneys.forms import Gauge
+from alljourneys.loops import Fronts, loops_of
+from alljourneys.searching import Taker
+from alljourneys.shelves import Shelf
+
+# So many times a step leads far away, and brings all small remainders back: all numbers up to 60 divide it.
+FAR = 9690712164777231700912800
+
+# How many cells ahead are looked at to tell how long a step is of use.
+AHEAD = 50
+
+
+class Ground:
+    """A net with its loops, and the fronts of those that lie within a mask."""
+
+    def __init__(self, net):
+        self.net = net
+        self.loops = loops_of(net)
+        self._fronts = {}
+
+    def fronts(self, mask):
+        """The Fronts of the loops within the mask."""
+        if mask not in self._fronts:
+            self._fronts[mask] = Fronts([loop for loop in self.loops if loop.mask | mask == mask])
+        return self._fronts[mask]
+
+
+class Stem:
+    """A trail with up to two loops that can be put in: what a fan is made of. Its index counts those of its spot."""
+
+    def __init__(self, index, trail, loops):
+        self.index = index
+        self.trail = trail
+        self.loops = tuple(loops)
+        self.sheet = trail.sheet_with(loops)
+
+
+def _led(trail, loops, times):
+    """The cell and the price behind a trail and so many times each of the loops."""
+    x, y = trail.cell
+    price = trail.price
+    for loop in loops:
+        x, y, price = x + times * loop.shift[0], y + times * loop.shift[1], price + times * loop.price
+    return (x, y), price
+
+
+class Grove:
+    """Stems from one start; known tells least prices of near places by (spot, x, y, 0)."""
+
+    def __init__(self, ground, start):
+        self.ground = ground
+        self.start = start
+        self.stems = []
+        self.known = {}
+        self._shelves = [Shelf() for _ in ground.net.spots]
+        self._takers = [[] for _ in ground.net.spots]
+        self._stems_at = [[] for _ in ground.net.spots]
+
+    def takers_at(self, spot):
+        """The stems of a spot as takers."""
+        return list(self._takers[spot])
+
+    def has(self, spot, cell, price):
+        """Whether some stem of the spot has the cell for at most the price."""
+        return self._shelves[spot].has_for(cell, price)
+
+    def holder(self, spot, sheet):
+        """The index of a stem of the spot with the same steps that has all cells of a sheet for its prices, or None."""
+        return self._shelves[spot].holder_of(sheet)
+
+    def best_at(self, spot, cell):
+        """A tuple of the least price of a cell and of the stem that has it; None if none has."""
+        best = self._shelves[spot].best_at(cell)
+        return None if best is None else (best[0], self._stems_at[spot][best[1]])
+
+    def put(self, trail, loops):
+        """Add the stem of a trail and loops."""
+        stem = Stem(len(self._takers[trail.end]), trail, loops)
+        self._shelves[trail.end].take_in(stem.index, stem.sheet)
+        self._takers[trail.end].append(Taker(stem.index, Gauge(stem.sheet)))
+        self._stems_at[trail.end].append(stem)
+        self.stems.append(stem)
+
+    def is_new(self, trail, loops, times):
+        """Whether no stem has the cell behind the trail and so many times each loop for the price of this way."""
+        cell, price = _led(trail, loops, times)
+        near = self.known.get((trail.end, *cell, 0))
+        return (near is None or near >= price) and not self.has(trail.end, cell, price)
+
+    def is_beaten(self, trail, loops):
+        """Whether some stem has the cell far away behind the trail and its loops for less."""
+        cell, price = _led(trail, loops, FAR)
+        return self.has(trail.end, cell, price - 1)
+
+    def _run(self, trail, ray):
+        """How often a ray leads on to cells that no stem has for this price."""
+        times = 1
+        while times < AHEAD and self.is_new(trail, (ray,), times):
+            times += 1
+        return times
+
+    def plant(self, trail):
+        """Add stems for a trail whose place no stem has for its price: with the loops that lead farthest."""
+        fronts = self.ground.fronts(trail.mask)
+        found = [pair for pair in fronts.pairs if self.is_new(trail, pair, 1) and not self.is_beaten(trail, pair)]
+        if not found:
+            rays = [(ray,) for ray in fronts.rays if self.is_new(trail, (ray,), 1)]
+            found = [ray for ray in rays if not self.is_beaten(trail, ray)]
+            if not found and rays:
+                # What is beaten far away is of use for many cells or not at all.
+                best = max(rays, key=lambda ray: self._run(trail, ray[0]))
+                found = [best] if self._run(trail, best[0]) > 2 else []
+        for loops in found if found else [()]:
+            self.put(trail, loops)

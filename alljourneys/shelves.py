@@ -1,0 +1,57 @@
+"""Shelves: many sheets of one spot, of which those with a cell are found quickly."""
+
+from alljourneys.sheets import cross
+
+
+def _key(steps, cell):
+    """What all cells of one lattice of the steps have in common, beside the tops of the counts of the cell."""
+    if not steps:
+        return cell, ()
+    first = steps[0]
+    if len(steps) == 1:
+        many = first[0] * first[0] + first[1] * first[1]
+        top = first[0] * cell[0] + first[1] * cell[1]
+        return (cross(first, cell), top % many), (top // many,)
+    many = cross(first, steps[1])
+    one, other = cross(cell, steps[1]), cross(first, cell)
+    return (one % many, other % many), (one // many, other // many)
+
+
+class Shelf:
+    """Sheets by their steps and by the lattices in which they lie."""
+
+    def __init__(self):
+        self._groups = {}
+
+    def take_in(self, index, sheet):
+        """Put a sheet on the shelf."""
+        rows = self._groups.setdefault((sheet.steps, sheet.prices), {})
+        key, counts = _key(sheet.steps, sheet.base)
+        rows.setdefault(key, []).append((index, counts, sheet.price))
+
+    def best_at(self, cell):
+        """A tuple of the least price of a cell and the index of its sheet; None if no sheet has it."""
+        best = None
+        for (steps, prices), rows in self._groups.items():
+            key, counts = _key(steps, cell)
+            for index, start, price in rows.get(key, ()):
+                if all([count >= least for count, least in zip(counts, start)]):
+                    found = price + sum([(count - least) * more for count, least, more in zip(counts, start, prices)])
+                    if best is None or (found, index) < best:
+                        best = (found, index)
+        return best
+
+    def has_for(self, cell, price):
+        """Whether some sheet has the cell for at most the price."""
+        best = self.best_at(cell)
+        return best is not None and best[0] <= price
+
+    def holder_of(self, sheet):
+        """The index of a sheet with the same steps and prices of them that has all cells of a sheet; None if none has."""
+        key, counts = _key(sheet.steps, sheet.base)
+        for index, start, price in self._groups.get((sheet.steps, sheet.prices), {}).get(key, ()):
+            if all([count >= least for count, least in zip(counts, start)]):
+                more = sum([(count - least) * extra for count, least, extra in zip(counts, start, sheet.prices)])
+                if price + more <= sheet.price:
+                    return index
+        return None
