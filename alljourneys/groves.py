@@ -75,9 +75,9 @@ class Grove:
         best = self._shelves[spot].best_at(cell)
         return None if best is None else (best[0], self._stems_at[spot][best[1]])
 
-    def put(self, trail, loops):
-        """Add the stem of a trail and loops."""
-        stem = Stem(len(self._takers[trail.end]), trail, loops)
+    def put(self, trail, rays):
+        """Add the stem of a trail and loops, or rays."""
+        stem = Stem(len(self._takers[trail.end]), trail, [trail.loop_of(ray) for ray in rays])
         self._shelves[trail.end].take_in(stem.index, stem.sheet)
         self._takers[trail.end].append(Taker(stem.index, Gauge(stem.sheet)))
         self._stems_at[trail.end].append(stem)

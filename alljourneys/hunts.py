@@ -12,14 +12,14 @@ from alljourneys.trails import Trail
 
 
 class Course:
-    """The loops whose shifts are not counted, and the costs: bottom times the price less line*shift."""
+    """The rays whose shifts are not counted, and the costs: bottom times the price less line*shift."""
 
-    def __init__(self, loops, line, bottom, reach):
-        self.masks = [loop.mask for loop in loops]
-        self.steps = tuple([loop.shift for loop in loops])
+    def __init__(self, rays, line, bottom, band):
+        self.masks = [ray.mask for ray in rays]
+        self.steps = tuple([ray.shift for ray in rays])
         self.line = line
         self.bottom = bottom
-        self.band = reach
+        self.band = band
 
     def folded(self, x, y):
         """The first one of the cells that are alike; None if it is outside the band beside the only step."""
@@ -41,7 +41,7 @@ class Course:
         return self.bottom * link.price - self.line[0] * link.shift[0] - self.line[1] * link.shift[1]
 
     def flags(self, spot, before):
-        """Which loops can be put in at this spot, or could before, as bits."""
+        """Which rays can be put in at this spot, or could before, as bits."""
         for at, mask in enumerate(self.masks):
             if mask & (1 << spot) != 0:
                 before |= 1 << at
@@ -57,34 +57,34 @@ def plain_course():
 
 
 def _line_of(one, two):
-    """The line that gives both loops a size of the shift times their price, and this size."""
+    """The line that gives both rays a size of the shift times their price, and this size."""
     (p, q), (s, t) = one.shift, two.shift
     return (one.price * t - two.price * q, two.price * p - one.price * s), p * t - q * s
 
 
 def pair_course(pair):
-    """The Course for the sheets that have the two loops, neighbours of a front, as steps."""
+    """The Course for the sheets that have two rays, with a side of a front between them, as steps."""
     line, size = _line_of(pair[0], pair[1])
     return Course(pair, line, size, None)
 
 
-def ray_course(fronts, ray, reach):
-    """The Course for the sheets that have a ray of the front as their step; the line is strictly beyond all others."""
+def ray_course(fronts, at, ray, band):
+    """The Course for the sheets with a ray of a direction of the front; the line is strictly beyond all others."""
     p, q = ray.shift
-    lines = [_line_of(one, two) for one, two in fronts.pairs if ray.shift in (one.shift, two.shift)]
-    if len(lines) == 2:
-        (a, b), size = lines[0]
-        (c, d), other = lines[1]
-        return Course((ray,), (a * other + c * size, b * other + d * size), 2 * size * other, reach)
     many = p * p + q * q
-    if not lines:
-        return Course((ray,), (ray.price * p, ray.price * q), many, reach)
-    (a, b), size = lines[0]
-    side = ray.price * size if fronts.rays[0].shift == ray.shift else -ray.price * size
-    return Course((ray,), (a * many + q * side, b * many - p * side), size * many, reach)
+    ahead, behind = fronts.sides_of(at)
+    if ahead is not None and behind is not None:
+        (a, b), size = _line_of(ahead[0], ahead[1])
+        (c, d), other = _line_of(behind[0], behind[1])
+        return Course((ray,), (a * other + c * size, b * other + d * size), 2 * size * other, band)
+    if ahead is None and behind is None:
+        return Course((ray,), (ray.price * p, ray.price * q), many, band)
+    (a, b), size = _line_of(ahead[0], ahead[1]) if behind is None else _line_of(behind[0], behind[1])
+    side = -ray.price * size if behind is None else ray.price * size
+    return Course((ray,), (a * many + q * side, b * many - p * side), size * many, band)
 
 
-def reach_beside(ray, net, cells):
+def band_beside(ray, net, cells):
     """From where to where, beside the ray, one is to look if these cells are the bases of sheets with it as a step."""
     offsets = [cross(ray.shift, cell) for cell in cells]
     margin = 2 * max([abs(cross(ray.shift, link.shift)) for link in net.links])

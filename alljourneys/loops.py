@@ -14,6 +14,10 @@ class Loop:
         self.price = price
         self.mask = mask
 
+    def options(self):
+        """The loops that it stands for."""
+        return [self]
+
     def begun_links(self, spot):
         """The links of the round from the spot with this number on."""
         at = [link.start for link in self.links].index(spot)
@@ -54,7 +58,7 @@ def loops_of(net):
 
 
 def _along(one, other):
-    """How far the shift of the other loop leads in the direction of the first one, times its length."""
+    """How far the shift of the other ray leads in the direction of the first one, times its length."""
     return one.shift[0] * other.shift[0] + one.shift[1] * other.shift[1]
 
 
@@ -64,77 +68,122 @@ def _side(one, two, three):
             + three.price * cross(one.shift, two.shift))
 
 
+class Ray:
+    """All loops of one shift and price; its mask has the spots of all of them."""
+
+    def __init__(self, loop):
+        self.shift = loop.shift
+        self.price = loop.price
+        self.mask = loop.mask
+        self.loops = [loop]
+
+    def options(self):
+        """The loops that it stands for."""
+        return list(self.loops)
+
+    def unite(self, loop):
+        """Add a loop with the same shift and price."""
+        self.mask = self.mask | loop.mask
+        self.loops.append(loop)
+
+
+def _enter_loop(table, loop):
+    """Enter a loop into a table that has, for each direction, the rays of the greatest rate by their lengths."""
+    many = gcd(loop.shift[0], loop.shift[1])
+    if many == 0:
+        return
+    way = (loop.shift[0] // many, loop.shift[1] // many)
+    rays = table.setdefault(way, {})
+    for known, ray in rays.items():
+        gain = many * ray.price - known * loop.price
+        if gain < 0:
+            return
+        if gain > 0:
+            table[way] = {many: Ray(loop)}
+            return
+    if many in rays:
+        rays[many].unite(loop)
+    else:
+        rays[many] = Ray(loop)
+
+
 def _fastest_ways(loops):
-    """For each direction of a shift the loop with the greatest rate, of several the shortest one."""
-    best = {}
+    """For each direction of a shift the list of the rays with the greatest rate, the shortest one first."""
+    table = {}
     for loop in loops:
-        x, y = loop.shift
-        many = gcd(x, y)
-        if many == 0:
-            continue
-        way = (x // many, y // many)
-        if way in best:
-            known, other = best[way]
-            gain = many * other.price - known * loop.price
-            if gain < 0 or (gain == 0 and known <= many):
-                continue
-        best[way] = (many, loop)
-    return [loop for _, loop in best.values()]
+        _enter_loop(table, loop)
+    return [[rays[many] for many in sorted(list(rays))] for rays in table.values()]
 
 
-def _neighbour(loops, here, side):
-    """The loop that follows on the outer hull of the rates, against the clock for the side 1; None if there is none."""
+def _neighbour(rays, here, side):
+    """The ray that follows on the outer hull of the rates, against the clock for the side 1; None if there is none."""
     best = None
-    for loop in loops:
-        if side * cross(here.shift, loop.shift) <= 0:
+    for ray in rays:
+        if side * cross(here.shift, ray.shift) <= 0:
             continue
         if best is None:
-            best = loop
+            best = ray
             continue
-        turn = side * _side(here, best, loop)
-        if turn < 0 or (turn == 0 and side * cross(loop.shift, best.shift) > 0):
-            best = loop
+        turn = side * _side(here, best, ray)
+        if turn < 0 or (turn == 0 and side * cross(ray.shift, best.shift) > 0):
+            best = ray
     return best
 
 
 class Fronts:
-    """The loops on the outer hull of all rates, against the clock; and the pairs of neighbours, with what lies between.
+    """The rays on the outer hull of all rates.
 
-    is_closed tells whether the last one and the first one are neighbours, too.
+    There is a list of rays for each direction, against the clock; all of a list have
+    the same rate, and the first one is the shortest. is_closed tells whether the last
+    direction and the first one are neighbours, too.
     """
 
     def __init__(self, loops):
-        ways = _fastest_ways(loops)
-        self.rays = []
+        self.ways = []
         self.is_closed = False
-        if not ways:
-            self.pairs = []
-            return
-        # What is farthest in the direction of any loop is on the outer hull.
-        best = ways[0]
-        for loop in ways:
-            if _along(ways[0], loop) * best.price > _along(ways[0], best) * loop.price:
-                best = loop
-        self._walk(ways, best)
-        ends = list(zip(self.rays, self.rays[1:]))
-        if self.is_closed:
-            ends.append((self.rays[-1], self.rays[0]))
-        self.pairs = [(one, other) for one, other in ends if cross(one.shift, other.shift) > 0]
+        rows = _fastest_ways(loops)
+        if rows:
+            self._walk([rays[0] for rays in rows])
+        first = {rays[0].shift: rays for rays in rows}
+        self.ways = [first[ray.shift] for ray in self.ways]
+        self.rays = [rays[0] for rays in self.ways]
+        self.pairs = [(self.rays[at], self.rays[other]) for at, other in self._neighbours()]
 
-    def _walk(self, ways, first):
-        """Gather the rays from the first one on, to both sides."""
-        self.rays = [first]
-        here = _neighbour(ways, first, 1)
+    def _neighbours(self):
+        """The list of pairs of the indexes of directions between which there is a side of the hull."""
+        count = len(self.ways)
+        pairs = [(at, (at + 1) % count) for at in range(count if self.is_closed else count - 1)]
+        return [(at, other) for at, other in pairs if cross(self.ways[at][0].shift, self.ways[other][0].shift) > 0]
+
+    def all_pairs(self):
+        """All pairs of rays with a side of the hull between them, the longer ones, too."""
+        return [(one, two) for at, other in self._neighbours() for one in self.ways[at] for two in self.ways[other]]
+
+    def sides_of(self, at):
+        """The sides of the hull, as pairs of rays, that the direction with this index has ahead and behind, or None."""
+        ahead = [(one, two) for one, two in self.pairs if two.shift == self.rays[at].shift]
+        behind = [(one, two) for one, two in self.pairs if one.shift == self.rays[at].shift]
+        return (ahead[0] if ahead else None), (behind[0] if behind else None)
+
+    def _walk(self, rays):
+        """Gather the rays on the hull from one of them on, to both sides."""
+        # What is farthest in the direction of any ray is on the outer hull.
+        first = rays[0]
+        for ray in rays:
+            if _along(rays[0], ray) * first.price > _along(rays[0], first) * ray.price:
+                first = ray
+        self.ways = [first]
+        here = _neighbour(rays, first, 1)
         while here is not None and here.shift != first.shift:
-            self.rays.append(here)
-            here = _neighbour(ways, here, 1)
+            self.ways.append(here)
+            here = _neighbour(rays, here, 1)
         if here is not None:
             self.is_closed = True
             return
-        here = _neighbour(ways, first, -1)
+        here = _neighbour(rays, first, -1)
         while here is not None:
-            self.rays.insert(0, here)
-            here = _neighbour(ways, here, -1)
-        if len(self.rays) == 1:
+            self.ways.insert(0, here)
+            here = _neighbour(rays, here, -1)
+        if len(self.ways) == 1:
             # All on one line: the other side of it has no neighbour, but may be a way, too.
-            self.rays.extend([loop for loop in ways if loop.shift != first.shift])
+            self.ways.extend([ray for ray in rays if ray.shift != first.shift])

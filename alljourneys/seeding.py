@@ -1,7 +1,7 @@
 """The first stems of a grove: those that are cheapest far away, those beside rays, and those of near places."""
 
 from alljourneys.groves import FAR, Grove
-from alljourneys.hunts import Hunt, pair_course, plain_course, ray_course, reach_beside
+from alljourneys.hunts import Hunt, band_beside, pair_course, plain_course, ray_course
 from alljourneys.sheets import Sheet
 
 NEAR_STOPS = 6000
@@ -19,11 +19,12 @@ def seeded_grove(ground, start):
     grove.known = near.prices
     masks = _widest_masks(near, len(ground.net.spots))
     for mask in masks:
-        for pair in ground.fronts(mask).pairs:
+        for pair in ground.fronts(mask).all_pairs():
             _plant_pair(grove, mask, pair)
     for mask in masks:
-        for ray in ground.fronts(mask).rays:
-            _plant_ray(grove, mask, ray)
+        for at, rays in enumerate(ground.fronts(mask).ways):
+            for ray in rays:
+                _plant_ray(grove, mask, at, ray)
     for stop, price in near.prices.items():
         if not grove.has(stop[0], (stop[1], stop[2]), price):
             grove.plant(near.trail_to(stop))
@@ -75,9 +76,9 @@ def _plant_pair(grove, mask, pair):
     _plant_all(grove, Hunt(net, grove.start, mask, pair_course(pair), limit), pair)
 
 
-def _plant_ray(grove, mask, ray):
+def _plant_ray(grove, mask, at, ray):
     """Add the stems of one loop, and of trails within a mask, that are missing far away on the lines beside it."""
     net = grove.ground.net
     cells = [stem.trail.cell for stem in grove.stems if ray.shift in stem.sheet.steps]
-    course = ray_course(grove.ground.fronts(mask), ray, reach_beside(ray, net, cells))
+    course = ray_course(grove.ground.fronts(mask), at, ray, band_beside(ray, net, cells))
     _plant_all(grove, Hunt(net, grove.start, mask, course, RAY_STOPS), (ray,))

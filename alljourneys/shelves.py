@@ -47,7 +47,7 @@ class Shelf:
         return best is not None and best[0] <= price
 
     def holder_of(self, sheet):
-        """The index of a sheet with these steps that has all cells of a sheet for at most its prices; None if none has."""
+        """The index of a sheet with these steps that has all cells of a sheet for its prices; None if none has."""
         key, counts = _key(sheet.steps, sheet.base)
         for index, start, price in self._groups.get((sheet.steps, sheet.prices), {}).get(key, ()):
             if all([count >= least for count, least in zip(counts, start)]):

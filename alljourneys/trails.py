@@ -22,6 +22,11 @@ class Trail:
         """Where in the trail a loop can be put in first: a tuple of how many links are ahead, and of the spot."""
         return min([(self.first_at[link.start], link.start) for link in loop.links if link.start in self.first_at])
 
+    def loop_of(self, ray):
+        """The loop of a ray that can be put in first."""
+        loops = [loop for loop in ray.options() if loop.mask & self.mask != 0]
+        return min(loops, key=lambda loop: self.place_of(loop)[0])
+
     def sheet_with(self, loops):
         """The sheet of the cells to which the trail leads with these loops."""
         return Sheet(self.cell, self.price, [loop.shift for loop in loops], [loop.price for loop in loops])
