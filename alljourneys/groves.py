@@ -11,6 +11,9 @@ FAR = 9690712164777231700912800
 # How many cells ahead are looked at to tell how long a step is of use.
 AHEAD = 50
 
+# From how many cells on two steps are of use though they are beaten far away: their trees are large.
+LONG_RUN = 8
+
 
 class Ground:
     """A net with its loops, and the fronts of those that lie within a mask."""
@@ -94,23 +97,27 @@ class Grove:
         cell, price = _led(trail, loops, FAR)
         return self.has(trail.end, cell, price - 1)
 
-    def _run(self, trail, ray):
-        """How often a ray leads on to cells that no stem has for this price."""
+    def _run(self, trail, rays):
+        """How often rays, all together, lead on to cells that no stem has for this price."""
         times = 1
-        while times < AHEAD and self.is_new(trail, (ray,), times):
+        while times < AHEAD and self.is_new(trail, rays, times):
             times += 1
         return times
+
+    def _is_of_use(self, trail, rays, enough):
+        """Whether no stem has what is far away along the rays for less, or there are enough cells before."""
+        return self.is_new(trail, rays, 1) and (not self.is_beaten(trail, rays) or self._run(trail, rays) >= enough)
 
     def plant(self, trail):
         """Add stems for a trail whose place no stem has for its price: with the loops that lead farthest."""
         fronts = self.ground.fronts(trail.mask)
-        found = [pair for pair in fronts.pairs if self.is_new(trail, pair, 1) and not self.is_beaten(trail, pair)]
+        found = [pair for pair in fronts.pairs if self._is_of_use(trail, pair, LONG_RUN)]
         if not found:
             rays = [(ray,) for ray in fronts.rays if self.is_new(trail, (ray,), 1)]
             found = [ray for ray in rays if not self.is_beaten(trail, ray)]
             if not found and rays:
                 # What is beaten far away is of use for many cells or not at all.
-                best = max(rays, key=lambda ray: self._run(trail, ray[0]))
-                found = [best] if self._run(trail, best[0]) > 2 else []
+                best = max(rays, key=lambda ray: self._run(trail, ray))
+                found = [best] if self._run(trail, best) > 2 else []
         for loops in found if found else [()]:
             self.put(trail, loops)

@@ -56,7 +56,7 @@ def plain_course():
     return Course((), PLAIN, 1, None)
 
 
-def _line_of(one, two):
+def line_of(one, two):
     """The line that gives both rays a size of the shift times their price, and this size."""
     (p, q), (s, t) = one.shift, two.shift
     return (one.price * t - two.price * q, two.price * p - one.price * s), p * t - q * s
@@ -64,7 +64,7 @@ def _line_of(one, two):
 
 def pair_course(pair):
     """The Course for the sheets that have two rays, with a side of a front between them, as steps."""
-    line, size = _line_of(pair[0], pair[1])
+    line, size = line_of(pair[0], pair[1])
     return Course(pair, line, size, None)
 
 
@@ -74,12 +74,12 @@ def ray_course(fronts, at, ray, band):
     many = p * p + q * q
     ahead, behind = fronts.sides_of(at)
     if ahead is not None and behind is not None:
-        (a, b), size = _line_of(ahead[0], ahead[1])
-        (c, d), other = _line_of(behind[0], behind[1])
+        (a, b), size = line_of(ahead[0], ahead[1])
+        (c, d), other = line_of(behind[0], behind[1])
         return Course((ray,), (a * other + c * size, b * other + d * size), 2 * size * other, band)
     if ahead is None and behind is None:
         return Course((ray,), (ray.price * p, ray.price * q), many, band)
-    (a, b), size = _line_of(ahead[0], ahead[1]) if behind is None else _line_of(behind[0], behind[1])
+    (a, b), size = line_of(ahead[0], ahead[1]) if behind is None else line_of(behind[0], behind[1])
     side = -ray.price * size if behind is None else ray.price * size
     return Course((ray,), (a * many + q * side, b * many - p * side), size * many, band)
 
@@ -146,11 +146,6 @@ class Hunt:
         if cell is None:
             return None
         return (link.end, cell[0], cell[1], self.course.flags(link.end, stop[3]))
-
-    def before(self, stop):
-        """The stop ahead of this one; None for the first one."""
-        back = self._back[stop]
-        return None if back is None else back[0]
 
     def trail_to(self, stop):
         """The Trail that was found to a stop."""

@@ -67,3 +67,16 @@ class Lattice:
     def remainders(self):
         """All remainders, by their numbers."""
         return tuple([(i, j) for j in range(self.up) for i in range(self.across)])
+
+
+def spanned(shifts):
+    """A matrix that gives just the cells that these shifts make, forth and back; they are not all on one line."""
+    one, two = (0, 0), (0, 0)
+    for shift in shifts:
+        # The first one is kept at the lesser side of a step of Euclid's algorithm in the second number.
+        three = shift
+        while three[1] != 0:
+            times = one[1] // three[1]
+            one, three = three, (one[0] - times * three[0], one[1] - times * three[1])
+        two = (gcd(two[0], three[0]), 0)
+    return ((two[0], one[0]), (0, one[1]))

@@ -155,9 +155,26 @@ class Fronts:
         pairs = [(at, (at + 1) % count) for at in range(count if self.is_closed else count - 1)]
         return [(at, other) for at, other in pairs if cross(self.ways[at][0].shift, self.ways[other][0].shift) > 0]
 
+    def _far_neighbours(self):
+        """As _neighbours, and with those between which others lie on the same side of the hull."""
+        count = len(self.ways)
+        pairs = []
+        for at, other in self._neighbours():
+            pairs.append((at, other))
+            one, two = self.rays[at], self.rays[other]
+            other = (other + 1) % count
+            while self._is_on(one, two, self.rays[other]):
+                pairs.append((at, other))
+                other = (other + 1) % count
+        return pairs
+
+    def _is_on(self, one, two, three):
+        """Whether the rate of the third ray lies behind the other two on the side of the hull that they begin."""
+        return cross(two.shift, three.shift) > 0 and cross(one.shift, three.shift) > 0 and _side(one, two, three) == 0
+
     def all_pairs(self):
-        """All pairs of rays with a side of the hull between them, the longer ones, too."""
-        return [(one, two) for at, other in self._neighbours() for one in self.ways[at] for two in self.ways[other]]
+        """All pairs of rays with nothing but a side of the hull between them, the longer ones, too."""
+        return [(one, two) for at, other in self._far_neighbours() for one in self.ways[at] for two in self.ways[other]]
 
     def sides_of(self, at):
         """The sides of the hull, as pairs of rays, that the direction with this index has ahead and behind, or None."""

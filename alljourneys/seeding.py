@@ -17,7 +17,7 @@ def seeded_grove(ground, start):
     whole = (1 << len(ground.net.spots)) - 1
     near = Hunt(ground.net, start, whole, plain_course(), NEAR_STOPS)
     grove.known = near.prices
-    masks = _widest_masks(near, len(ground.net.spots))
+    masks = _widest_masks(ground.net, start)
     for mask in masks:
         for pair in ground.fronts(mask).all_pairs():
             _plant_pair(grove, mask, pair)
@@ -31,14 +31,18 @@ def seeded_grove(ground, start):
     return grove
 
 
-def _widest_masks(hunt, spots):
-    """The sets of spots that are passed to come to some spot, each as a mask, without those within others for it."""
-    passed = {}
-    found = [{} for _ in range(spots)]
-    for stop in hunt.prices:
-        ahead = hunt.before(stop)
-        passed[stop] = (0 if ahead is None else passed[ahead]) | (1 << stop[0])
-        found[stop[0]][passed[stop]] = True
+def _widest_masks(net, start):
+    """The masks of the spots that are passed on journeys to some spot, without those within others for this spot."""
+    found = [{} for _ in net.spots]
+    found[start][1 << start] = True
+    waiting = [(1 << start, start)]
+    while waiting:
+        mask, spot = waiting.pop()
+        for link in net.links_from[spot]:
+            wider = mask | (1 << link.end)
+            if wider not in found[link.end]:
+                found[link.end][wider] = True
+                waiting.append((wider, link.end))
     widest = {}
     for masks in found:
         for mask in masks:

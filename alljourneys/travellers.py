@@ -63,7 +63,7 @@ class Traveller:
         start, end = _named(road.start, standing), _named(road.end, self.behind(road, standing))
         return Road(_named(road.name, standing), start, end, road.shift, road.price, road.label)
 
-    def first(self):
+    def first_standing(self):
         """The standing at the start."""
         return (self.states[0] if self.states else None, self.tank, 0 if self._rules.bars else None)
 
@@ -93,7 +93,7 @@ class Traveller:
     def first_spot(self, spot):
         """The name of the spot of the expanded map at which a traveller stands that starts at this spot."""
         require_spot(self.land, spot)
-        return _named(spot, self.first())
+        return _named(spot, self.first_standing())
 
     def last_spots(self, spot):
         """The names of the spots of the expanded map, of standings at this spot, at which the traveller may end."""
@@ -103,7 +103,7 @@ class Traveller:
     def _gone(self, start, journey):
         """The list of the places and standings on a journey, from the start on."""
         require_place(self.land, start, "start")
-        stops = [(start, self.first())]
+        stops = [(start, self.first_standing())]
         for index, name in enumerate(journey):
             place, standing = stops[-1]
             road = road_from(self.land, name, place[0], index)
@@ -170,7 +170,7 @@ def parting(one, other):
         raise Unlike("map")
     search = Search(one, other)
     for spot in one.land.spots:
-        found = search.reach(spot, (one.first(), other.first()), (spot, ()))
+        found = search.reach(spot, (one.first_standing(), other.first_standing()), (spot, ()))
         if found is not None:
             return found
     at = 0

@@ -19,7 +19,7 @@ builtins compile copyright credits delattr dir eval exec exit gc getattr globals
 locals methodcaller os quit setattr super type vars sys""".split())
 BARRED_WORDS = set("""type typing enum Enum Flag Generic Protocol ABC namedtuple NamedTuple TypedDict dataclass
 overload contextmanager _wall _WallAttr""".split())
-BARRED_NODES = (ast.Global, ast.AsyncFunctionDef, ast.AsyncFor, ast.AsyncWith, ast.Await, ast.Yield, ast.YieldFrom,
+BARRED_NODES = (ast.Global, ast.AsyncFunctionDef, ast.AsyncFor, ast.AsyncWith, ast.Await, ast.YieldFrom,
                 ast.GeneratorExp, ast.Div, ast.NamedExpr, ast.Match, ast.AnnAssign, ast.MatMult, ast.Nonlocal,
                 ast.Set, ast.SetComp)
 VALUE_ATTRIBUTES = {name for kind in (int, str, list, dict, set, bytes) for name in dir(kind)}
@@ -131,6 +131,8 @@ class LanguageTest(unittest.TestCase):
                     self.assertIn(node.exc.func.id, names_of_errors(), where)
                 if isinstance(node, ast.Pow):
                     self.fail(where)
+                if isinstance(node, ast.Yield):
+                    self.assertEqual(stem, "waves")
 
     def test_names(self):
         taken = set(dir(builtins))
