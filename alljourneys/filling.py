@@ -8,6 +8,13 @@ from alljourneys.trails import Trail
 # Counts at which gaps are looked for first: that is quicker than to find them by a tree.
 SAMPLES = (0, 1, 2, 3, 5, 8, 13)
 
+# How far ahead of a gap is looked for more of them, by both loops at once, and how many are too many for single rows.
+WIDE = (1, 2, 4, 8)
+WIDE_GAPS = 4
+
+# So many gaps of a sheet of two steps are filled one by one.
+PATIENCE = 8
+
 
 class Shoot:
     """A stem with one more link: a trail from the start with loops, whose sheet is to be had by stems."""
@@ -17,6 +24,7 @@ class Shoot:
         self.stem = stem
         self.link = link
         self.sheet = stem.sheet.moved(link.shift, link.price)
+        self._alone = []
 
     def is_gap(self, counts):
         """Whether no stem has the cell to which the counts lead for its price."""
@@ -53,6 +61,20 @@ class Shoot:
                     break
         return best
 
+    def _corner_with(self, counts):
+        """From which counts on all is to be filled, if a gap with these counts is one of many; otherwise None."""
+        if len(counts) < 2:
+            return None
+        ahead = [self.is_gap((counts[0] + more, counts[1] + other)) for more in WIDE for other in WIDE]
+        if sum(ahead) >= WIDE_GAPS:
+            return counts
+        self._alone.append(counts)
+        if len(self._alone) < PATIENCE:
+            return None
+        corner = (min([first for first, _ in self._alone]), min([second for _, second in self._alone]))
+        self._alone = []
+        return corner
+
     def fill(self, counts):
         """Add stems that have, at least, the gap with these counts."""
         base = self.trail_with([0 for _ in counts])
@@ -61,6 +83,10 @@ class Shoot:
             return
         if len(counts) == 2 and self.is_gap([count + FAR for count in counts]):
             self.grove.put(base, self.stem.loops)
+            return
+        corner = self._corner_with(counts)
+        if corner is not None:
+            self.grove.put(self.trail_with(corner), self.stem.loops)
             return
         trail = self.trail_with(counts)
         for times in (FAR, 1):

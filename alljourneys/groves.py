@@ -26,7 +26,7 @@ class Ground:
     def fronts(self, mask):
         """The Fronts of the loops within the mask."""
         if mask not in self._fronts:
-            self._fronts[mask] = Fronts([loop for loop in self.loops if loop.mask | mask == mask])
+            self._fronts[mask] = Fronts([loop for loop in self.loops if loop.mask & mask != 0])
         return self._fronts[mask]
 
 
