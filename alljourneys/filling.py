@@ -12,6 +12,9 @@ SAMPLES = (0, 1, 2, 3, 5, 8, 13)
 WIDE = (1, 2, 4, 8)
 WIDE_GAPS = 4
 
+# No trail is made longer than by so many loops.
+LONG = 2000
+
 # So many gaps of a sheet of two steps are filled one by one.
 PATIENCE = 8
 
@@ -81,18 +84,30 @@ class Shoot:
         if not any(counts):
             self.grove.plant(base)
             return
-        if len(counts) == 2 and self.is_gap([count + FAR for count in counts]):
+        if sum(counts) > LONG or (len(counts) == 2 and self.is_gap([count + FAR for count in counts])):
             self.grove.put(base, self.stem.loops)
             return
+        trail = self.trail_with(counts)
+        for pair in self.grove.ground.fronts(trail.mask).pairs:
+            if self.grove.is_new(trail, pair, FAR):
+                self.grove.put(self._trail_without(counts, [ray.shift for ray in pair]), pair)
+                return
         corner = self._corner_with(counts)
         if corner is not None:
             self.grove.put(self.trail_with(corner), self.stem.loops)
             return
-        trail = self.trail_with(counts)
+        self._fill_row(counts, trail)
+
+    def _trail_without(self, counts, shifts):
+        """The Trail with each loop put in as often as counts say, but for those of these shifts."""
+        return self.trail_with([0 if loop.shift in shifts else count for loop, count in zip(self.stem.loops, counts)])
+
+    def _fill_row(self, counts, trail):
+        """Add a stem of at most one loop that has the gap with these counts, to which the trail leads."""
         for times in (FAR, 1):
-            for at, loop in enumerate(self.stem.loops):
+            for loop in self.stem.loops:
                 if self.grove.is_new(trail, (loop,), times):
-                    self.grove.put(self.trail_with([*counts[:at], 0, *counts[at + 1:]]), (loop,))
+                    self.grove.put(self._trail_without(counts, [loop.shift]), (loop,))
                     return
             for ray in self.grove.ground.fronts(trail.mask).rays:
                 if self.grove.is_new(trail, (ray,), times):

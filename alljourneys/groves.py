@@ -15,6 +15,10 @@ AHEAD = 50
 LONG_RUN = 8
 
 
+# The shape of a ground is told by the masks of so many spots; those of all would be too many.
+SHAPED_SPOTS = 6
+
+
 class Ground:
     """A net with its loops, and the fronts of those that lie within a mask."""
 
@@ -28,6 +32,12 @@ class Ground:
         if mask not in self._fronts:
             self._fronts[mask] = Fronts([loop for loop in self.loops if loop.mask & mask != 0])
         return self._fronts[mask]
+
+    def shape(self):
+        """Which loops are on the fronts of masks, by their links, whatever these cost."""
+        ways = [self.fronts(mask).ways for mask in range(1, 1 << min(len(self.net.spots), SHAPED_SPOTS))]
+        return [[link.name for link in loop.links]
+                for way in ways for rays in way for ray in rays for loop in ray.loops]
 
 
 class Stem:

@@ -1,8 +1,13 @@
 """Least prices between two places, and whether a road is needed, for all letters."""
 
+from heapq import heappop, heappush
+
+from alljourneys.atlases import Atlas
 from alljourneys.building import without
+from alljourneys.nets import Net
 from alljourneys.rates import lowest
-from alljourneys.stretches import require_goal, stretches_on
+from alljourneys.stretches import require_goal
+from alljourneys.waves import Outlook
 
 
 def _rows_at(told, goal):
@@ -91,19 +96,57 @@ def _keep_less(span, mine, other, is_equal_right):
     return True
 
 
+def _has_ends(road, other):
+    """Whether two roads have the same ends."""
+    return (road.start, road.end, road.shift) == (other.start, other.end, other.shift)
+
+
+def _cheap_rows(letter, land, road):
+    """The rows of the journeys on a map between the ends of a road that cost no more than it where the letter is 1."""
+    net = Net(land, [sum(letter.row_along([other])) for other in land.roads])
+    marks = {other.name: letter.row_along([other])[1] for other in land.roads}
+    last = (net.spot_numbers[road.end], road.shift[0], road.shift[1])
+    outlook = Outlook(net, last)
+    first = (0, net.spot_numbers[road.start], 0, 0)
+    least = {first: 0}
+    queue = [(0, *first)]
+    while queue:
+        price, many, number, x, y = heappop(queue)
+        if least[(many, number, x, y)] < price:
+            continue
+        for link in net.links_from[number]:
+            there = (many + marks[link.name], link.end, x + link.shift[0], y + link.shift[1])
+            more = price + link.price
+            is_near = more + outlook.bound(*there[1:], road.price) <= road.price
+            if is_near and (there not in least or more < least[there]):
+                least[there] = more
+                heappush(queue, (more, *there))
+    return [(price - there[0], there[0]) for there, price in least.items() if there[1:] == last]
+
+
+def _rival_rows(letter, road, alike):
+    """The rows of all other journeys between the ends of a road that may cost no more, but for these roads."""
+    names = [road.name] + [other.name for other in alike]
+    if letter.row_along([road]) == (road.price, 0):
+        return _cheap_rows(letter, without(letter.land, names), road)
+    # What has a letter road and anything beside it costs more than the letter.
+    plain = Atlas(without(letter.land, names + list(letter.letters)))
+    price = plain.least_price((road.start, 0, 0), (road.end, *road.shift))
+    rows = [] if price is None else [(price, 0)]
+    marked = [letter.land.road_named(name) for name in letter.letters if name not in names]
+    return rows + [(0, 1) for other in marked if _has_ends(other, road)]
+
+
 def needed_for(letter, name):
     """The span of all letters at which a road is needed; None if it is needed at none."""
     road = letter.land.road_named(name)
     if road.start == road.end and road.shift == (0, 0):
         return None
     names = [other.name for other in letter.land.roads]
-    alike = [other for other in letter.land.roads[names.index(road.name) + 1:]
-             if (other.start, other.end, other.shift) == (road.start, road.end, road.shift)]
+    alike = [other for other in letter.land.roads[names.index(road.name) + 1:] if _has_ends(other, road)]
     span = Span()
     mine = letter.row_along([road])
-    rest = without(letter.land, [road.name] + [other.name for other in alike])
-    told = stretches_on(letter, rest, road.start)
-    rows = [(row, False) for row in _rows_at(told, (road.end, *road.shift))]
+    rows = [(row, False) for row in _rival_rows(letter, road, alike)]
     rows.extend([(letter.row_along([other]), True) for other in alike])
     for row, is_equal_right in rows:
         if not _keep_less(span, mine, row, is_equal_right):

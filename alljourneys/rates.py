@@ -16,6 +16,11 @@ def is_ratio(value):
     return is_cell(value) and value[1] > 0 and gcd(value[0], value[1]) == 1
 
 
+def is_less(one, other):
+    """Whether a ratio, or None, which stands for no end, is less than another one."""
+    return one is not None and (other is None or one[0] * other[1] < other[0] * one[1])
+
+
 def times_line(line, cell):
     """The product of a line and a cell."""
     return line[0] * cell[0] + line[1] * cell[1]

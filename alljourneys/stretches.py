@@ -1,20 +1,12 @@
 """Papers for all letters from one ratio to another one."""
 
-from alljourneys.bounds import Rows, bound_of
 from alljourneys.checks import is_cell, is_place, is_spot, require_spot
+from alljourneys.drafts import Draft
 from alljourneys.errors import BadPlace
-from alljourneys.filling import covers_of
 from alljourneys.forms import gauges_of
-from alljourneys.groves import Ground
 from alljourneys.letters import LetterFan, letter_fan_holds, require_ratio, sheet_at
-from alljourneys.nets import Net
-from alljourneys.rates import is_ratio, lowest
-from alljourneys.seeding import seeded_grove
-from alljourneys.sheets import Sheet
+from alljourneys.rates import is_less, is_ratio, lowest
 from alljourneys.trees import tree_over
-
-# Papers are made for letters that are above the low end by one over this: by so little that nothing changes between.
-FINE = 1000000000000000000000000000000
 
 
 class Stretch:
@@ -28,63 +20,17 @@ class Stretch:
         self.covers = covers
 
 
-def _row_at(letter, names):
-    """The row of a journey of these names."""
-    return letter.row_along([letter.land.road_named(name) for name in names])
-
-
-def _fan_of(letter, stem):
-    """The LetterFan of a stem."""
-    names, rounds = stem.trail.names(), stem.trail.rounds_of(stem.loops)
-    plain, marked = _row_at(letter, names)
-    rows = [_row_at(letter, loop) for _, loop in rounds]
-    sheet = Sheet(stem.sheet.base, plain, stem.sheet.steps, [row[0] for row in rows])
-    marks = Sheet(stem.sheet.base, marked, stem.sheet.steps, [row[1] for row in rows])
-    return LetterFan(letter.land.spots[stem.trail.end], sheet, marks, names, rounds)
-
-
-def _is_less(one, other):
-    """Whether a ratio is less than another one, or than None, which stands for no end."""
-    return other is None or (one is not None and one[0] * other[1] < other[0] * one[1])
-
-
-def _high_of(letter, land, fans, covers):
-    """The greatest letter at which all trees hold; None if they hold for all that are greater."""
-    rows = {spot: Rows() for spot in land.spots}
-    for fan in fans:
-        rows[fan.spot].enter(fan)
-    high = None
-    for fan, trees in zip(fans, covers):
-        for road, tree in zip(land.roads_from(fan.spot), trees):
-            bound = bound_of(rows[road.end], fan, road.shift, letter.row_along([road]), tree)
-            if bound is not None and _is_less(bound, high):
-                high = bound
-    return high
-
-
-def _stretch_from(letter, land, start, low):
-    """The Stretch from a low end on, on a map with roads of the letter map."""
-    top, bottom = low[0] * FINE + low[1], low[1] * FINE
-    rows = [letter.row_along([road]) for road in land.roads]
-    net = Net(land, [bottom * plain + top * marked for plain, marked in rows])
-    grove = seeded_grove(Ground(net), net.spot_numbers[start])
-    covers = covers_of(grove)
-    fans = tuple([_fan_of(letter, stem) for stem in grove.stems])
-    return Stretch(start, low, _high_of(letter, land, fans, covers), fans, covers)
-
-
-def stretches_on(letter, land, start):
-    """As stretches, on a map with spots and some of the roads of the letter map, perhaps without any letter road."""
-    told = [_stretch_from(letter, land, start, (1, 1))]
-    while told[-1].high is not None:
-        told.append(_stretch_from(letter, land, start, told[-1].high))
-    return tuple(told)
-
-
 def stretches(letter, start):
     """A tuple of Stretches that hold, from the letter 1 on, one behind the other."""
     require_spot(letter.land, start)
-    return stretches_on(letter, letter.land, start)
+    draft = Draft(letter, start)
+    told = []
+    low = (1, 1)
+    while low is not None:
+        draft.carry_to(low)
+        told.append(Stretch(start, low, draft.reach(), tuple(draft.fans), draft.told_covers()))
+        low = told[-1].high
+    return tuple(told)
 
 
 def _parts_at(fans, ratio):
@@ -112,7 +58,7 @@ def _has_ends(stretch):
     low, high = stretch.low, stretch.high
     if not is_cell(low) or not is_ratio(low) or low[0] < low[1]:
         return False
-    return high is None or (is_cell(high) and is_ratio(high) and _is_less(low, high))
+    return high is None or (is_cell(high) and is_ratio(high) and is_less(low, high))
 
 
 def _begins(start, fans):
@@ -150,7 +96,7 @@ def price_for(told, goal, ratio):
     """The least price to goal where the letter is the ratio, by what stretches told; None if goal is not reached."""
     require_goal(goal)
     require_ratio(ratio)
-    here = [stretch for stretch in told if not _is_less(ratio, stretch.low)][-1]
+    here = [stretch for stretch in told if not is_less(ratio, stretch.low)][-1]
     cell = (goal[1], goal[2])
     prices = [sheet_at(fan, ratio).price_at(cell) for fan in here.fans if fan.spot == goal[0]]
     prices = [price for price in prices if price is not None]
