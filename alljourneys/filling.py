@@ -8,10 +8,6 @@ from alljourneys.trails import Trail
 # Counts at which gaps are looked for first: that is quicker than to find them by a tree.
 SAMPLES = (0, 1, 2, 3, 5, 8, 13)
 
-# How far ahead of a gap is looked for more of them, by both loops at once, and how many are too many for single rows.
-WIDE = (1, 2, 4, 8)
-WIDE_GAPS = 4
-
 # No trail is made longer than by so many loops.
 LONG = 2000
 
@@ -64,19 +60,22 @@ class Shoot:
                     break
         return best
 
-    def _corner_with(self, counts):
-        """From which counts on all is to be filled, if a gap with these counts is one of many; otherwise None."""
-        if len(counts) < 2:
-            return None
-        ahead = [self.is_gap((counts[0] + more, counts[1] + other)) for more in WIDE for other in WIDE]
-        if sum(ahead) >= WIDE_GAPS:
-            return counts
+    def _fill_wide(self, counts, trail):
+        """Add a stem of two loops if the gap with these counts, to which the trail leads, is one of many; whether."""
+        if len(counts) == 2 and self.grove.is_wide(trail, self.stem.loops):
+            self.grove.put(trail, self.stem.loops)
+            return True
         self._alone.append(counts)
         if len(self._alone) < PATIENCE:
-            return None
-        corner = (min([first for first, _ in self._alone]), min([second for _, second in self._alone]))
+            return False
+        wide = [pair for pair in self.grove.ground.fronts(trail.mask).pairs if self.grove.is_wide(trail, pair)]
+        if wide:
+            self.grove.put(trail, wide[0])
+        elif len(counts) == 2:
+            corner = (min([first for first, _ in self._alone]), min([second for _, second in self._alone]))
+            self.grove.put(self.trail_with(corner), self.stem.loops)
         self._alone = []
-        return corner
+        return bool(wide) or len(counts) == 2
 
     def fill(self, counts):
         """Add stems that have, at least, the gap with these counts."""
@@ -90,13 +89,11 @@ class Shoot:
         trail = self.trail_with(counts)
         for pair in self.grove.ground.fronts(trail.mask).pairs:
             if self.grove.is_new(trail, pair, FAR):
-                self.grove.put(self._trail_without(counts, [ray.shift for ray in pair]), pair)
+                less = self._trail_without(counts, [ray.shift for ray in pair])
+                self.grove.put(less if all([less.meets(ray) for ray in pair]) else trail, pair)
                 return
-        corner = self._corner_with(counts)
-        if corner is not None:
-            self.grove.put(self.trail_with(corner), self.stem.loops)
-            return
-        self._fill_row(counts, trail)
+        if not self._fill_wide(counts, trail):
+            self._fill_row(counts, trail)
 
     def _trail_without(self, counts, shifts):
         """The Trail with each loop put in as often as counts say, but for those of these shifts."""

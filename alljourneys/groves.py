@@ -50,11 +50,16 @@ class Stem:
         self.sheet = trail.sheet_with(loops)
 
 
-def _led(trail, loops, times):
-    """The cell and the price behind a trail and so many times each of the loops."""
+# How far ahead is looked, by two loops at once, for what is new, and how much of it makes a sheet of two steps of use.
+WIDE = (1, 2, 4, 8)
+WIDE_GAPS = 6
+
+
+def _led(trail, loops, counts):
+    """The cell and the price behind a trail and the loops, each so many times as its count says."""
     x, y = trail.cell
     price = trail.price
-    for loop in loops:
+    for loop, times in zip(loops, counts):
         x, y, price = x + times * loop.shift[0], y + times * loop.shift[1], price + times * loop.price
     return (x, y), price
 
@@ -96,15 +101,23 @@ class Grove:
         self._stems_at[trail.end].append(stem)
         self.stems.append(stem)
 
-    def is_new(self, trail, loops, times):
-        """Whether no stem has the cell behind the trail and so many times each loop for the price of this way."""
-        cell, price = _led(trail, loops, times)
+    def _is_new_at(self, trail, loops, counts):
+        """Whether no stem has the cell behind the trail and the loops, as often as counts say, for this price."""
+        cell, price = _led(trail, loops, counts)
         near = self.known.get((trail.end, *cell, 0))
         return (near is None or near >= price) and not self.has(trail.end, cell, price)
 
+    def is_new(self, trail, loops, times):
+        """Whether no stem has the cell behind the trail and so many times each loop for the price of this way."""
+        return self._is_new_at(trail, loops, [times for _ in loops])
+
+    def is_wide(self, trail, pair):
+        """Whether much of what is near behind the trail and two loops is new."""
+        return sum([self._is_new_at(trail, pair, (one, two)) for one in WIDE for two in WIDE]) >= WIDE_GAPS
+
     def is_beaten(self, trail, loops):
         """Whether some stem has the cell far away behind the trail and its loops for less."""
-        cell, price = _led(trail, loops, FAR)
+        cell, price = _led(trail, loops, [FAR for _ in loops])
         return self.has(trail.end, cell, price - 1)
 
     def _run(self, trail, rays):

@@ -22,6 +22,10 @@ class Trail:
         """Where in the trail a loop can be put in first: a tuple of how many links are ahead, and of the spot."""
         return min([(self.first_at[link.start], link.start) for link in loop.links if link.start in self.first_at])
 
+    def meets(self, ray):
+        """Whether some loop of a ray can be put in."""
+        return any([loop.mask & self.mask != 0 for loop in ray.options()])
+
     def loop_of(self, ray):
         """The loop of a ray that can be put in first."""
         loops = [loop for loop in ray.options() if loop.mask & self.mask != 0]
