@@ -14,8 +14,13 @@ from alljourneys.trails import Trail
 # Papers are made for letters that are above the low end by one over this: by so little that nothing changes between.
 FINE = 1000000000000000000000000000000
 
-# How many times as many fans as at its beginning a paper may have until it is begun anew.
+# A paper is begun anew when it has more than so many times the fans of its beginning, or was carried on so often:
+# what is carried on has only rows of fans where, for all greater letters, sheets of two steps are needed.
 GROWTH = 2
+CARRIES = 10
+
+# Behind so many gaps that are filled by rows of fans, sheets of two steps are looked for.
+PATIENCE = 16
 
 
 def _row_at(letter, names):
@@ -50,10 +55,12 @@ class Draft:
         self._bounds = []
         self._rows = {spot: Rows() for spot in self.letter.land.spots}
         self._limit = None
+        self._carries = 0
 
     def carry_to(self, low):
         """Make the paper hold from this letter on."""
-        if self._limit is not None and len(self.fans) > self._limit:
+        self._carries += 1
+        if self._carries > CARRIES or (self._limit is not None and len(self.fans) > self._limit):
             self._shape = None
         grove = self._grove_at(low)
         self._enter_fans(grove)
@@ -95,8 +102,8 @@ class Draft:
             # Sheets with other steps than those on the fronts would be beaten only far away, so none is kept.
             self._begin()
             self._shape = ground.shape()
-            return seeded_grove(ground, start)
-        grove = Grove(ground, start)
+            return seeded_grove(ground, start, PATIENCE)
+        grove = Grove(ground, start, PATIENCE)
         links = {link.name: link for link in net.links}
         for stem in self._stems:
             loops = [_loop_on(links, loop) for loop in stem.loops]

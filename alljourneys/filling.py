@@ -66,16 +66,18 @@ class Shoot:
             self.grove.put(trail, self.stem.loops)
             return True
         self._alone.append(counts)
-        if len(self._alone) < PATIENCE:
+        if len(self._alone) < PATIENCE and not self.grove.is_overdue():
             return False
         wide = [pair for pair in self.grove.ground.fronts(trail.mask).pairs if self.grove.is_wide(trail, pair)]
         if wide:
-            self.grove.put(trail, wide[0])
-        elif len(counts) == 2:
+            self._put_less(counts, trail, wide[0])
+        elif len(counts) == 2 and len(self._alone) >= PATIENCE:
             corner = (min([first for first, _ in self._alone]), min([second for _, second in self._alone]))
             self.grove.put(self.trail_with(corner), self.stem.loops)
+        else:
+            return False
         self._alone = []
-        return bool(wide) or len(counts) == 2
+        return True
 
     def fill(self, counts):
         """Add stems that have, at least, the gap with these counts."""
@@ -89,11 +91,16 @@ class Shoot:
         trail = self.trail_with(counts)
         for pair in self.grove.ground.fronts(trail.mask).pairs:
             if self.grove.is_new(trail, pair, FAR):
-                less = self._trail_without(counts, [ray.shift for ray in pair])
-                self.grove.put(less if all([less.meets(ray) for ray in pair]) else trail, pair)
+                self._put_less(counts, trail, pair)
                 return
         if not self._fill_wide(counts, trail):
+            self.grove.note_row()
             self._fill_row(counts, trail)
+
+    def _put_less(self, counts, trail, rays):
+        """Add the stem of the trail with these counts and rays; the rays are left out of the trail, if they can be."""
+        less = self._trail_without(counts, [ray.shift for ray in rays])
+        self.grove.put(less if all([less.meets(ray) for ray in rays]) else trail, rays)
 
     def _trail_without(self, counts, shifts):
         """The Trail with each loop put in as often as counts say, but for those of these shifts."""

@@ -65,11 +65,17 @@ def _led(trail, loops, counts):
 
 
 class Grove:
-    """Stems from one start; known tells least prices of near places by (spot, x, y, 0)."""
+    """Stems from one start; known tells least prices of near places by (spot, x, y, 0).
 
-    def __init__(self, ground, start):
+    If patience is told, stems of two loops are looked for behind so many gaps that
+    were filled by others.
+    """
+
+    def __init__(self, ground, start, patience=None):
         self.ground = ground
         self.start = start
+        self.patience = patience
+        self._row_count = 0
         self.stems = []
         self.known = {}
         self._shelves = [Shelf() for _ in ground.net.spots]
@@ -100,6 +106,14 @@ class Grove:
         self._takers[trail.end].append(Taker(stem.index, Gauge(stem.sheet)))
         self._stems_at[trail.end].append(stem)
         self.stems.append(stem)
+
+    def note_row(self):
+        """Note that a gap was filled by less than two loops."""
+        self._row_count += 1
+
+    def is_overdue(self):
+        """Whether too many gaps were filled so."""
+        return self.patience is not None and self._row_count > self.patience
 
     def _is_new_at(self, trail, loops, counts):
         """Whether no stem has the cell behind the trail and the loops, as often as counts say, for this price."""

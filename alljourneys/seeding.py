@@ -11,9 +11,9 @@ RAY_STOPS = 4000
 SAMPLES = 4
 
 
-def seeded_grove(ground, start):
+def seeded_grove(ground, start, patience=None):
     """The Grove from a start with stems that have, as a rule, all places for their least prices."""
-    grove = Grove(ground, start)
+    grove = Grove(ground, start, patience)
     whole = (1 << len(ground.net.spots)) - 1
     near = Hunt(ground.net, start, whole, plain_course(), NEAR_STOPS)
     grove.known = near.prices
