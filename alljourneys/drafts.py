@@ -14,9 +14,10 @@ from alljourneys.trails import Trail
 # Papers are made for letters that are above the low end by one over this: by so little that nothing changes between.
 FINE = 1000000000000000000000000000000
 
-# A paper is begun anew when it has more than so many times the fans of its beginning, or was carried on so often:
-# what is carried on has only rows of fans where, for all greater letters, sheets of two steps are needed.
+# A paper is begun anew when it has more than so many times the fans of its beginning, and some more, or was carried
+# on so often: it has only rows of fans where, for all greater letters, sheets of two steps are needed.
 GROWTH = 2
+SPARE = 50
 CARRIES = 10
 
 # Behind so many gaps that are filled by rows of fans, sheets of two steps are looked for.
@@ -60,15 +61,25 @@ class Draft:
     def carry_to(self, low):
         """Make the paper hold from this letter on."""
         self._carries += 1
-        if self._carries > CARRIES or (self._limit is not None and len(self.fans) > self._limit):
+        if self._carries > CARRIES or not self._is_small(self.fans) or not self._carried(low):
             self._shape = None
+            self._carried(low)
+
+    def _is_small(self, fans):
+        """Whether so many fans are not too many beside those of the beginning."""
+        return self._limit is None or len(fans) <= self._limit
+
+    def _carried(self, low):
+        """Whether the paper was made to hold from this letter on without too many fans."""
         grove = self._grove_at(low)
         self._enter_fans(grove)
-        for number, bounds in enumerate(self._bounds):
-            for at, bound in enumerate(bounds):
-                if bound is not None and not is_less(low, bound):
-                    self._covers[number][at], bounds[at] = self._covered(grove, number, at)
+        due = [(number, at) for number, bounds in enumerate(self._bounds) for at, bound in enumerate(bounds)
+               if bound is not None and not is_less(low, bound)]
+        for number, at in due:
+            self._covers[number][at], self._bounds[number][at] = self._covered(grove, number, at)
         while len(self._covers) < len(grove.stems):
+            if not self._is_small(grove.stems):
+                return False
             number = len(self._covers)
             links = grove.ground.net.links_from[grove.stems[number].trail.end]
             rows = [self._covered(grove, number, at) for at in range(len(links))]
@@ -76,7 +87,8 @@ class Draft:
             self._bounds.append([bound for _, bound in rows])
         self._stems = grove.stems
         if self._limit is None:
-            self._limit = GROWTH * len(self.fans)
+            self._limit = GROWTH * len(self.fans) + SPARE
+        return True
 
     def reach(self):
         """The greatest letter at which all trees hold; None if they hold for all that are greater."""

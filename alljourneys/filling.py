@@ -66,7 +66,8 @@ class Shoot:
             self.grove.put(trail, self.stem.loops)
             return True
         self._alone.append(counts)
-        if len(self._alone) < PATIENCE and not self.grove.is_overdue():
+        is_overdue = self.grove.is_overdue()
+        if len(self._alone) < PATIENCE and not is_overdue:
             return False
         wide = [pair for pair in self.grove.ground.fronts(trail.mask).pairs if self.grove.is_wide(trail, pair)]
         if wide:
@@ -94,7 +95,6 @@ class Shoot:
                 self._put_less(counts, trail, pair)
                 return
         if not self._fill_wide(counts, trail):
-            self.grove.note_row()
             self._fill_row(counts, trail)
 
     def _put_less(self, counts, trail, rays):

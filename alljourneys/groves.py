@@ -75,7 +75,7 @@ class Grove:
         self.ground = ground
         self.start = start
         self.patience = patience
-        self._row_count = 0
+        self._gap_count = 0
         self.stems = []
         self.known = {}
         self._shelves = [Shelf() for _ in ground.net.spots]
@@ -107,13 +107,10 @@ class Grove:
         self._stems_at[trail.end].append(stem)
         self.stems.append(stem)
 
-    def note_row(self):
-        """Note that a gap was filled by less than two loops."""
-        self._row_count += 1
-
     def is_overdue(self):
-        """Whether too many gaps were filled so."""
-        return self.patience is not None and self._row_count > self.patience
+        """Note that a gap is to be filled; whether it is time to look for two loops, which is told once in a while."""
+        self._gap_count += 1
+        return self.patience is not None and self._gap_count % self.patience == 0
 
     def _is_new_at(self, trail, loops, counts):
         """Whether no stem has the cell behind the trail and the loops, as often as counts say, for this price."""

@@ -115,9 +115,10 @@ def _cheap_rows(letter, land, road):
         if least[(many, number, x, y)] < price:
             continue
         for link in net.links_from[number]:
-            there = (many + marks[link.name], link.end, x + link.shift[0], y + link.shift[1])
+            place = (link.end, x + link.shift[0], y + link.shift[1])
+            there = (many + marks[link.name], *place)
             more = price + link.price
-            is_near = more + outlook.bound(*there[1:], road.price) <= road.price
+            is_near = more + outlook.bound(*place, road.price) <= road.price
             if is_near and (there not in least or more < least[there]):
                 least[there] = more
                 heappush(queue, (more, *there))

@@ -168,6 +168,10 @@ class LanguageTest(unittest.TestCase):
                     self.assertIn(node.id, known, where)
                 if isinstance(node, ast.Call) and isinstance(node.func, ast.Attribute):
                     self.assertIn(node.func.attr, own | VALUE_METHODS, where)
+                if isinstance(node, ast.Call):
+                    for part in node.args:
+                        if isinstance(part, ast.Starred):
+                            self.assertIsInstance(part.value, (ast.Name, ast.Attribute), where)
                 if isinstance(node, ast.Call) and isinstance(node.func, ast.Name):
                     for keyword in node.keywords:
                         if node.func.id in BUILTINS:
