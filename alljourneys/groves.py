@@ -126,6 +126,13 @@ class Grove:
         """Whether much of what is near behind the trail and two loops is new."""
         return sum([self._is_new_at(trail, pair, (one, two)) for one in WIDE for two in WIDE]) >= WIDE_GAPS
 
+    def goes_on(self, trail, ray, pair):
+        """Whether, far away along a ray of the pair, what is beside it is new, too."""
+        if not all([trail.meets(loop) for loop in pair]):
+            return False
+        counts = [[FAR if loop.shift == ray.shift else times for loop in pair] for times in WIDE]
+        return all([self._is_new_at(trail, pair, many) for many in counts])
+
     def is_beaten(self, trail, loops):
         """Whether some stem has the cell far away behind the trail and its loops for less."""
         cell, price = _led(trail, loops, [FAR for _ in loops])

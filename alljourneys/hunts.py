@@ -7,7 +7,7 @@ shift; no round costs less than 0, so what is found first is the best of all ali
 
 from heapq import heappop, heappush
 
-from alljourneys.sheets import cross
+from alljourneys.sheets import Sheet, cross
 from alljourneys.trails import Trail
 
 
@@ -17,6 +17,7 @@ class Course:
     def __init__(self, rays, line, bottom, band):
         self.masks = [ray.mask for ray in rays]
         self.steps = tuple([ray.shift for ray in rays])
+        self.step_prices = tuple([ray.price for ray in rays])
         self.line = line
         self.bottom = bottom
         self.band = band
@@ -102,6 +103,7 @@ class Hunt:
         self.start = start
         self.course = course
         self.prices = {}
+        self._costs = {}
         self._links = [[(link, course.cost(link)) for link in links if mask & (1 << link.end) != 0]
                        for links in net.links_from]
         heights = self._heights() if course.steps else [0 for _ in net.spots]
@@ -114,6 +116,7 @@ class Hunt:
             if stop in self.prices:
                 continue
             self.prices[stop] = price
+            self._costs[stop] = cost + heights[stop[0]]
             for link, more in self._links[stop[0]]:
                 there = self._behind(stop, link)
                 if there is None:
@@ -146,6 +149,14 @@ class Hunt:
         if cell is None:
             return None
         return (link.end, cell[0], cell[1], self.course.flags(link.end, stop[3]))
+
+    def far_sheet(self, stop, times):
+        """What the trail to a stop and the rays of the course have far away: each ray is put in so many times more."""
+        x, y = stop[1], stop[2]
+        for p, q in self.course.steps:
+            x, y = x + times * p, y + times * q
+        price = (self._costs[stop] + self.course.line[0] * x + self.course.line[1] * y) // self.course.bottom
+        return Sheet((x, y), price, self.course.steps, self.course.step_prices)
 
     def trail_to(self, stop):
         """The Trail that was found to a stop."""

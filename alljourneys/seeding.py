@@ -2,10 +2,9 @@
 
 from alljourneys.groves import FAR, Grove
 from alljourneys.hunts import Hunt, band_beside, pair_course, plain_course, ray_course
-from alljourneys.sheets import Sheet
 
 NEAR_STOPS = 6000
-RAY_STOPS = 4000
+RAY_STOPS = 60000
 
 # Sheets with other steps may have some of the cells of a lattice far away, but not all; so several are looked at.
 SAMPLES = 4
@@ -51,38 +50,38 @@ def _widest_masks(net, start):
     return sorted(list(widest))
 
 
-def _is_missing(grove, trail, loops):
-    """Whether some cells far away behind the trail, in the lattice of the loops, are not had for the price."""
-    near = trail.sheet_with(loops)
-    base = near.cell_of([FAR for _ in loops])
-    far = Sheet(base, near.price_at(base), near.steps, near.prices)
-    if grove.holder(trail.end, far) is not None:
+def _is_missing(grove, hunt, stop):
+    """Whether some cells far away behind a stop, in the lattice of the rays of the hunt, are not had for the price."""
+    far = hunt.far_sheet(stop, FAR)
+    if grove.holder(stop[0], far) is not None:
         return False
     samples = [()]
-    for _ in loops:
+    for _ in far.steps:
         samples = [(*counts, number) for counts in samples for number in range(SAMPLES)]
     cells = [far.cell_of(counts) for counts in samples]
-    return any([not grove.has(trail.end, cell, far.price_at(cell)) for cell in cells])
-
-
-def _plant_all(grove, hunt, loops):
-    """Add the stems of these loops and the trails of a hunt that are missing far away."""
-    for stop in hunt.whole_stops():
-        trail = hunt.trail_to(stop)
-        if _is_missing(grove, trail, loops):
-            grove.put(trail, loops)
+    return any([not grove.has(stop[0], cell, far.price_at(cell)) for cell in cells])
 
 
 def _plant_pair(grove, mask, pair):
     """Add the stems of two loops, and of trails within a mask, that are missing far away."""
     net = grove.ground.net
     limit = 4 * len(net.spots) * pair_course(pair).bottom
-    _plant_all(grove, Hunt(net, grove.start, mask, pair_course(pair), limit), pair)
+    hunt = Hunt(net, grove.start, mask, pair_course(pair), limit)
+    for stop in hunt.whole_stops():
+        if _is_missing(grove, hunt, stop):
+            grove.put(hunt.trail_to(stop), pair)
 
 
 def _plant_ray(grove, mask, at, ray):
     """Add the stems of one loop, and of trails within a mask, that are missing far away on the lines beside it."""
     net = grove.ground.net
+    fronts = grove.ground.fronts(mask)
     cells = [stem.trail.cell for stem in grove.stems if ray.shift in stem.sheet.steps]
-    course = ray_course(grove.ground.fronts(mask), at, ray, band_beside(ray, net, cells))
-    _plant_all(grove, Hunt(net, grove.start, mask, course, RAY_STOPS), (ray,))
+    hunt = Hunt(net, grove.start, mask, ray_course(fronts, at, ray, band_beside(ray, net, cells)), RAY_STOPS)
+    pairs = [pair for pair in fronts.pairs if ray.shift in (pair[0].shift, pair[1].shift)]
+    for stop in hunt.whole_stops():
+        if _is_missing(grove, hunt, stop):
+            trail = hunt.trail_to(stop)
+            wide = [pair for pair in pairs if grove.goes_on(trail, ray, pair)]
+            for rays in wide if wide else [(ray,)]:
+                grove.put(trail, rays)

@@ -22,12 +22,24 @@ class Shelf:
 
     def __init__(self):
         self._groups = {}
+        self._fitting = {}
 
     def take_in(self, index, sheet):
         """Put a sheet on the shelf."""
-        rows = self._groups.setdefault((sheet.steps, sheet.prices), {})
+        if (sheet.steps, sheet.prices) not in self._groups:
+            self._groups[(sheet.steps, sheet.prices)] = {}
+            self._fitting = {}
         key, counts = _key(sheet.steps, sheet.base)
-        rows.setdefault(key, []).append((index, counts, sheet.price))
+        self._groups[(sheet.steps, sheet.prices)].setdefault(key, []).append((index, counts, sheet.price))
+
+    def _fitting_groups(self, sheet):
+        """The groups whose sheets have all steps of a sheet, for at most their prices."""
+        if (sheet.steps, sheet.prices) not in self._fitting:
+            self._fitting[(sheet.steps, sheet.prices)] = [
+                (steps, prices) for steps, prices in self._groups
+                if all([any([own == step and cost <= price for own, cost in zip(steps, prices)])
+                        for step, price in zip(sheet.steps, sheet.prices)])]
+        return self._fitting[(sheet.steps, sheet.prices)]
 
     def best_at(self, cell):
         """A tuple of the least price of a cell and the index of its sheet; None if no sheet has it."""
@@ -47,11 +59,12 @@ class Shelf:
         return best is not None and best[0] <= price
 
     def holder_of(self, sheet):
-        """The index of a sheet with these steps that has all cells of a sheet for its prices; None if none has."""
-        key, counts = _key(sheet.steps, sheet.base)
-        for index, start, price in self._groups.get((sheet.steps, sheet.prices), {}).get(key, ()):
-            if all([count >= least for count, least in zip(counts, start)]):
-                more = sum([(count - least) * extra for count, least, extra in zip(counts, start, sheet.prices)])
-                if price + more <= sheet.price:
-                    return index
+        """The index of a sheet with these steps, and perhaps more, that has a sheet for its prices; None if none has."""
+        for steps, prices in self._fitting_groups(sheet):
+            key, counts = _key(steps, sheet.base)
+            for index, start, price in self._groups[(steps, prices)].get(key, ()):
+                if all([count >= least for count, least in zip(counts, start)]):
+                    more = sum([(count - least) * extra for count, least, extra in zip(counts, start, prices)])
+                    if price + more <= sheet.price:
+                        return index
         return None
