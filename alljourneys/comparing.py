@@ -1,6 +1,6 @@
 """How much dearer some sheets are than others."""
 
-from alljourneys.covers import rise
+from alljourneys.covers import Rivals, rise_beside
 
 
 class Dearer:
@@ -19,8 +19,9 @@ def dearer(sheets, others):
     if not sheets:
         return Dearer("none", None, None, None, None)
     rises = []
+    rivals = Rivals(others)
     for sheet in sheets:
-        rises.append(rise(sheet, others))
+        rises.append(rise_beside(sheet, rivals))
         if rises[-1].kind == "cut":
             return Dearer("cut", None, rises[-1].cell, None, None)
     for told in rises:

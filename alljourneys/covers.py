@@ -2,7 +2,8 @@
 
 from alljourneys.forms import gauges_of, whole
 from alljourneys.nodes import ends_of, is_parting, parted
-from alljourneys.searching import EXACT, FREE, SLACK, judged, left_behind, searched, takers_of
+from alljourneys.searching import EXACT, FREE, SLACK, judged, left_behind, searched, searched_by, takers_of
+from alljourneys.shelves import Shelf
 
 # Counts of cells at which the greatest difference is looked for first.
 SAMPLES = (0, 1, 2, 3, 5, 8, 13, 34, 89, 233, 610)
@@ -39,16 +40,34 @@ def covered(sheet, sheets):
     return Gap(hole.missed_cells()[0]) if tree is None else Cover(tree)
 
 
+class Rivals:
+    """Sheets beside which others are looked at, so that what is needed of them is made only once."""
+
+    def __init__(self, sheets):
+        self.takers = takers_of(gauges_of(sheets))
+        self._shelf = Shelf()
+        for index, sheet in enumerate(sheets):
+            self._shelf.take_in(index, sheet)
+
+    def surplus(self, sheet, cell):
+        """The least price of a cell of the sheet by the rivals, less its price by the sheet."""
+        return self._shelf.best_at(cell)[0] - sheet.price_at(cell)
+
+
 def rise(sheet, sheets):
     """By how much the sheets are dearer than the sheet, as a Rise."""
-    gauges = gauges_of(sheets)
+    return rise_beside(sheet, Rivals(sheets))
+
+
+def rise_beside(sheet, rivals):
+    """By how much the Rivals are dearer than the sheet, as a Rise."""
     piece = whole(sheet)
-    tree, hole = searched(piece, gauges, SLACK)
+    tree, hole = searched_by(piece, rivals.takers, SLACK)
     if tree is not None:
-        return _bounded(sheet, sheets, tree)
+        return _bounded(sheet, rivals, tree)
     if hole.times is not None:
         # Here prices alone may have failed; only a search without them tells whether cells are missing, too.
-        missing = searched(piece, gauges, FREE)[1]
+        missing = searched_by(piece, rivals.takers, FREE)[1]
         if missing is None:
             return _endless(hole)
         return Rise("cut", None, missing.missed_cells()[0], None, None)
@@ -70,13 +89,7 @@ def _endless(hole):
     return Rise("endless", None, hole.cell_after(begin), (wide * shift[0], wide * shift[1]), None)
 
 
-def _difference(sheet, sheets, cell):
-    """The least price of a cell of the sheet by the sheets, less its price by the sheet."""
-    prices = [other.price_at(cell) for other in sheets]
-    return min([price for price in prices if price is not None]) - sheet.price_at(cell)
-
-
-def _bounded(sheet, sheets, tree):
+def _bounded(sheet, rivals, tree):
     """The Rise if there is a greatest difference; the tree holds for the sheet with a price that is great enough."""
     cells = [(piece[0][0], piece[0][1]) for piece, _ in ends_of(whole(sheet), tree)]
     # The more is known of the greatest difference ahead, the less is told apart that need not be.
@@ -84,27 +97,26 @@ def _bounded(sheet, sheets, tree):
     for _ in sheet.steps:
         samples = [(*counts, number) for counts in samples for number in SAMPLES]
     cells.extend([sheet.cell_of(counts) for counts in samples])
-    most, cell = max([(_difference(sheet, sheets, base), base) for base in cells])
-    return _raised(sheet, sheets, most, cell)
+    most, cell = max([(rivals.surplus(sheet, base), base) for base in cells])
+    return _raised(sheet, rivals, most, cell)
 
 
-def _raised(sheet, sheets, most, cell):
+def _raised(sheet, rivals, most, cell):
     """The Rise if there is a greatest difference, which is at least most, that of the cell.
 
     The sheet is made dearer whenever a piece has a greater difference. What is done
     by then holds all the more, so the search can go on from there.
     """
-    takers = takers_of(gauges_of(sheets))
     nodes = []
-    waiting = [(whole(sheet), takers)]
+    waiting = [(whole(sheet), rivals.takers)]
     while waiting:
         piece, left = waiting.pop()
         (x, y, price), directions = piece
         node, behind = judged(((x, y, price + most), directions), left, EXACT)
         if node is None:
             # Sheets that were left out for a lesser price may have cells now, so all are looked at once more.
-            waiting.append((piece, takers))
-            most, cell = max([(most, cell)] + [(_difference(sheet, sheets, far), far) for far in behind.missed_cells()])
+            waiting.append((piece, rivals.takers))
+            most, cell = max([(most, cell)] + [(rivals.surplus(sheet, far), far) for far in behind.missed_cells()])
             continue
         nodes.append(node)
         if is_parting(piece, node):

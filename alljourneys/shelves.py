@@ -59,7 +59,7 @@ class Shelf:
         return best is not None and best[0] <= price
 
     def holder_of(self, sheet):
-        """The index of a sheet with these steps, and perhaps more, that has a sheet for its prices; None if none has."""
+        """The index of a sheet with these steps, perhaps with more, that has a sheet for its prices; or None."""
         for steps, prices in self._fitting_groups(sheet):
             key, counts = _key(steps, sheet.base)
             for index, start, price in self._groups[(steps, prices)].get(key, ()):
