@@ -66,8 +66,8 @@ class Shoot:
             self.grove.put(trail, self.stem.loops)
             return True
         self._alone.append(counts)
-        is_overdue = self.grove.is_overdue()
-        if len(self._alone) < PATIENCE and not is_overdue:
+        is_time = self.grove.note_gap()
+        if len(self._alone) < PATIENCE and not is_time:
             return False
         wide = [pair for pair in self.grove.ground.fronts(trail.mask).pairs if self.grove.is_wide(trail, pair)]
         if wide:

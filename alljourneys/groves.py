@@ -107,7 +107,7 @@ class Grove:
         self._stems_at[trail.end].append(stem)
         self.stems.append(stem)
 
-    def is_overdue(self):
+    def note_gap(self):
         """Note that a gap is to be filled; whether it is time to look for two loops, which is told once in a while."""
         self._gap_count += 1
         return self.patience is not None and self._gap_count % self.patience == 0
@@ -124,7 +124,8 @@ class Grove:
 
     def is_wide(self, trail, pair):
         """Whether much of what is near behind the trail and two loops is new."""
-        return sum([self._is_new_at(trail, pair, (one, two)) for one in WIDE for two in WIDE]) >= WIDE_GAPS
+        ahead = [(one, two) for one in WIDE for two in WIDE if self._is_new_at(trail, pair, (one, two))]
+        return len(ahead) >= WIDE_GAPS
 
     def goes_on(self, trail, ray, pair):
         """Whether, far away along a ray of the pair, what is beside it is new, too."""

@@ -8,7 +8,7 @@ from alljourneys.maps import Map
 from alljourneys.papers import Paper, paper_holds
 from alljourneys.routes import gone
 
-from atlas_lands import far_cells, many_lands, ring_land, some_land
+from atlas_lands import FAR_LANDS, far_cells, many_lands, ring_land, some_land
 from lands import error_of, prices_from
 from test_journeys import NO_PLACES
 from test_papers import paper_is_right
@@ -67,6 +67,12 @@ class AtlasTest(unittest.TestCase):
         chance = random.Random(49)
         for land in many_lands(49, 4):
             self.judge(land, chance, chance.sample(land.spots, min(2, len(land.spots))))
+
+    def test_far(self):
+        """[49] Where it takes many rounds until those that get on best are cheapest."""
+        chance = random.Random(94)
+        for start, land in FAR_LANDS:
+            self.judge(land, chance, (start,))
 
     def test_by_hand(self):
         """[47] [49] A paper of an atlas is proved by sums that the test does itself."""

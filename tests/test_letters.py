@@ -10,7 +10,7 @@ from alljourneys.maps import Map, Road, map_of
 from alljourneys.sheets import Sheet
 from alljourneys.stretches import Stretch, price_for, stretch_holds, stretches
 
-from atlas_lands import some_land
+from atlas_lands import land_of, some_land
 from helpers import ODD_VALUES, Odd
 from lands import error_of, prices_from
 from test_journeys import NO_PLACES
@@ -207,6 +207,25 @@ class StretchTest(unittest.TestCase):
         for one, other in zip(rows, rows[1:]):
             self.assertEqual(one[1] + one[2] * Fraction(*other[0]), other[1] + other[2] * Fraction(*other[0]))
             self.assertLess(other[2], one[2])
+
+    def test_great_letters(self):
+        """[61] [62] Where a letter is worth many other roads, finitely many stretches are enough, too."""
+        chance = random.Random(66)
+        for spots, roads, letters in (
+                ("a b", "r0 b b 2 -1 1; r1 a a 2 1 3; r2 b b 0 0 1; r3 a b -2 -1 1; r4 a a -1 2 1; r5 a a 0 -2 2; "
+                 "r6 b b 2 0 3; r7 b a 2 1 2", ("r0", "r1", "r3", "r6")),
+                ("a b c", "r0 b c -1 -2 9; r1 c c 0 -1 8; r2 c b 1 -2 11; r3 b a 0 -2 4; r4 c b -1 -1 3; r5 a c 0 1 1; "
+                 "r6 a a -2 0 11; r7 b b -2 1 10", ("r7", "r4", "r5", "r6")),
+                ("a b", "r0 b a 2 1 10; r1 a a 1 -1 1; r2 a b -1 -1 4; r3 a a 2 2 10; r4 a a -2 0 1; r5 b b -1 1 5; "
+                 "r6 b a -2 -1 1; r7 b b 1 0 4", ("r3",))):
+            letter = Letter(land_of(spots, roads), letters)
+            told = stretches(letter, "a")
+            self.assertTrue(all(stretch_holds(letter, stretch) for stretch in told))
+            for ratio in ((7, 3), (40, 1)):
+                self.judge_prices(chance, letter, "a", told, ratio)
+                near = near_at(letter, "a", ratio, 45 * ratio[1])
+                for place, price in chance.sample(sorted(near.items()), min(200, len(near))):
+                    self.assertEqual(Fraction(*price_for(told, place, ratio)), Fraction(price, ratio[1]))
 
     def test_plain_line(self):
         """[62] [63] A line that is known."""
