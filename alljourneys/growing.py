@@ -11,6 +11,9 @@ from alljourneys.nodes import is_parting, parted
 DIAGONAL = ("diagonal",)
 TURN = ("turn",)
 
+# Into how many parts two directions and their sum are to go where nothing is to be divisible.
+PLAIN = (1, 1, 1)
+
 # How many diagonals one behind the other are looked at.
 BENDS = 100
 
@@ -91,18 +94,24 @@ def parting(needed):
     return ("parts", needed[0]) if needed[0] > 1 else TURN
 
 
-def bend(number):
+def bend(number, lattices=(PLAIN,)):
     """The choice for a number that goes upwards by one direction and downwards by the other one.
 
     Diagonals alone lead to its line, but past pieces on which it settles only far
     away; parts of the right size need just one diagonal more, but are many. So as
-    many diagonals are counted as make the parts behind them cheapest.
+    many diagonals are counted as make the parts behind them cheapest. Each piece is
+    to be parted once more for those that take it: lattices tells for each kind of
+    them into how many parts the directions, and their sum, are to go. Parts that are
+    made ahead of the diagonals count for that, too.
     """
     low, first, second = number
     step = gcd(first, second)
     up, down = max(first, second) // step, -min(first, second) // step
+    first_parts, second_parts = abs(second) // step, abs(first) // step
     far = abs(low) // step
-    best = 2 * up * down
+    width = max([both * max(one, two) for one, two, both in lattices])
+    behind = [(one // gcd(one, first_parts)) * (two // gcd(two, second_parts)) for one, two, _ in lattices]
+    best = up * down * (1 + sum(behind))
     spent, turns, wanted = 0, 0, 0
     while up != down and turns < BENDS:
         turns += 1
@@ -112,8 +121,8 @@ def bend(number):
         else:
             spent += far * far // (2 * down * (down - up)) if low >= 0 else 0
             down = down - up
-        if spent + turns + 2 * up * down < best:
-            best, wanted = spent + turns + 2 * up * down, turns
+        if (spent + turns + 2 * up * down) * width < best:
+            best, wanted = (spent + turns + 2 * up * down) * width, turns
     if wanted > 0 or first == -second:
-        return Choice(best + 2 * far, DIAGONAL)
-    return Choice(best + 2 * far, parting((abs(second) // step, abs(first) // step)))
+        return Choice(best + 2 * far * width, DIAGONAL)
+    return Choice(best + 2 * far * width, parting((first_parts, second_parts)))

@@ -112,11 +112,15 @@ class View:
         strips = sum([fewest(climbs(number)) for number in self.numbers if number[0] < 0])
         return self.width() * (1 + strips)
 
-    def bent(self):
-        """The choice by which a bending taker comes nearer to a line beyond which it goes on."""
-        found = [bend(number) for number in self.numbers if is_mixed(number)]
-        best = min(found, key=lambda choice: choice.toil)
-        return Choice(self.width() * best.toil, best.node)
+    def bent(self, lattices):
+        """The choice by which a bending taker comes nearer to a line beyond which it goes on; lattices by the ways."""
+        found = [bend(number, lattices[_way(number)]) for number in self.numbers if is_mixed(number)]
+        return min(found, key=lambda choice: choice.toil)
+
+    def lattice(self):
+        """Into how many parts the directions, and their sum, are to go for the taker."""
+        sums = [(low, first + second, second) for low, first, second in self.tops]
+        return (*parts_needed(self.tops, self.many), parts_needed(sums, self.many)[0])
 
     def strip_strain(self, times, side):
         """About how many pieces are needed until the taker takes a strip; None if it takes none of it without end."""
@@ -142,6 +146,25 @@ class View:
             if many[1] is not None:
                 choices.append(Choice(_strips_strain(views, many[1], 1), TURN))
         return min(choices, key=lambda choice: choice.toil)
+
+
+def _way(number):
+    """Along which way a number that rises by one direction and sinks by the other one stays the same."""
+    step = gcd(number[1], number[2])
+    return (abs(number[1]) // step, abs(number[2]) // step)
+
+
+def _lattices(bending):
+    """For each way along which a number of bending views stays the same, the list of the lattices of such views."""
+    lattices = {}
+    for view in bending:
+        lattice = view.lattice()
+        for number in view.numbers:
+            if is_mixed(number):
+                known = lattices.setdefault(_way(number), [])
+                if lattice not in known:
+                    known.append(lattice)
+    return lattices
 
 
 def _strips_strain(views, many, side):
@@ -297,7 +320,9 @@ def _node_of(piece, views):
         return ("end", min(taking, key=lambda view: view.cost()).taker.index), left
     if not any([view.has_base() for view in views]):
         return None, Hole(piece, views, None)
-    choices = [view.bent() for view in views if view.bends()]
+    bending = [view for view in views if view.bends()]
+    lattices = _lattices(bending)
+    choices = [view.bent(lattices) for view in bending]
     growing = min([view for view in views if view.grows()], key=lambda view: view.strain(), default=None)
     if growing is not None:
         choices.append(growing.nearer(views))
