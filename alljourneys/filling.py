@@ -45,19 +45,22 @@ class Shoot:
                 return counts
         return None
 
+    def _less(self, counts):
+        """The counts of a gap with one count less, so that it is easily seen to be one; None if there is none."""
+        for at, count in enumerate(counts):
+            for less in (0, count // 2, count - 1):
+                tried = (*counts[:at], less, *counts[at + 1:])
+                if 0 <= less < count and self.is_gap(tried):
+                    return tried
+        return None
+
     def lessened(self, counts):
         """Counts of a gap, none of which can be made less by itself in an easy way."""
         best = tuple(counts)
-        is_changed = True
-        while is_changed:
-            is_changed = False
-            for at, count in enumerate(best):
-                tries = [(*best[:at], less, *best[at + 1:]) for less in (0, count // 2, count - 1) if 0 <= less < count]
-                gaps = [less for less in tries if self.is_gap(less)]
-                if gaps:
-                    best = gaps[0]
-                    is_changed = True
-                    break
+        less = self._less(best)
+        while less is not None:
+            best = less
+            less = self._less(best)
         return best
 
     def _fill_wide(self, counts, trail):

@@ -14,13 +14,16 @@ AHEAD = 50
 # From how many cells on two steps are of use though they are beaten far away: their trees are large.
 LONG_RUN = 8
 
+# How far ahead is looked, by two loops at once, for what is new, and how much of it makes a sheet of two steps of use.
+WIDE = (1, 2, 4, 8)
+WIDE_GAPS = 6
 
 # The shape of a ground is told by the masks of so many spots; those of all would be too many.
 SHAPED_SPOTS = 6
 
 
 class Ground:
-    """A net with its loops, and the fronts of those that lie within a mask."""
+    """A net with its loops, and the fronts of those that pass a spot of a mask."""
 
     def __init__(self, net):
         self.net = net
@@ -28,7 +31,7 @@ class Ground:
         self._fronts = {}
 
     def fronts(self, mask):
-        """The Fronts of the loops within the mask."""
+        """The Fronts of the loops that pass a spot of the mask."""
         if mask not in self._fronts:
             self._fronts[mask] = Fronts([loop for loop in self.loops if loop.mask & mask != 0])
         return self._fronts[mask]
@@ -48,11 +51,6 @@ class Stem:
         self.trail = trail
         self.loops = tuple(loops)
         self.sheet = trail.sheet_with(loops)
-
-
-# How far ahead is looked, by two loops at once, for what is new, and how much of it makes a sheet of two steps of use.
-WIDE = (1, 2, 4, 8)
-WIDE_GAPS = 6
 
 
 def _led(trail, loops, counts):
@@ -91,7 +89,7 @@ class Grove:
         return self._shelves[spot].has_for(cell, price)
 
     def holder(self, spot, sheet):
-        """The index of a stem of the spot with the same steps that has all cells of a sheet for its prices, or None."""
+        """The index of a stem of the spot with the steps of a sheet that has its cells for its prices; None if none."""
         return self._shelves[spot].holder_of(sheet)
 
     def best_at(self, spot, cell):
