@@ -137,6 +137,29 @@ class AroundTest(unittest.TestCase):
             self.assertIs(type(around(land)), kind)
             self.assertTrue(told_is_right(land, around(land)) and around_holds(land, around(land)))
 
+    def test_bounds(self):
+        """[50] [52] No least price, times the bottom of an edge, is below what its line and its worths promise."""
+        chance = random.Random(52)
+        for land in self.lands(25):
+            told = around(land)
+            if not isinstance(told, Around):
+                continue
+            numbers = {spot: number for number, spot in enumerate(land.spots)}
+            start = chance.choice(land.spots)
+            for edge in told.edges:
+                self.assertEqual(len(edge.worths), len(land.spots))
+                for (spot, x, y), price in prices_from(land, (start, 0, 0), 15).items():
+                    gain = edge.line[0] * x + edge.line[1] * y + edge.worths[numbers[spot]] - edge.worths[numbers[start]]
+                    self.assertLessEqual(gain, edge.bottom * price)
+
+    def test_values(self):
+        """[50] The classes keep the very values that they are created from."""
+        for kind, names in ((Apart, ("start", "end")), (OneSided, ("line", "worths")), (Around, ("edges",)),
+                            (Edge, ("first", "second", "line", "bottom", "worths"))):
+            values = [object() for _ in names]
+            made = kind(*values)
+            self.assertTrue(all(getattr(made, name) is value for name, value in zip(names, values)))
+
     def test_free(self):
         """[53] All right ways are taken for right: turned edges, other worths, multiples, more edges."""
         told = around(STAR)
