@@ -96,7 +96,12 @@ class View:
         """Whether a diagonal may help: what sinks by one direction rises by the other one."""
         if self.offsets or not any([is_mixed(number) for number in self.numbers]):
             return False
-        return all([is_mixed(number) or (number[1] >= 0 and number[2] >= 0) for number in self.numbers])
+        if not all([is_mixed(number) or (number[1] >= 0 and number[2] >= 0) for number in self.numbers]):
+            return False
+        # On no way may one of them sink wherever the other one rises: then nothing is had far away.
+        ahead = [(-number[1], number[2]) for number in self.numbers if number[1] < 0]
+        behind = [(number[1], -number[2]) for number in self.numbers if number[2] < 0]
+        return all([one * four <= three * two for one, two in ahead for three, four in behind])
 
     def width(self):
         """Into how many parts the piece is to go until the changes of the taker's counts are integers."""
