@@ -1,12 +1,14 @@
 """Whether each cell of a sheet is had by other sheets for at most its price, and by how much they are dearer."""
 
-from alljourneys.forms import gauges_of, whole
+from alljourneys.forms import whole
 from alljourneys.nodes import ends_of, is_parting, parted
-from alljourneys.searching import EXACT, FREE, SLACK, judged, left_behind, searched, searched_by, takers_of
+from alljourneys.searching import QUICK, judged, left_behind, searched, searched_by
 from alljourneys.shelves import Shelf
+from alljourneys.views import EXACT, FREE, SLACK, takers_of
 
-# Counts of cells at which the greatest difference is looked for first.
-SAMPLES = (0, 1, 2, 3, 5, 8, 13, 34, 89, 233, 610)
+# Counts of cells at which the greatest difference is looked for first; and those behind them, where it is not there.
+NEAR_COUNTS = (0, 1)
+FAR_COUNTS = (2, 3, 5, 8, 13, 34, 89, 233, 610)
 
 
 class Cover:
@@ -36,7 +38,7 @@ class Rise:
 
 def covered(sheet, sheets):
     """A Cover if each cell of the sheet is had by one of the sheets for at most its price, otherwise a Gap."""
-    tree, hole = searched(whole(sheet), gauges_of(sheets), EXACT)
+    tree, hole = searched(whole(sheet), sheets, EXACT)
     return Gap(hole.missed_cells()[0]) if tree is None else Cover(tree)
 
 
@@ -44,7 +46,7 @@ class Rivals:
     """Sheets beside which others are looked at, so that what is needed of them is made only once."""
 
     def __init__(self, sheets):
-        self.takers = takers_of(gauges_of(sheets))
+        self.takers = takers_of(sheets)
         self._shelf = Shelf()
         for index, sheet in enumerate(sheets):
             self._shelf.take_in(index, sheet)
@@ -89,34 +91,36 @@ def _endless(hole):
     return Rise("endless", None, hole.cell_after(begin), (wide * shift[0], wide * shift[1]), None)
 
 
-def _bounded(sheet, rivals, tree):
-    """The Rise if there is a greatest difference; the tree holds for the sheet with a price that is great enough."""
-    cells = [(piece[0][0], piece[0][1]) for piece, _ in ends_of(whole(sheet), tree)]
-    # The more is known of the greatest difference ahead, the less is told apart that need not be.
+def _samples(sheet, numbers):
+    """The list of the cells of a sheet to which counts of these numbers lead."""
     samples = [()]
     for _ in sheet.steps:
-        samples = [(*counts, number) for counts in samples for number in SAMPLES]
-    cells.extend([sheet.cell_of(counts) for counts in samples])
-    most, cell = max([(rivals.surplus(sheet, base), base) for base in cells])
-    return _raised(sheet, rivals, most, cell)
+        samples = [(*counts, number) for counts in samples for number in numbers]
+    return [sheet.cell_of(counts) for counts in samples]
 
 
-def _raised(sheet, rivals, most, cell):
-    """The Rise if there is a greatest difference, which is at least most, that of the cell.
+def _bounded(sheet, rivals, tree):
+    """The Rise if there is a greatest difference; the tree holds for the sheet with a price that is great enough.
 
     The sheet is made dearer whenever a piece has a greater difference. What is done
     by then holds all the more, so the search can go on from there.
     """
+    # The more is known of the greatest difference ahead, the less is told apart that need not be.
+    cells = [(piece[0][0], piece[0][1]) for piece, _ in ends_of(whole(sheet), tree)] + _samples(sheet, NEAR_COUNTS)
+    most, cell = max([(rivals.surplus(sheet, near), near) for near in cells])
+    is_first = True
     nodes = []
     waiting = [(whole(sheet), rivals.takers)]
     while waiting:
         piece, left = waiting.pop()
         (x, y, price), directions = piece
-        node, behind = judged(((x, y, price + most), directions), left, EXACT)
+        node, behind = judged(((x, y, price + most), directions), left, EXACT, len(nodes) > QUICK)
         if node is None:
             # Sheets that were left out for a lesser price may have cells now, so all are looked at once more.
             waiting.append((piece, rivals.takers))
-            most, cell = max([(most, cell)] + [(rivals.surplus(sheet, far), far) for far in behind.missed_cells()])
+            cells = behind.missed_cells() + (_samples(sheet, NEAR_COUNTS + FAR_COUNTS) if is_first else [])
+            most, cell = max([(most, cell)] + [(rivals.surplus(sheet, far), far) for far in cells])
+            is_first = False
             continue
         nodes.append(node)
         if is_parting(piece, node):

@@ -2,8 +2,9 @@
 
 from alljourneys.forms import whole
 from alljourneys.groves import FAR
-from alljourneys.searching import EXACT, searched_by
+from alljourneys.searching import searched_by
 from alljourneys.trails import Trail
+from alljourneys.views import EXACT
 
 # Counts at which gaps are looked for first: that is quicker than to find them by a tree.
 SAMPLES = (0, 1, 2, 3, 5, 8, 13)
@@ -22,7 +23,7 @@ class Shoot:
         self.grove = grove
         self.stem = stem
         self.link = link
-        self.sheet = stem.sheet.moved(link.shift, link.price)
+        self.sheet = None
         self._alone = []
 
     def is_gap(self, counts):
@@ -124,17 +125,22 @@ class Shoot:
 
     def cover(self):
         """A tree by which stems have the whole sheet; stems are added where they have not."""
+        grove = self.grove
+        sheet, link = self.stem.sheet, self.link
+        cell = (sheet.base[0] + link.shift[0], sheet.base[1] + link.shift[1])
         while True:
-            index = self.grove.holder(self.link.end, self.sheet)
+            index = grove.holder(link.end, sheet.steps, sheet.prices, cell, sheet.price + link.price)
             if index is not None:
                 return (("end", index),)
-            counts = self.sampled_gap()
+            self.sheet = sheet.moved(link.shift, link.price)
+            counts = self.sampled_gap() if grove.has_many_gaps() else None
             if counts is None:
-                tree, hole = searched_by(whole(self.sheet), self.grove.takers_at(self.link.end), EXACT)
+                tree, hole = searched_by(whole(self.sheet), grove.takers_at(link.end), EXACT)
                 if tree is not None:
                     return tree
                 counts = self.sheet.counts(hole.missed_cells()[0])
-            self.fill(self.lessened(counts))
+            if grove.seeds is None or not grove.seeds.more():
+                self.fill(self.lessened(counts))
 
 
 def covers_of(grove):

@@ -1,9 +1,8 @@
 """Groves: the growing fans from one start, so that the cheapest of them are found quickly."""
 
-from alljourneys.forms import Gauge
 from alljourneys.loops import Fronts, loops_of
-from alljourneys.searching import Taker
 from alljourneys.shelves import Shelf
+from alljourneys.views import Takers
 
 # So many times a step leads far away, and brings all small remainders back: all numbers up to 60 divide it.
 FAR = 9690712164777231700912800
@@ -12,11 +11,17 @@ FAR = 9690712164777231700912800
 AHEAD = 50
 
 # From how many cells on two steps are of use though they are beaten far away: their trees are large.
-LONG_RUN = 8
+LONG_RUN = 3
 
 # How far ahead is looked, by two loops at once, for what is new, and how much of it makes a sheet of two steps of use.
 WIDE = (1, 2, 4, 8)
 WIDE_GAPS = 6
+
+# How many lines beside a ray are to be new, so that a sheet of two steps is of use for them.
+LINES = 2
+
+# Behind so many gaps they are looked for at near cells first, as this is quicker than to find them by a search.
+MANY_GAPS = 8
 
 # The shape of a ground is told by the masks of so many spots; those of all would be too many.
 SHAPED_SPOTS = 6
@@ -73,24 +78,25 @@ class Grove:
         self.ground = ground
         self.start = start
         self.patience = patience
+        self.seeds = None
         self._gap_count = 0
         self.stems = []
         self.known = {}
         self._shelves = [Shelf() for _ in ground.net.spots]
-        self._takers = [[] for _ in ground.net.spots]
+        self._takers = [Takers() for _ in ground.net.spots]
         self._stems_at = [[] for _ in ground.net.spots]
 
     def takers_at(self, spot):
         """The stems of a spot as takers."""
-        return list(self._takers[spot])
+        return self._takers[spot].told()
 
     def has(self, spot, cell, price):
         """Whether some stem of the spot has the cell for at most the price."""
         return self._shelves[spot].has_for(cell, price)
 
-    def holder(self, spot, sheet):
-        """The index of a stem of the spot with the steps of a sheet that has its cells for its prices; None if none."""
-        return self._shelves[spot].holder_of(sheet)
+    def holder(self, spot, steps, prices, cell, price):
+        """The index of a stem of the spot that has all that these steps lead to from a cell; None if none has."""
+        return self._shelves[spot].holder_of(steps, prices, cell, price)
 
     def best_at(self, spot, cell):
         """A tuple of the least price of a cell and of the stem that has it; None if none has."""
@@ -99,9 +105,9 @@ class Grove:
 
     def put(self, trail, rays):
         """Add the stem of a trail and loops, or rays."""
-        stem = Stem(len(self._takers[trail.end]), trail, [trail.loop_of(ray) for ray in rays])
+        stem = Stem(len(self._stems_at[trail.end]), trail, [trail.loop_of(ray) for ray in rays])
         self._shelves[trail.end].take_in(stem.index, stem.sheet)
-        self._takers[trail.end].append(Taker(stem.index, Gauge(stem.sheet)))
+        self._takers[trail.end].take_in(stem.index, stem.sheet)
         self._stems_at[trail.end].append(stem)
         self.stems.append(stem)
 
@@ -109,6 +115,10 @@ class Grove:
         """Note that a gap is to be filled; whether it is time to look for two loops, which is told once in a while."""
         self._gap_count += 1
         return self.patience is not None and self._gap_count % self.patience == 0
+
+    def has_many_gaps(self):
+        """Whether so many gaps were found that it is of use to look for them ahead of a search."""
+        return self.seeds is None or self.seeds.gap_count > MANY_GAPS
 
     def _is_new_at(self, trail, loops, counts):
         """Whether no stem has the cell behind the trail and the loops, as often as counts say, for this price."""
@@ -129,8 +139,10 @@ class Grove:
         """Whether, far away along a ray of the pair, what is beside it is new, too."""
         if not all([trail.meets(loop) for loop in pair]):
             return False
-        counts = [[FAR if loop.shift == ray.shift else times for loop in pair] for times in WIDE]
-        return all([self._is_new_at(trail, pair, many) for many in counts])
+        for times in range(LINES, 0, -1):
+            if not self._is_new_at(trail, pair, [FAR if loop.shift == ray.shift else times for loop in pair]):
+                return False
+        return True
 
     def is_beaten(self, trail, loops):
         """Whether some stem has the cell far away behind the trail and its loops for less."""

@@ -7,7 +7,8 @@ shift; no round costs less than 0, so what is found first is the best of all ali
 
 from heapq import heappop, heappush
 
-from alljourneys.sheets import Sheet, cross
+from alljourneys.rates import times_line
+from alljourneys.sheets import cross
 from alljourneys.trails import Trail
 
 
@@ -150,13 +151,12 @@ class Hunt:
             return None
         return (link.end, cell[0], cell[1], self.course.flags(link.end, stop[3]))
 
-    def far_sheet(self, stop, times):
-        """What the trail to a stop and the rays of the course have far away: each ray is put in so many times more."""
+    def far_end(self, stop, times):
+        """The cell and the price behind the trail to a stop, with each ray of the course put in so many times more."""
         x, y = stop[1], stop[2]
         for p, q in self.course.steps:
             x, y = x + times * p, y + times * q
-        price = (self._costs[stop] + self.course.line[0] * x + self.course.line[1] * y) // self.course.bottom
-        return Sheet((x, y), price, self.course.steps, self.course.step_prices)
+        return (x, y), (self._costs[stop] + times_line(self.course.line, (x, y))) // self.course.bottom
 
     def trail_to(self, stop):
         """The Trail that was found to a stop."""
