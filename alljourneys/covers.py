@@ -4,7 +4,7 @@ from alljourneys.forms import whole
 from alljourneys.nodes import ends_of, is_parting, parted
 from alljourneys.searching import QUICK, judged, left_behind, searched, searched_by
 from alljourneys.shelves import Shelf
-from alljourneys.views import EXACT, FREE, SLACK, takers_of
+from alljourneys.takers import EXACT, FREE, SLACK, takers_of
 
 # Counts of cells at which the greatest difference is looked for first; and those behind them, where it is not there.
 NEAR_COUNTS = (0, 1)

@@ -3,8 +3,8 @@
 from alljourneys.forms import whole
 from alljourneys.groves import FAR
 from alljourneys.searching import searched_by
+from alljourneys.takers import EXACT
 from alljourneys.trails import Trail
-from alljourneys.views import EXACT
 
 # Counts at which gaps are looked for first: that is quicker than to find them by a tree.
 SAMPLES = (0, 1, 2, 3, 5, 8, 13)

@@ -2,7 +2,7 @@
 
 from alljourneys.loops import Fronts, loops_of
 from alljourneys.shelves import Shelf
-from alljourneys.views import Takers
+from alljourneys.takers import Takers
 
 # So many times a step leads far away, and brings all small remainders back: all numbers up to 60 divide it.
 FAR = 9690712164777231700912800

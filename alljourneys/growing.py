@@ -27,23 +27,23 @@ class Choice:
 
 
 def grown(piece, known, judge):
-    """A tuple of a tree over the piece, and of None.
+    """A tree over the piece.
 
-    judge(piece, known) gives the node of a piece, and what is known of the pieces
-    into which this node parts it. Where it gives None for a node, there is no tree:
-    the result is None, and what judge told beside it.
+    judge(piece, known) gives a tuple of the nodes of a piece, one end, or a node that
+    parts it, perhaps behind a turn, and what is known of the pieces into which they
+    part it.
     """
     nodes = []
     waiting = [(piece, known)]
     while waiting:
         here, before = waiting.pop()
-        node, behind = judge(here, before)
-        if node is None:
-            return None, behind
-        nodes.append(node)
-        if is_parting(here, node):
-            waiting.extend([(part, behind) for part in parted(here, node)[::-1]])
-    return tuple(nodes), None
+        found, behind = judge(here, before)
+        nodes.extend(found)
+        if len(found) == 2:
+            here = parted(here, found[0])[0]
+        if is_parting(here, found[-1]):
+            waiting.extend([(part, behind) for part in parted(here, found[-1])[::-1]])
+    return tuple(nodes)
 
 
 def is_mixed(number):

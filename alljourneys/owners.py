@@ -5,6 +5,7 @@ from alljourneys.growing import grown
 from alljourneys.nodes import ends_of, is_end, is_index, trees_hold
 from alljourneys.pieced import sheet_of
 from alljourneys.settling import Claim, settling
+from alljourneys.takers import EXACT, left_of, scanned, takers_of
 
 OWN = ("own",)
 
@@ -25,7 +26,6 @@ class Rival:
         self.gauge = gauge
         self.bar = 1 if index > owner else 0
 
-
     def claim(self, piece):
         """What must be true where cells of a piece belong rather to the rival than to the owner."""
         gauge = self.gauge
@@ -35,26 +35,37 @@ class Rival:
         return Claim(self, tops + [(low - self.bar, first, second)], offsets, [(tops, gauge.many)])
 
 
+def rivals_beside(takers, owner):
+    """The takers but for the owner, told by its index, dearer by 1 where cells belong to the owner for equal prices."""
+    rivals = []
+    for kind, rows in takers:
+        others = [(index, first, second, third - 1 if index > owner else third)
+                  for index, first, second, third in rows if index != owner]
+        rivals.append((kind, others))
+    return rivals
+
+
+def _open_claim(kind, readings):
+    """The Claim that a taker has cells of a piece, for at most their prices, on which it is so."""
+    tops = readings[:kind.count]
+    groups = [(tops, kind.many)] if kind.many > 1 else []
+    return Claim(None, [*tops, readings[2]], list(readings[kind.count:2]), groups)
+
+
 def _judged(piece, rivals):
-    """The node of a piece, and the rivals that are left behind it."""
-    claims = [rival.claim(piece) for rival in rivals]
-    for claim in claims:
-        if claim.is_held():
-            return ("end", claim.key.index), []
-    claims = [claim for claim in claims if not claim.is_out()]
-    if not claims:
-        return OWN, []
-    return settling(claims), [claim.key for claim in claims]
+    """The nodes of a piece, and the rivals that are left behind them."""
+    index, found = scanned(piece, rivals, EXACT)
+    if index is not None:
+        return (("end", index),), []
+    if not found:
+        return (OWN,), []
+    return settling([_open_claim(kind, readings) for kind, _, readings in found]), left_of(found)
 
 
 def owned(sheets):
     """A tuple of one tree for each sheet, which tells what cells of it belong to it, and to whom the others do not."""
-    gauges = gauges_of(sheets)
-    trees = []
-    for owner, sheet in enumerate(sheets):
-        rivals = [Rival(index, gauge, owner) for index, gauge in enumerate(gauges) if index != owner]
-        trees.append(grown(whole(sheet), rivals, _judged)[0])
-    return tuple(trees)
+    takers = takers_of(sheets)
+    return tuple([grown(whole(sheet), rivals_beside(takers, owner), _judged) for owner, sheet in enumerate(sheets)])
 
 
 def owners_hold(sheets, trees):

@@ -43,7 +43,7 @@ class Region:
     def quarter_trees(self):
         """A tuple of one tree over each of the quarters, which tells what cells of it are in the region."""
         rows = list(enumerate(self.rows))
-        return tuple([grown(whole(quarter), rows, _judged)[0] for quarter in quarters()])
+        return tuple([grown(whole(quarter), rows, _judged) for quarter in quarters()])
 
     def sheets(self):
         """A tuple of sheets; each cell of the region is in exactly one of them, and no other cell is in any."""
@@ -87,13 +87,13 @@ def _fails_on(row, piece):
 
 
 def _judged(piece, rows):
-    """The node of a piece, and the rows, with their indexes, that are left behind it."""
+    """The nodes of a piece, and the rows, with their indexes, that are left behind them."""
     for index, row in rows:
         if _fails_on(row, piece):
-            return ("out", index), []
+            return (("out", index),), []
     left = [(index, row) for index, row in rows if not _holds_on(row, piece)]
     if not left:
-        return IN, []
+        return (IN,), []
     numbers = [_number(row, piece) for _, row in left if row[0] == "least"]
     groups = [([_number(row, piece)], row[4]) for _, row in left if row[0] == "rest"]
     return settling([Claim(None, numbers, [], groups)]), left

@@ -1,7 +1,8 @@
 """The search for a tree that shows that sheets have all cells of a sheet."""
 
 from alljourneys.nodes import parted
-from alljourneys.views import is_thin, lattices_of, left_of, takers_of, views_on
+from alljourneys.takers import left_of, takers_of
+from alljourneys.views import is_thin, lattices_of, views_on
 
 # How many times farther than needed the second cell is that a hole tells.
 FAR = 1000000
@@ -76,17 +77,17 @@ def _hole_in(piece, views, mode):
             return left
         # How thin the pieces are is, in the middle, how thin the whole was; so one of them is thin, too.
         for part in parted(piece, node)[::-1]:
-            inside, _ = views_on(part, left, mode)
-            if is_thin(inside):
+            index, inside = views_on(part, left, mode)
+            if index is None and is_thin(inside):
                 piece, views = part, inside
                 break
 
 
 def judged(piece, takers, mode, is_careful):
     """The node of a piece, and the takers that are left behind it; None and a Hole if there is none."""
-    views, is_taken = views_on(piece, takers, mode)
-    if is_taken:
-        return ("end", views[0].index), []
+    index, views = views_on(piece, takers, mode)
+    if index is not None:
+        return ("end", index), []
     if not is_careful:
         return _node_of(piece, views, False)
     if is_thin(views):
@@ -97,8 +98,8 @@ def judged(piece, takers, mode, is_careful):
     # A hole on a side of the piece would be found at last, but perhaps behind very many pieces.
     for direction in piece[1]:
         side = (piece[0], (direction,))
-        inside, _ = views_on(side, left, mode)
-        if is_thin(inside):
+        index, inside = views_on(side, left, mode)
+        if index is None and is_thin(inside):
             return None, _hole_in(side, inside, mode)
     return node, left
 
@@ -107,7 +108,7 @@ def _node_of(piece, views, is_careful):
     """The node of a piece that no taker has whole, and their takers; None and a Hole if there is none."""
     if not any([view.has_base() for view in views]):
         return None, Hole(piece, views, None)
-    left = left_of(views)
+    left = left_of([view.taker for view in views])
     growing = [view for view in views if view.grows()]
     bending = [view for view in views if view.bends()]
     if not growing and not bending:

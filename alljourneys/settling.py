@@ -1,13 +1,13 @@
-"""The next node where each cell of a piece is to be told apart: does it fulfil all conditions of a claim or not.
+"""The next nodes where each cell of a piece is to be told apart: does it fulfil all conditions of a claim or not.
 
-Whatever node is taken, the trees come right; the estimates of how many pieces each
+Whatever nodes are taken, the trees come right; the estimates of how many pieces each
 way would need only keep them small. A number is a tuple as told by forms.reading.
 """
 
-from math import gcd, lcm
+from math import gcd
 
 from alljourneys.forms import is_broken, is_divided, is_naught, stays_low, stays_up
-from alljourneys.growing import TURN, Choice, bend, climbs, is_mixed, leaves, on_strip, parting, parts_needed, sinks
+from alljourneys.growing import TURN, bend, climbs, is_mixed, parts_needed
 
 
 class Claim:
@@ -42,69 +42,69 @@ class Claim:
                 return True
         return False
 
-
-def _climb(number):
-    """How often each direction is to be taken until a number that is not settled yet is, if it bends nowhere."""
-    return climbs(number) if number[0] < 0 else sinks(number)
-
-
-def _is_open(number):
-    """Whether a number is neither sure to stay low nor sure to stay up."""
-    return not stays_up(number) and not stays_low(number)
-
-
-def _strip_toil(claim, times, side):
-    """About how many pieces are needed on a strip until it is told apart for a claim."""
-    strip = Claim(claim.key, [on_strip(number, times, side) for number in claim.numbers],
-                  [on_strip(offset, times, side) for offset in claim.offsets],
-                  [([on_strip(top, times, side) for top in tops], many) for tops, many in claim.groups])
-    if strip.is_out():
-        return 0
-    lengths = [_climb(number)[0] for number in strip.numbers if _is_open(number)]
-    lengths.extend([leaves(offset)[0] for offset in strip.offsets if offset[1] != 0])
-    parts = [parts_needed(tops, many)[0] for tops, many in strip.groups]
-    return max(lengths, default=0) + sum([part for part in parts if part > 1])
+    def ends(self):
+        """How often each direction is to be taken until some condition is not fulfilled any more; None where never."""
+        first, second = None, None
+        for low, one, two in self.numbers:
+            if one < 0 and two <= 0:
+                first = _lesser(first, low // -one + 1)
+            if two < 0 and one <= 0:
+                second = _lesser(second, low // -two + 1)
+        for low, one, two in self.offsets:
+            if one * two >= 0:
+                first = _lesser(first, abs(low) // abs(one) + 1) if one != 0 else first
+                second = _lesser(second, abs(low) // abs(two) + 1) if two != 0 else second
+        return first, second
 
 
-def _strips_toil(claims, many, side):
-    """About how many pieces are needed for so many strips, judged by the first and the last one of them."""
-    first = sum([_strip_toil(claim, 0, side) for claim in claims])
-    last = sum([_strip_toil(claim, many - 1, side) for claim in claims])
-    return many * (1 + max(first, last))
+def _lesser(one, other):
+    """The lesser one of two numbers, the first of which may be None."""
+    return other if one is None or other < one else one
 
 
-def _peelings(claims, found):
-    """The choices to peel, where each direction is to be taken so many times, or never."""
+def _side_of(node, number):
+    """A node that bends a number, as a tuple of the direction by which it parts, and of what it is behind a turn."""
+    if node != TURN:
+        return 0, node
+    return 1, ("parts", abs(number[1]) // gcd(number[1], number[2]))
+
+
+def _lasting(claim, crowd, along):
+    """The choices for a claim that goes on without end: by which node one comes nearer to knowing where it holds."""
+    bending = [number for number in claim.numbers + claim.offsets if is_mixed(number)]
+    if bending:
+        found = [(bend(number), number) for number in bending]
+        return [(choice.toil, *_side_of(choice.node, number)) for choice, number in found]
     choices = []
-    if found[0] is not None:
-        choices.append(Choice(_strips_toil(claims, found[0], 0), ("peel", found[0])))
-    if found[1] is not None:
-        choices.append(Choice(_strips_toil(claims, found[1], 1), TURN))
+    for tops, many in claim.groups:
+        needed = parts_needed(tops, many)
+        if needed != (1, 1):
+            side = 0 if needed[0] > 1 else 1
+            choices.append((needed[0] * needed[1] * crowd, side, ("parts", needed[side])))
+    for number in claim.numbers:
+        if number[0] < 0:
+            for side, many in enumerate(climbs(number)):
+                if many is not None:
+                    choices.append((many * along[1 - side], side, ("peel", many)))
     return choices
 
 
-def _parting(claim):
-    """The choices to part so that what is to be divisible is so, or never is."""
-    needed = [parts_needed(tops, many) for tops, many in claim.groups]
-    needed = [parts for parts in needed if parts != (1, 1)]
-    if not needed:
-        return []
-    toil = max([lcm(first, second) for first, second in needed])
-    for first, second in needed:
-        toil = toil * gcd(first, second)
-    return [Choice(toil, parting(min(needed, key=lambda parts: parts[0] * parts[1])))]
-
-
 def settling(claims):
-    """The node by which one comes nearer to knowing which cells fulfil which of these claims, all of them open."""
-    choices = []
-    for claim in claims:
-        choices.extend(_parting(claim))
-        bent = claim.numbers + claim.offsets
-        choices.extend([bend(number) for number in bent if is_mixed(number)])
-    for claim in claims:
-        straight = [_climb(number) for number in claim.numbers if _is_open(number) and not is_mixed(number)]
-        straight.extend([leaves(offset) for offset in claim.offsets if not is_mixed(offset) and not is_naught(offset)])
-        for found in straight:
-            choices.extend(_peelings(claims, found))
-    return min(choices, key=lambda choice: choice.toil).node
+    """The one or two nodes by which one comes nearer to knowing which cells fulfil which of these open claims."""
+    ends = [claim.ends() for claim in claims]
+    # Behind so many strips along each direction, the claims that end by it alone have ended.
+    strips = [max([first for first, second in ends if first is not None and second is None], default=0),
+              max([second for first, second in ends if second is not None and first is None], default=0)]
+    for first, second in ends:
+        if first is not None and second is not None and first > strips[0] and second > strips[1]:
+            side = 0 if first <= second else 1
+            strips[side] = min(first, second)
+    # How much there is to do along each direction: the claims that go on by it.
+    along = [2 + len([True for first, second in ends if first is None and second is not None]),
+             2 + len([True for first, second in ends if second is None and first is not None])]
+    choices = [(strips[side] * along[1 - side], side, ("peel", strips[side])) for side in (0, 1) if strips[side] > 0]
+    for claim, (first, second) in zip(claims, ends):
+        if first is None and second is None:
+            choices.extend(_lasting(claim, 2 + len(claims), along))
+    _, side, node = min(choices)
+    return (TURN, node) if side == 1 else (node,)

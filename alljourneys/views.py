@@ -1,69 +1,17 @@
-"""What sheets that may take cells of a piece are on it: the numbers that tell which cells they have, and for less."""
+"""What takers are on a piece: the numbers that tell which of its cells they have, and for at most their prices."""
 
 from math import gcd, lcm
 
-from alljourneys.forms import Gauge, is_divided, is_naught, stays_low
+from alljourneys.forms import is_naught, stays_low
 from alljourneys.growing import TURN, Choice, bend, climbs, fewest, is_mixed, on_strip, parting, parts_needed
-
-# How prices are looked at: as they are; as if the sheet were dearer by any number; or not at all.
-EXACT = 0
-SLACK = 1
-FREE = 2
-
-STILL = (0, 0, 0)
-
-
-class Kind:
-    """What the gauges of sheets with the same steps and prices have in common: their forms without the constants."""
-
-    def __init__(self, sheet):
-        gauge = Gauge(sheet)
-        self.many = gauge.many
-        self.count = len(gauge.tops)
-        (_, a, b, _), (_, c, d, _) = gauge.tops + gauge.offsets
-        _, e, f, _ = gauge.spare
-        self.forms = ((a, b), (c, d), (e, f))
-
-    def row_of(self, index, sheet):
-        """What a sheet of the kind is as a taker: its index, and the constants of the forms."""
-        first, second, third = [form[0] * sheet.base[0] + form[1] * sheet.base[1] for form in self.forms]
-        return (index, -first, -second, -third - self.many * sheet.price)
-
-
-class Takers:
-    """Sheets that may take pieces, by their kinds."""
-
-    def __init__(self):
-        self._groups = {}
-
-    def take_in(self, index, sheet):
-        """Add a sheet with an index."""
-        key = (sheet.steps, sheet.prices)
-        if key not in self._groups:
-            self._groups[key] = (Kind(sheet), [])
-        kind, rows = self._groups[key]
-        rows.append(kind.row_of(index, sheet))
-
-    def told(self):
-        """The list of tuples of a kind and the list of the rows of its sheets."""
-        return list(self._groups.values())
-
-
-def takers_of(sheets):
-    """The list of the sheets as takers, as Takers tells it."""
-    takers = Takers()
-    for index, sheet in enumerate(sheets):
-        takers.take_in(index, sheet)
-    return takers.told()
+from alljourneys.takers import EXACT, SLACK, scanned
 
 
 class View:
     """What a taker is on a piece: the tops of its counts, its offsets, and all numbers that must not be below 0."""
 
     def __init__(self, kind, row, readings, mode):
-        self.kind = kind
-        self.row = row
-        self.index = row[0]
+        self.taker = (kind, row)
         self.many = kind.many
         self.tops = readings[:kind.count]
         self.offsets = readings[kind.count:2]
@@ -113,16 +61,6 @@ class View:
             if not is_naught(number):
                 return False
         return True
-
-    def takes(self):
-        """Whether the taker has each cell of the piece."""
-        for low, first, second in self.numbers:
-            if low < 0 or first < 0 or second < 0:
-                return False
-        for number in self.offsets:
-            if not is_naught(number):
-                return False
-        return self.many == 1 or all([is_divided(number, self.many) for number in self.tops])
 
     def bends(self):
         """Whether a diagonal may help: what sinks by one direction rises by the other one."""
@@ -242,42 +180,7 @@ def is_thin(views):
 
 
 def views_on(piece, takers, mode):
-    """The list of the views of takers that may have cells of the piece, and whether it is one alone that has all."""
-    (x, y, price), directions = piece
-    dx, dy, dp = directions[0] if directions else STILL
-    ex, ey, ep = directions[1] if len(directions) == 2 else STILL
-    views = []
-    for kind, rows in takers:
-        # All this is written out, as it is most of the work of a search.
-        (a, b), (c, d), (e, f) = kind.forms
-        many = kind.many
-        u, u1, u2 = a * x + b * y, a * dx + b * dy, a * ex + b * ey
-        v, v1, v2 = c * x + d * y, c * dx + d * dy, c * ex + d * ey
-        w, w1, w2 = e * x + f * y + many * price, e * dx + f * dy + many * dp, e * ex + f * ey + many * ep
-        # Tops are out where they stay low; offsets are so where they stay high, too.
-        u_sinks, u_rises = u1 <= 0 and u2 <= 0, kind.count == 0 and u1 >= 0 and u2 >= 0
-        v_sinks, v_rises = v1 <= 0 and v2 <= 0, kind.count < 2 and v1 >= 0 and v2 >= 0
-        w_sinks = mode == EXACT and w1 <= 0 and w2 <= 0
-        is_up = u1 >= 0 and u2 >= 0 and v1 >= 0 and v2 >= 0
-        for row in rows:
-            _, first, second, third = row
-            if (u_sinks and u + first < 0) or (v_sinks and v + second < 0) or (w_sinks and w + third < 0):
-                continue
-            if (u_rises and u + first > 0) or (v_rises and v + second > 0):
-                continue
-            view = View(kind, row, ((u + first, u1, u2), (v + second, v1, v2), (w + third, w1, w2)), mode)
-            if is_up and view.takes():
-                return [view], True
-            if many == 1 or view.sparseness() is not None:
-                views.append(view)
-    return views, False
-
-
-def left_of(views):
-    """The takers of views, as Takers tells them."""
-    left = []
-    for view in views:
-        if not left or left[-1][0] != view.kind:
-            left.append((view.kind, []))
-        left[-1][1].append(view.row)
-    return left
+    """The index of a taker that has all of a piece, or None, and the list of the views of those that may have some."""
+    index, found = scanned(piece, takers, mode)
+    views = [View(kind, row, readings, mode) for kind, row, readings in found]
+    return index, [view for view in views if view.many == 1 or view.sparseness() is not None]
