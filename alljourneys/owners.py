@@ -83,14 +83,27 @@ def owners_hold(sheets, trees):
     return trees_hold([whole(sheet) for sheet in sheets], trees, fits)
 
 
-def parts_of(sheets):
-    """A tuple of Parts; each cell that one of the sheets has is in exactly one of them, for the least price."""
+def own_parts(sheets, trees):
+    """The list of the Parts that these trees over the first ones of the sheets tell to be the sheet's own."""
     parts = []
-    for index, tree in enumerate(owned(sheets)):
+    for index, tree in enumerate(trees):
         for piece, node in ends_of(whole(sheets[index]), tree):
             if node == OWN:
                 parts.append(Part(index, sheet_of(piece)))
-    return tuple(parts)
+    return parts
+
+
+def parts_of(sheets):
+    """A tuple of Parts; each cell that one of the sheets has is in exactly one of them, for the least price."""
+    return tuple(own_parts(sheets, owned(sheets)))
+
+
+def cheaper_parts(sheets, others):
+    """The list of Parts with the cells that one of the sheets has, and none of the others for at most as much."""
+    takers = takers_of(sheets)
+    theirs = takers_of(others)
+    trees = [grown(whole(sheet), rivals_beside(takers, owner) + theirs, _judged) for owner, sheet in enumerate(sheets)]
+    return own_parts(sheets, trees)
 
 
 def least_at(sheets, cell):
