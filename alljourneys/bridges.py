@@ -15,7 +15,7 @@ class Pull:
     def __init__(self):
         self._rates = [(0, 1) for _ in SIDES]
 
-    def add(self, shift, price):
+    def take_in(self, shift, price):
         """Add a road with a shift and a price."""
         for at, line in enumerate(SIDES):
             gain = times_line(line, shift)
@@ -41,12 +41,12 @@ class Bridges:
         self._roads = {}
         self._pull = Pull()
         for road in roads:
-            self.add(road)
+            self.take_in(road)
 
-    def add(self, road):
+    def take_in(self, road):
         """Add a road."""
         self._roads.setdefault(road.start, []).append(road)
-        self._pull.add(road.shift, road.price)
+        self._pull.take_in(road.shift, road.price)
 
     def cheapest(self, start, goal, most, is_long):
         """A tuple of the price and the names of a cheapest journey to another place; None if it costs more than most.

@@ -39,7 +39,7 @@ def needed_roads(land):
         start, end = _ends_of(road)
         if bridges.cheapest(start, end, road.price, True) is None:
             found[road.name] = True
-            bridges.add(road)
+            bridges.take_in(road)
     return [road for road in land.roads if road.name in found]
 
 

@@ -68,7 +68,7 @@ class Needs:
         for road in letter.land.roads:
             row = letter.row_along([road])
             self._roads.setdefault(road.start, []).append((road, sum(row), row[1]))
-            self._pull.add(road.shift, sum(row))
+            self._pull.take_in(road.shift, sum(row))
         plain = [road for road in letter.land.roads if letter.row_along([road])[1] == 0]
         self._bridges = Bridges(plain)
 
