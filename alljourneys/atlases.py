@@ -19,7 +19,9 @@ class Atlas:
         if len(land.spots) > ATLAS_SPOTS:
             raise TooMany("spots", len(land.spots), ATLAS_SPOTS)
         self.land = land
-        self._ground = Ground(net_of(land))
+        self._net = net_of(land)
+        # The ground is made when it is asked for first, as some maps have very many loops.
+        self._grounds = []
         self._groves = {}
         self._covers = {}
         self._fans = {}
@@ -27,7 +29,9 @@ class Atlas:
     def _grove(self, start):
         """The grove from a spot, complete."""
         if start not in self._groves:
-            grove = seeded_grove(self._ground, self._ground.net.spot_numbers[start])
+            if not self._grounds:
+                self._grounds.append(Ground(self._net))
+            grove = seeded_grove(self._grounds[0], self._net.spot_numbers[start])
             self._covers[start] = covers_of(grove)
             self._fans[start] = tuple([
                 Fan(self.land.spots[stem.trail.end], stem.sheet, stem.trail.names(), stem.trail.rounds_of(stem.loops))
@@ -55,7 +59,7 @@ class Atlas:
         """The least price from place to place and the stem that has it, in a tuple; None if goal is not reached."""
         grove = self._grove(start[0])
         cell = (goal[1] - start[1], goal[2] - start[2])
-        return grove.best_at(self._ground.net.spot_numbers[goal[0]], cell)
+        return grove.best_at(self._net.spot_numbers[goal[0]], cell)
 
     def least_price(self, start, goal):
         """The least price from place to place; None if goal is not reached."""

@@ -2,12 +2,9 @@
 
 from alljourneys.checks import require_place, require_spot
 from alljourneys.errors import BadNumber, TooLarge, TooMany
-from alljourneys.forms import whole
 from alljourneys.owners import own_parts, owned
-from alljourneys.regions import quarters
-from alljourneys.searching import searched
+from alljourneys.plains import missed_cell
 from alljourneys.sheets import Sheet
-from alljourneys.takers import FREE
 
 SERVICE_LIMIT = 4
 CELL_LIMIT = 9
@@ -77,9 +74,4 @@ def unserved(atlas, services, spot):
     """A cell from whose place at a spot no service is reached; None if there is none."""
     require_spot(atlas.land, spot)
     _require_services(atlas.land, services)
-    sheets = [sheet for service in services for sheet in sheets_to(atlas, spot, service)]
-    for quarter in quarters():
-        tree, hole = searched(whole(quarter), sheets, FREE)
-        if tree is None:
-            return hole.missed_cells()[0]
-    return None
+    return missed_cell([sheet for service in services for sheet in sheets_to(atlas, spot, service)])
