@@ -38,12 +38,12 @@ def _rule_claim(rule, piece, shift):
     told = [(condition, _number(condition, piece, shift)) for condition in rule.conditions]
     numbers = [number for condition, number in told if condition[0] == "least"]
     groups = [([number], condition[4]) for condition, number in told if condition[0] == "rest"]
-    return Claim(None, numbers, [], groups)
+    return Claim(numbers, [], groups)
 
 
 def goal_claim(piece, shift):
     """The Claim that the bearing behind a shift is (0, 0)."""
-    return Claim(None, [], [reading((shift[0], 1, 0, 0), piece), reading((shift[1], 0, 1, 0), piece)], [])
+    return Claim([], [reading((shift[0], 1, 0, 0), piece), reading((shift[1], 0, 1, 0), piece)], [])
 
 
 class Telling:

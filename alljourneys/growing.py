@@ -57,18 +57,6 @@ def climbs(number):
     return (-(low // first) if first > 0 else None, -(low // second) if second > 0 else None)
 
 
-def sinks(number):
-    """How often each direction is to be taken until a number is below 0; None where it never is."""
-    low, first, second = number
-    return (low // -first + 1 if first < 0 else None, low // -second + 1 if second < 0 else None)
-
-
-def leaves(number):
-    """How often each direction is to be taken until a number that is 0, or comes nearer to it, is beyond it."""
-    low, first, second = number
-    return (abs(low) // abs(first) + 1 if first != 0 else None, abs(low) // abs(second) + 1 if second != 0 else None)
-
-
 def fewest(many):
     """The lesser one of two numbers, either of which may be None."""
     return min([number for number in many if number is not None])

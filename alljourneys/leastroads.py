@@ -35,7 +35,7 @@ def needed_roads(land):
     # The roads of a journey that makes a road needless are cheaper, and may be taken to be needed themselves.
     bridges = Bridges([])
     found = {}
-    for road in sorted(_first_roads(land), key=lambda road: road.price):
+    for road in sorted(_first_roads(land), key=lambda known: known.price):
         start, end = _ends_of(road)
         if bridges.cheapest(start, end, road.price, True) is None:
             found[road.name] = True

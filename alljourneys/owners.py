@@ -18,23 +18,6 @@ class Part:
         self.sheet = sheet
 
 
-class Rival:
-    """Another sheet than the one that is parted; cells are rather its own where it is cheaper by at least the bar."""
-
-    def __init__(self, index, gauge, owner):
-        self.index = index
-        self.gauge = gauge
-        self.bar = 1 if index > owner else 0
-
-    def claim(self, piece):
-        """What must be true where cells of a piece belong rather to the rival than to the owner."""
-        gauge = self.gauge
-        tops = [reading(form, piece) for form in gauge.tops]
-        low, first, second = reading(gauge.spare, piece)
-        offsets = [reading(form, piece) for form in gauge.offsets]
-        return Claim(self, tops + [(low - self.bar, first, second)], offsets, [(tops, gauge.many)])
-
-
 def rivals_beside(takers, owner):
     """The takers but for the owner, told by its index, dearer by 1 where cells belong to the owner for equal prices."""
     rivals = []
@@ -49,7 +32,7 @@ def _open_claim(kind, readings):
     """The Claim that a taker has cells of a piece, for at most their prices, on which it is so."""
     tops = readings[:kind.count]
     groups = [(tops, kind.many)] if kind.many > 1 else []
-    return Claim(None, [*tops, readings[2]], list(readings[kind.count:2]), groups)
+    return Claim([*tops, readings[2]], list(readings[kind.count:2]), groups)
 
 
 def _judged(piece, rivals):
@@ -68,17 +51,25 @@ def owned(sheets):
     return tuple([grown(whole(sheet), rivals_beside(takers, owner), _judged) for owner, sheet in enumerate(sheets)])
 
 
+def _claim_on(gauge, piece, is_behind):
+    """The Claim that cells of a piece belong to the sheet of a gauge: for less, if it stands behind, or for as much."""
+    tops = [reading(form, piece) for form in gauge.tops]
+    low, first, second = reading(gauge.spare, piece)
+    offsets = [reading(form, piece) for form in gauge.offsets]
+    return Claim([*tops, (low - 1 if is_behind else low, first, second)], offsets, [(tops, gauge.many)])
+
+
 def owners_hold(sheets, trees):
     """Whether any value is a tuple of one tree for each sheet whose ends tell to whom its cells belong."""
     gauges = gauges_of(sheets)
 
     def fits(owner, piece, node):
         if is_end(node, "own", 1):
-            rivals = [Rival(index, gauge, owner) for index, gauge in enumerate(gauges) if index != owner]
-            return all([rival.claim(piece).is_out() for rival in rivals])
+            return all([_claim_on(gauge, piece, index > owner).is_out() for index, gauge in enumerate(gauges)
+                        if index != owner])
         if not is_end(node, "end", 2) or not is_index(node[1], gauges) or node[1] == owner:
             return False
-        return Rival(node[1], gauges[node[1]], owner).claim(piece).is_held()
+        return _claim_on(gauges[node[1]], piece, node[1] > owner).is_held()
 
     return trees_hold([whole(sheet) for sheet in sheets], trees, fits)
 

@@ -96,7 +96,7 @@ def _judged(piece, rows):
         return (IN,), []
     numbers = [_number(row, piece) for _, row in left if row[0] == "least"]
     groups = [([_number(row, piece)], row[4]) for _, row in left if row[0] == "rest"]
-    return settling([Claim(None, numbers, [], groups)]), left
+    return settling([Claim(numbers, [], groups)]), left
 
 
 def region_holds(region, trees):

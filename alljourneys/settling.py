@@ -13,8 +13,7 @@ from alljourneys.growing import TURN, bend, climbs, is_mixed, parts_needed
 class Claim:
     """Conditions on a piece: numbers from 0 on, offsets that are 0, and groups (tops, many) of what is divisible."""
 
-    def __init__(self, key, numbers, offsets, groups):
-        self.key = key
+    def __init__(self, numbers, offsets, groups):
         self.numbers = numbers
         self.offsets = offsets
         self.groups = groups
