@@ -6,7 +6,7 @@ its changes by the two directions.
 
 from math import gcd
 
-from alljourneys.nodes import is_parting, parted
+from alljourneys.nodes import parted
 
 DIAGONAL = ("diagonal",)
 TURN = ("turn",)
@@ -29,9 +29,9 @@ class Choice:
 def grown(piece, known, judge):
     """A tree over the piece.
 
-    judge(piece, known) gives a tuple of the nodes of a piece, one end, or a node that
-    parts it, perhaps behind a turn, and what is known of the pieces into which they
-    part it.
+    judge(piece, known) gives a tuple of the nodes of a piece, and what is known of the
+    pieces behind them. The nodes are one end, and then None is known; or a node that
+    parts the piece, perhaps behind a turn.
     """
     nodes = []
     waiting = [(piece, known)]
@@ -39,9 +39,9 @@ def grown(piece, known, judge):
         here, before = waiting.pop()
         found, behind = judge(here, before)
         nodes.extend(found)
-        if len(found) == 2:
-            here = parted(here, found[0])[0]
-        if is_parting(here, found[-1]):
+        if behind is not None:
+            for node in found[:-1]:
+                here = parted(here, node)[0]
             waiting.extend([(part, behind) for part in parted(here, found[-1])[::-1]])
     return tuple(nodes)
 

@@ -63,7 +63,7 @@ def _leaves(table, goal, spot, sheet):
     def judge(piece, _):
         telling = Telling(rules, spot == goal, piece, (0, 0))
         if telling.claims:
-            return settling(telling.claims), None
+            return settling(telling.claims), ()
         return (("told", telling.answer),), None
 
     tree = grown(whole(sheet), None, judge)

@@ -39,9 +39,9 @@ def _judged(piece, rivals):
     """The nodes of a piece, and the rivals that are left behind them."""
     index, found = scanned(piece, rivals, EXACT)
     if index is not None:
-        return (("end", index),), []
+        return (("end", index),), None
     if not found:
-        return (OWN,), []
+        return (OWN,), None
     return settling([_open_claim(kind, readings) for kind, _, readings in found]), left_of(found)
 
 

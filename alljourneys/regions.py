@@ -90,10 +90,10 @@ def _judged(piece, rows):
     """The nodes of a piece, and the rows, with their indexes, that are left behind them."""
     for index, row in rows:
         if _fails_on(row, piece):
-            return (("out", index),), []
+            return (("out", index),), None
     left = [(index, row) for index, row in rows if not _holds_on(row, piece)]
     if not left:
-        return (IN,), []
+        return (IN,), None
     numbers = [_number(row, piece) for _, row in left if row[0] == "least"]
     groups = [([_number(row, piece)], row[4]) for _, row in left if row[0] == "rest"]
     return settling([Claim(numbers, [], groups)]), left

@@ -45,20 +45,18 @@ class Claim:
         """How often each direction is to be taken until some condition is not fulfilled any more; None where never."""
         first, second = None, None
         for low, one, two in self.numbers:
-            if one < 0 and two <= 0:
-                first = _lesser(first, low // -one + 1)
-            if two < 0 and one <= 0:
-                second = _lesser(second, low // -two + 1)
+            if one < 0 and two <= 0 and (first is None or low // -one < first):
+                first = low // -one
+            if two < 0 and one <= 0 and (second is None or low // -two < second):
+                second = low // -two
         for low, one, two in self.offsets:
             if one * two >= 0:
-                first = _lesser(first, abs(low) // abs(one) + 1) if one != 0 else first
-                second = _lesser(second, abs(low) // abs(two) + 1) if two != 0 else second
-        return first, second
-
-
-def _lesser(one, other):
-    """The lesser one of two numbers, the first of which may be None."""
-    return other if one is None or other < one else one
+                size = abs(low)
+                if one != 0 and (first is None or size // abs(one) < first):
+                    first = size // abs(one)
+                if two != 0 and (second is None or size // abs(two) < second):
+                    second = size // abs(two)
+        return None if first is None else first + 1, None if second is None else second + 1
 
 
 def _side_of(node, number):

@@ -32,17 +32,17 @@ class Sight:
         self._following = [table.rules_of(goal, road.end) for road in self._roads]
 
     def nodes_on(self, piece):
-        """The nodes of a piece of bearings."""
+        """The nodes of a piece of bearings, and () if they part it, otherwise None."""
         here = Telling(self.rules, self.spot == self.goal, piece, (0, 0))
         if here.claims:
-            return settling(here.claims)
+            return settling(here.claims), ()
         if not is_integer(here.answer):
-            return (("wait", here.answer, None),)
+            return (("wait", here.answer, None),), None
         road = self._roads[here.answer]
         behind = Telling(self._following[here.answer], road.end == self.goal, piece, road.shift)
         if behind.claims:
-            return settling(behind.claims)
-        return (("wait", here.answer, behind.answer),)
+            return settling(behind.claims), ()
+        return (("wait", here.answer, behind.answer),), None
 
     def pair_of(self, here, behind):
         """The names of the roads of two rules: one here, and one where its road leads."""
@@ -82,7 +82,7 @@ def _trees_of(sight):
     """A tuple of trees over the quarters that tell what is told for a goal at the places of a spot."""
     trees = []
     for quarter in quarters():
-        trees.append(grown(whole(quarter), None, lambda piece, _: (sight.nodes_on(piece), None)))
+        trees.append(grown(whole(quarter), None, lambda piece, _: sight.nodes_on(piece)))
     return tuple(trees)
 
 

@@ -5,11 +5,12 @@ stand behind these words of a line: a rule, or None if nothing may. `may_end(wor
 tells whether a line may consist of just these words. `take(words)` is told each
 line with words. A rule is one of
 - ("one", words): one of these words;
+- ("number", first, last): one of the decimal numbers from first to last;
 - ("name", longest, dots): a name of at most so many characters, with dots or without;
 - ("new", longest, dots, taken): such a name that is not in the dict taken.
 """
 
-from alljourneys.checks import goes_on
+from alljourneys.checks import goes_on, is_letter
 from alljourneys.errors import BadText
 
 NAME = ("name", 40, True)
@@ -26,7 +27,7 @@ def one_of(words):
 
 def numbers(first, last):
     """The rule for the decimal numbers from first to last."""
-    return ("one", tuple([str(number) for number in range(first, last + 1)]))
+    return ("number", first, last)
 
 
 def new_name(taken, dots):
@@ -53,12 +54,39 @@ def _read_name(line, at, longest, dots):
     return end, end > at and line[end - 1] != "."
 
 
+def _is_short_number(word, first, last):
+    """Whether a word is a number from first to last without a sign, if this is plain to see."""
+    if not word.isascii() or not word.isdigit() or len(word) > 2:
+        return False
+    return str(int(word)) == word and first <= int(word) <= last
+
+
+def _is_plain_name(word, longest):
+    """Whether a word is a name of at most so many characters without dots."""
+    return word.isascii() and word.isalnum() and word.islower() and is_letter(word[0]) and len(word) <= longest
+
+
+def _fits(word, rule):
+    """Whether a word is right by the rule, if this is plain to see; most words are, so no more is read of them."""
+    if rule[0] == "one":
+        return word in rule[1]
+    if rule[0] == "number":
+        return _is_short_number(word, rule[1], rule[2])
+    return _is_plain_name(word, rule[1]) and (rule[0] == "name" or word not in rule[3])
+
+
 def _read_word(line, at, rule):
     """How far a word by the rule goes on in the line from a place on, and whether it is whole there."""
     if rule is None:
         return at, False
+    stop = line.find(" ", at)
+    word = line[at:] if stop < 0 else line[at:stop]
+    if _fits(word, rule):
+        return at + len(word), True
     if rule[0] == "one":
         return _read_choice(line, at, rule[1])
+    if rule[0] == "number":
+        return _read_choice(line, at, [str(number) for number in range(rule[1], rule[2] + 1)])
     end, is_whole = _read_name(line, at, rule[1], rule[2])
     if rule[0] == "new" and line[at:end] in rule[3]:
         return end, False

@@ -12,7 +12,7 @@ BUILTINS = set("""len range enumerate zip min max sum abs sorted reversed int st
 isinstance ord repr any all staticmethod divmod ValueError TypeError KeyError Exception""".split())
 VALUE_METHODS = set("""append clear copy count endswith extend find get index insert isalnum isalpha isdigit islower
 isspace isupper items join keys ljust lower lstrip partition pop remove replace reverse rfind rjust rpartition rsplit
-rstrip setdefault split splitlines startswith strip update upper values zfill bit_length add discard""".split())
+rstrip setdefault split splitlines startswith strip update upper values zfill bit_length add discard isascii""".split())
 DUNDERS = set("__init__ __eq__ __contains__ __and__ __enter__ __exit__ __len__ __iter__".split())
 BARRED_NAMES = set("""register mro elements open input law version_info with_traceback add_note attrgetter breakpoint
 builtins compile copyright credits delattr dir eval exec exit gc getattr globals hasattr help id importlib license
