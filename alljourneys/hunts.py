@@ -22,32 +22,30 @@ class Course:
         self.line = line
         self.bottom = bottom
         self.band = band
+        self._p, self._q = self.steps[0] if rays else (0, 0)
+        # A single step is one of two that are square to each other; the other one is never taken.
+        self._s, self._t = self.steps[1] if len(rays) == 2 else (-self._q, self._p)
+        self._size = self._p * self._t - self._q * self._s
 
     def folded(self, x, y):
         """The first one of the cells that are alike; None if it is outside the band beside the only step."""
-        if not self.steps:
-            return (x, y)
-        p, q = self.steps[0]
-        if len(self.steps) == 1:
-            if not self.band[0] <= p * y - q * x <= self.band[1]:
+        if self._size == 0:
+            return x, y
+        times, side = (self._t * x - self._s * y) // self._size, self._p * y - self._q * x
+        if self.band is not None:
+            if not self.band[0] <= side <= self.band[1]:
                 return None
-            times = (p * x + q * y) // (p * p + q * q)
-            return (x - times * p, y - times * q)
-        s, t = self.steps[1]
-        size = p * t - q * s
-        one, two = (t * x - s * y) // size, (p * y - q * x) // size
-        return (x - one * p - two * s, y - one * q - two * t)
+            return x - times * self._p, y - times * self._q
+        more = side // self._size
+        return x - times * self._p - more * self._s, y - times * self._q - more * self._t
 
     def cost(self, link):
         """What a link costs."""
         return self.bottom * link.price - self.line[0] * link.shift[0] - self.line[1] * link.shift[1]
 
-    def flags(self, spot, before):
-        """Which rays can be put in at this spot, or could before, as bits."""
-        for at, mask in enumerate(self.masks):
-            if mask & (1 << spot) != 0:
-                before |= 1 << at
-        return before
+    def flags(self, spot):
+        """Which rays can be put in at this spot, as bits."""
+        return sum([1 << at for at, mask in enumerate(self.masks) if mask & (1 << spot) != 0])
 
 
 PLAIN = (0, 0)
@@ -105,51 +103,53 @@ class Hunt:
         self.course = course
         self.prices = {}
         self._costs = {}
-        self._links = [[(link, course.cost(link)) for link in links if mask & (1 << link.end) != 0]
-                       for links in net.links_from]
-        heights = self._heights() if course.steps else [0 for _ in net.spots]
-        first = (start, 0, 0, course.flags(start, 0))
-        self._back = {first: None}
+        self._back = {}
+        links = [[link for link in links if mask & (1 << link.end) != 0] for links in net.links_from]
+        heights = self._heights(links) if course.steps else [0 for _ in net.spots]
+        ways = [[(link, link.end, *link.shift, course.cost(link) + heights[spot] - heights[link.end], link.price)
+                 for link in row] for spot, row in enumerate(links)]
+        self._search(ways, heights, [course.flags(spot) for spot in range(len(net.spots))], limit)
+
+    def _search(self, ways, heights, gates, limit):
+        """Find the stops; gates are the flags of the spots."""
+        first = (self.start, 0, 0, gates[self.start])
+        self._back[first] = None
         best = {first: (0, 0)}
         queue = [(0, 0, first)]
         while queue and len(self.prices) < limit:
             cost, price, stop = heappop(queue)
             if stop in self.prices:
                 continue
+            spot, x, y, flags = stop
             self.prices[stop] = price
-            self._costs[stop] = cost + heights[stop[0]]
-            for link, more in self._links[stop[0]]:
-                there = self._behind(stop, link)
-                if there is None:
+            self._costs[stop] = cost + heights[spot]
+            for link, end, p, q, more, toll in ways[spot]:
+                cell = self.course.folded(x + p, y + q)
+                if cell is None:
                     continue
-                far = (cost + more + heights[stop[0]] - heights[link.end], price + link.price)
+                there = (end, *cell, flags | gates[end])
+                far = (cost + more, price + toll)
                 if there not in best or far < best[there]:
                     best[there] = far
                     self._back[there] = (stop, link)
-                    heappush(queue, (far[0], far[1], there))
+                    heappush(queue, (*far, there))
 
-    def _heights(self):
+    def _heights(self, links):
         """For each spot the least cost of a way there, cells left aside: with these, no link costs less than 0."""
-        heights = [0 for _ in self._links]
+        heights = [0 for _ in links]
         seen = {self.start: 0}
         is_changed = True
         while is_changed:
             is_changed = False
             for spot in list(seen):
-                for link, cost in self._links[spot]:
-                    if link.end not in seen or seen[spot] + cost < seen[link.end]:
-                        seen[link.end] = seen[spot] + cost
+                for link in links[spot]:
+                    cost = seen[spot] + self.course.cost(link)
+                    if link.end not in seen or cost < seen[link.end]:
+                        seen[link.end] = cost
                         is_changed = True
         for spot, cost in seen.items():
             heights[spot] = cost
         return heights
-
-    def _behind(self, stop, link):
-        """The stop behind a link; None if it is out of reach."""
-        cell = self.course.folded(stop[1] + link.shift[0], stop[2] + link.shift[1])
-        if cell is None:
-            return None
-        return (link.end, cell[0], cell[1], self.course.flags(link.end, stop[3]))
 
     def far_end(self, stop, times):
         """The cell and the price behind the trail to a stop, with each ray of the course put in so many times more."""
