@@ -5,8 +5,9 @@ from alljourneys.forms import Gauge, is_broken, is_divided, reading, stays_low, 
 from alljourneys.growing import grown
 from alljourneys.nodes import ends_of, is_end, is_index, trees_hold
 from alljourneys.pieced import sheet_of
-from alljourneys.settling import Claim, settling
+from alljourneys.settling import Claim
 from alljourneys.sheets import Sheet
+from alljourneys.weighing import weighed
 
 IN = ("in",)
 
@@ -96,7 +97,7 @@ def _judged(piece, rows):
         return (IN,), None
     numbers = [_number(row, piece) for _, row in left if row[0] == "least"]
     groups = [([_number(row, piece)], row[4]) for _, row in left if row[0] == "rest"]
-    return settling([Claim(numbers, [], groups)]), left
+    return (weighed(Claim(numbers, [], groups)),), left
 
 
 def region_holds(region, trees):

@@ -9,6 +9,9 @@ from math import gcd
 from alljourneys.forms import is_broken, is_divided, is_naught, stays_low, stays_up
 from alljourneys.growing import TURN, bend, climbs, is_mixed, parts_needed
 
+# Where a claim ends behind some strips, to part the piece for it is put off: so much more it is taken to cost.
+WAIT = 3
+
 
 class Claim:
     """Conditions on a piece: numbers from 0 on, offsets that are 0, and groups (tops, many) of what is divisible."""
@@ -66,23 +69,21 @@ def _side_of(node, number):
     return 1, ("parts", abs(number[1]) // gcd(number[1], number[2]))
 
 
-def _lasting(claim, crowd, along):
+def _parting(claim, crowd):
+    """The choices to part so that what is to be divisible is so, or never is."""
+    needed = [parts_needed(tops, many) for tops, many in claim.groups]
+    sides = [(first, second, 0 if first > 1 else 1) for first, second in needed if (first, second) != (1, 1)]
+    return [(first * second * crowd, side, ("parts", second if side == 1 else first)) for first, second, side in sides]
+
+
+def _lasting(claim, along):
     """The choices for a claim that goes on without end: by which node one comes nearer to knowing where it holds."""
-    bending = [number for number in claim.numbers + claim.offsets if is_mixed(number)]
-    if bending:
-        found = [(bend(number), number) for number in bending]
-        return [(choice.toil, *_side_of(choice.node, number)) for choice, number in found]
-    choices = []
-    for tops, many in claim.groups:
-        needed = parts_needed(tops, many)
-        if needed != (1, 1):
-            side = 0 if needed[0] > 1 else 1
-            choices.append((needed[0] * needed[1] * crowd, side, ("parts", needed[side])))
+    bending = [(bend(number), number) for number in claim.numbers + claim.offsets if is_mixed(number)]
+    choices = [(choice.toil, *_side_of(choice.node, number)) for choice, number in bending]
     for number in claim.numbers:
-        if number[0] < 0:
-            for side, many in enumerate(climbs(number)):
-                if many is not None:
-                    choices.append((many * along[1 - side], side, ("peel", many)))
+        if number[0] < 0 and not is_mixed(number):
+            choices.extend([(many * along[1 - side], side, ("peel", many)) for side, many in enumerate(climbs(number))
+                            if many is not None])
     return choices
 
 
@@ -101,7 +102,9 @@ def settling(claims):
              2 + len([True for first, second in ends if second is None and first is not None])]
     choices = [(strips[side] * along[1 - side], side, ("peel", strips[side])) for side in (0, 1) if strips[side] > 0]
     for claim, (first, second) in zip(claims, ends):
+        crowd = 2 + len(claims)
+        choices.extend(_parting(claim, crowd if first is None and second is None else WAIT * crowd))
         if first is None and second is None:
-            choices.extend(_lasting(claim, 2 + len(claims), along))
+            choices.extend(_lasting(claim, along))
     _, side, node = min(choices)
     return (TURN, node) if side == 1 else (node,)
