@@ -307,7 +307,7 @@ class PostTest(unittest.TestCase):
                     if wrong != (goal, posts, steps, covers) and not (wrong[2] == () and len(posts) == 1):
                         self.assertFalse(posts_hold(back, Posts(*wrong)), wrong)
             self.assertFalse(posts_hold(back, Posts(goal, list(posts), steps, covers)))
-            self.assertFalse(posts_hold(back, Posts(goal, posts[::-1], steps, covers)))
+            self.assertIs(posts_hold(back, Posts(goal, posts[::-1], steps, covers)), len(posts) == 1)
             first = Post(goal, Sheet((0, 0), 0), None)
             for wrong in (Post(goal, Sheet((0, 0), 1), None), Post(goal, Sheet((0, 0), -1), None),
                           Post(goal, Sheet((0, 1), 0), None), Post(goal, Sheet((0, 0), 0, ((1, 0),), (1,)), None),
