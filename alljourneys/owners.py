@@ -9,6 +9,9 @@ from alljourneys.takers import EXACT, left_of, scanned, takers_of
 
 OWN = ("own",)
 
+# A node is chosen by so many rivals; to heed more of them takes longer, and makes the trees no smaller.
+HEED = 8
+
 
 class Part:
     """The cells of a piece, with their least prices, and the index of the sheet that they belong to."""
@@ -42,7 +45,8 @@ def _judged(piece, rivals):
         return (("end", index),), None
     if not found:
         return (OWN,), None
-    return settling([_open_claim(kind, readings) for kind, _, readings in found]), left_of(found)
+    claims = [_open_claim(kind, readings) for kind, _, readings in found[:HEED]]
+    return settling(claims), left_of(found)
 
 
 def owned(sheets):
