@@ -130,6 +130,11 @@ def has_piece(sheet, other, base, directions, strict=False):
     return stays_above(price, 0) and (price[0] > 0 or not strict)
 
 
+def deepened(tree, at, many):
+    """A tree in the place of whose end with this index stand so many nodes, one within another, with the same end."""
+    return tree[:at] + (("peel", 1), tree[at]) * many + tree[at:]
+
+
 def changed_trees(random, tree, many):
     """Trees with one node changed, left out, doubled or added."""
     odd = [("end", 0), ("end", 1), ("peel", 1), ("peel", 0), ("peel", True), ("parts", 2), ("parts", 1), ("diagonal",),

@@ -11,7 +11,7 @@ from alljourneys.sheets import Sheet
 from alljourneys.tables import Table
 
 from atlas_lands import some_land
-from helpers import ODD_VALUES, Odd, ahead, changed_trees, has_piece, leaves
+from helpers import ODD_VALUES, Odd, ahead, changed_trees, deepened, has_piece, leaves
 from lands import error_of
 from tables import behind, random_table, sections_of, told
 
@@ -231,6 +231,27 @@ class LossTest(unittest.TestCase):
             if node[0] == "go":
                 yield tree[:at] + (("peel", 1), node, node) + tree[at + 1:]
 
+    def test_deep(self):
+        """[84] Trees 1,200 nodes deep."""
+        table, back = Table(GRID, STRAIGHT), Atlas(turned(GRID))
+        good = loss(table, back).guide
+        trees = good.trees[0][0]
+        found = 0
+        for number, tree in enumerate(trees):
+            for at in [at for at, node in enumerate(tree) if node[0] == "go"]:
+                deep = deepened(tree, at, 1200)
+                guide = Guide(good.most, ((trees[:number] + (deep,) + trees[number + 1:],),))
+                if guide_holds(table, back, guide):
+                    found += 1
+                    wrong = deep[:2000] + (("go", 9, 9),) + deep[2001:]
+                    guide = Guide(good.most, ((trees[:number] + (wrong,) + trees[number + 1:],),))
+                    self.assertFalse(guide_holds(table, back, guide))
+                else:
+                    # The piece has no direction by which it could be peeled.
+                    guide = Guide(good.most, ((trees[:number] + (deepened(tree, at, 1),) + trees[number + 1:],),))
+                    self.assertFalse(guide_holds(table, back, guide))
+        self.assertGreater(found, 3)
+
     def test_errors(self):
         """[84] [85] Unlike for an atlas of any other map than the turned one."""
         table = Table(GRID, STRAIGHT)
@@ -333,6 +354,22 @@ class PostTest(unittest.TestCase):
                     row = trees[:number] + (other,) + trees[number + 1:]
                     changed = Posts(good.goal, good.posts, good.steps, good.covers[:at] + (row,) + good.covers[at + 1:])
                     self.assertIs(posts_hold(back, changed), posts_are_right(back, land, changed))
+
+    def test_deep(self):
+        """[86] Trees 1,200 nodes deep."""
+        back = Atlas(turned(GRID))
+        good = posts_of(back, "a")
+        found = 0
+        for number, tree in enumerate(good.covers[0]):
+            deep = deepened(tree, len(tree) - 1, 1200)
+            covers = (good.covers[0][:number] + (deep,) + good.covers[0][number + 1:],)
+            found += posts_hold(back, Posts(good.goal, good.posts, good.steps, covers))
+            covers = (good.covers[0][:number] + (deep[:-1] + (("end", -1),),) + good.covers[0][number + 1:],)
+            self.assertFalse(posts_hold(back, Posts(good.goal, good.posts, good.steps, covers)))
+        for number, tree in enumerate(good.steps):
+            steps = good.steps[:number] + (deepened(tree, 0, 1200),) + good.steps[number + 1:]
+            found += posts_hold(back, Posts(good.goal, good.posts, steps, good.covers))
+        self.assertGreater(found, 7)
 
     def test_errors(self):
         """[87] A goal that is no spot."""

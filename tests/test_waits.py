@@ -11,7 +11,7 @@ from alljourneys.tables import Table
 from alljourneys.waits import Waits, waits_hold, waits_of
 
 from atlas_lands import EDGES, many_lands, some_land
-from helpers import ODD_VALUES, Odd, changed_trees
+from helpers import ODD_VALUES, Odd, changed_trees, deepened
 from lands import error_of, prices_from
 from tables import behind, random_table, sections_of, told
 from test_guides import GRID, STRAIGHT, condition_on, is_count, rule_fits, tree_is_right
@@ -270,6 +270,18 @@ class WaitsTest(unittest.TestCase):
                         self.assertIs(waits_hold(table, waits), right, (tree, other))
                         found[right] += 1
         self.assertGreater(min(found.values()), 10)
+
+    def test_deep(self):
+        """[91] Trees 1,200 nodes deep."""
+        table = Table(GRID, "goal a\nat a go r")
+        good = waits_of(table)
+        self.assertEqual([pair[:2] for pair in good.pairs], [("r", "r")])
+        plain = (("wait", 0, 0),)
+        deep = deepened(plain, 0, 1200)
+        for tree, holds in ((plain, True), (deep, True), (deep[:-1], False), (deep + plain, False),
+                            (deep[:-1] + (("wait", 0, 1),), False)):
+            waits = Waits(good.land, good.pairs, (((plain, tree, plain, plain),),))
+            self.assertIs(waits_hold(table, waits), holds)
 
     def test_errors(self):
         """[91] The errors of map_of for the map of waits."""
